@@ -1,0 +1,115 @@
+"""Units: texts of a word and numbers, and their order."""
+
+from rowvault.checks import is_whole_from
+from rowvault.errors import BadCount, BadUnit
+from rowvault.words import Words, is_whole_text, whole_of
+
+# The words, in order.
+UNIT_WORDS = ("journal", "block", "page", "cell", "bucket", "parity")
+NUMBERS = {"journal": 0, "block": 1, "page": 1, "cell": 2, "bucket": 1, "parity": 2}
+MOST = 99
+
+
+def is_unit(value):
+    """Whether any value is a unit."""
+    if not isinstance(value, str):
+        return False
+    word, *texts = value.split(" ")
+    if word not in UNIT_WORDS or len(texts) != NUMBERS[word]:
+        return False
+    if not all([is_whole_text(text) for text in texts]):
+        return False
+    return all([is_number(word, at, whole_of(text)) for at, text in enumerate(texts)])
+
+
+def is_number(word, at, value):
+    """Whether any value can stand as the number at an index behind the word."""
+    low = 1 if word == "cell" and at == 0 else 0
+    return is_whole_from(value, low, MOST)
+
+
+def unit_of(word, *numbers):
+    """The unit of a word and numbers."""
+    if not isinstance(word, str) or word not in UNIT_WORDS:
+        raise BadUnit(word)
+    for at, number in enumerate(numbers):
+        if not is_number(word, at, number):
+            raise BadUnit(number)
+    if len(numbers) != NUMBERS[word]:
+        raise BadCount(len(numbers))
+    return " ".join([word, *[str(number) for number in numbers]])
+
+
+def unit_parts(unit):
+    """The word of a unit and the tuple of its numbers."""
+    if not is_unit(unit):
+        raise BadUnit(unit)
+    word, *texts = unit.split(" ")
+    return word, tuple([int(text) for text in texts])
+
+
+def rank(word, numbers):
+    """An integer by which units are in order; the first unit has 0."""
+    first, second = [*numbers, 0, 0][:2]
+    return (UNIT_WORDS.index(word) * (MOST + 1) + first) * (MOST + 1) + second
+
+
+def rank_of(unit):
+    """The rank of a unit."""
+    word, numbers = unit_parts(unit)
+    return rank(word, numbers)
+
+
+def in_order(units):
+    """The tuple of the units, in order, each once."""
+    if not isinstance(units, (list, tuple)):
+        raise BadUnit(None)
+    for unit in units:
+        if not is_unit(unit):
+            raise BadUnit(unit)
+    ranked = {rank_of(unit): unit for unit in units}
+    return tuple([ranked[at] for at in sorted([int(at) for at in ranked])])
+
+
+def units_text(units):
+    """The text of the units, in order, each once."""
+    ordered = in_order(units)
+    return " , ".join(ordered) if ordered else "-"
+
+
+def read_units(text):
+    """The tuple of units with this text."""
+    words = Words(text)
+    units = take_units(words)
+    words.end()
+    return units
+
+
+def take_units(words):
+    """The tuple of units that the next words tell."""
+    if words.peek() == "-":
+        words.take()
+        return ()
+    units = [take_unit(words)]
+    while words.peek() == ",":
+        words.take()
+        units.append(take_unit(words, rank_of(units[-1])))
+    return tuple(units)
+
+
+def take_unit(words, after=-1):
+    """The unit that the next words tell; its last word must bring it behind the rank after."""
+    # The journal has one word alone, and is behind no other unit.
+    word = words.take_one([name for name in UNIT_WORDS if name != "journal" or after < 0])
+    numbers = []
+    for _ in range(NUMBERS[word]):
+        choices = [number for number in range(MOST + 1) if can_stand(word, [*numbers, number], after)]
+        numbers.append(int(words.take_one([str(number) for number in choices])))
+    return " ".join([word, *[str(number) for number in numbers]])
+
+
+def can_stand(word, numbers, after):
+    """Whether the last of the numbers can stand, the unit, if it is whole, having a rank above after."""
+    if not is_number(word, len(numbers) - 1, numbers[-1]):
+        return False
+    return len(numbers) < NUMBERS[word] or rank(word, numbers) > after

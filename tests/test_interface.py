@@ -1,0 +1,109 @@
+"""The interface: each name, argument, method and property stands where the document lists it."""
+
+import importlib
+import inspect
+import unittest
+
+FUNCTIONS = {
+    "units": {
+        "is_unit": "(value)", "unit_of": "(word, *numbers)", "unit_parts": "(unit)", "in_order": "(units)",
+        "units_text": "(units)", "read_units": "(text)",
+    },
+    "told": {
+        "told": "(layout, units, question, bare=None)", "told_part": "(layout, units, bare=None)",
+        "beside": "(layout, units, question, table, bare=None)", "work_out": "(paper, answers)",
+    },
+    "look_told": {
+        "shows_told": "(layout, units, question, value, bare=None)",
+        "shows_parted": "(layout, units, question, value, bare=None)",
+    },
+}
+CLASSES = {
+    "shapes": {"Shape": ("(keys, days)", "index_of read len iter contains getitem or le lt eq str", "")},
+    "parts": {"Part": ("(shape, *places)", """whole none of_keys of_days read len bool iter contains getitem and or sub xor
+                       invert le lt eq str""", "")},
+    "tables": {"Table": ("(shape, amounts=None)", """of with_amount read getitem len iter bool add sub neg mul rmul and eq
+                         str""", "")},
+    "questions": {"Question": ("(shape, weights)", """of none lowest read call bool iter getitem add sub neg mul rmul and
+                               xor eq str""", "")},
+    "spans": {"Span": ("(shape, *questions)", """weigh directions direction_for told_part len iter contains add and le lt
+                       eq""", "shape given rows"), "Weighed": ("(bottom, weights)", "eq", "")},
+    "cuts": {"Cut": (None, "read call eq str", ""), "Every": ("(size)", "call eq str", ""),
+             "Leads": (None, "call eq str", ""), "Sizes": ("(*sizes)", "call eq str", "")},
+    "kinds": {"Kind": (None, "read units_on eq str", ""), "Blocks": ("(cut, order='keys')", "units_on eq str", ""),
+              "Pages": ("(room)", "units_on eq str", ""), "Cells": ("(base)", "units_on eq str", ""),
+              "Buckets": ("(width)", "units_on eq str", ""),
+              "Stripes": ("(width, parities=1)", "units_on eq str", "")},
+    "layouts": {"Layout": ("(shape, *kinds)", """touched_by answers span_of read getitem contains len iter add sub le lt
+                           eq str""", "shape kinds units")},
+    "told": {"Told": ("(bottom, weights)", "eq", ""), "Parted": ("(one, other)", "bool eq", "")},
+}
+ARGUMENTS = {
+    "Shape.index_of": "(self, place)", "Shape.read": "(text)", "Part.read": "(text, shape)",
+    "Part.whole": "(shape)", "Part.none": "(shape)", "Part.of_keys": "(shape, *keys)",
+    "Part.of_days": "(shape, first, after)", "Table.of": "(shape, *rows)", "Table.read": "(text, shape)",
+    "Table.with_amount": "(self, place, amount)", "Question.of": "(part)", "Question.none": "(shape)",
+    "Question.lowest": "(self)", "Question.__call__": "(self, table)", "Question.read": "(text, shape)",
+    "Span.weigh": "(self, question)", "Span.directions": "(self)", "Span.direction_for": "(self, question)",
+    "Span.told_part": "(self)", "Cut.read": "(text)", "Every.__call__": "(self, shape, order='keys')",
+    "Leads.__call__": "(self, shape, order='keys')", "Sizes.__call__": "(self, shape, order='keys')",
+    "Kind.read": "(text)", "Blocks.units_on": "(self, shape, blocks=None)",
+    "Pages.units_on": "(self, shape, blocks=None)", "Cells.units_on": "(self, shape, blocks=None)",
+    "Buckets.units_on": "(self, shape, blocks=None)", "Stripes.units_on": "(self, shape, blocks=None)",
+    "Layout.touched_by": "(self, place)", "Layout.answers": "(self, units=None)", "Layout.span_of": "(self, units)",
+    "Layout.read": "(text)",
+}
+PLAIN = ["index_of", "whole", "none", "of_keys", "of_days", "read", "of", "with_amount", "lowest", "weigh", "directions",
+         "direction_for", "told_part", "units_on", "touched_by", "answers", "span_of"]
+STATIC = ["Part.whole", "Part.none", "Part.of_keys", "Part.of_days", "Table.of", "Question.of", "Question.none"]
+
+
+def module(name):
+    return importlib.import_module(f"rowvault.{name}")
+
+
+class Interface(unittest.TestCase):
+    def test_functions(self):
+        for name, functions in FUNCTIONS.items():
+            for word, arguments in functions.items():
+                one = getattr(module(name), word)
+                self.assertEqual(one.__module__, f"rowvault.{name}")
+                self.assertEqual(str(inspect.signature(one)), arguments)
+
+    def test_classes(self):
+        for name, classes in CLASSES.items():
+            for word, (arguments, methods, properties) in classes.items():
+                one = getattr(module(name), word)
+                self.assertEqual(one.__module__, f"rowvault.{name}")
+                if arguments is not None:
+                    self.assertEqual(str(inspect.signature(one)), arguments)
+                for method in methods.split():
+                    self.assertIn(method if method in PLAIN else f"__{method}__", vars(one), word)
+                for method in properties.split():
+                    self.assertIsInstance(vars(one)[method], property)
+
+    def test_arguments(self):
+        for word, arguments in ARGUMENTS.items():
+            class_name, method = word.split(".")
+            found = [getattr(module(name), class_name) for name in CLASSES if class_name in CLASSES[name]]
+            self.assertEqual(str(inspect.signature(getattr(found[0], method))), arguments, word)
+            own = vars(found[0])[method]
+            self.assertEqual(isinstance(own, classmethod), method == "read")
+            self.assertEqual(isinstance(own, staticmethod), word in STATIC)
+
+    def test_bases(self):
+        cuts, kinds = module("cuts"), module("kinds")
+        for one in (cuts.Every, cuts.Leads, cuts.Sizes):
+            self.assertTrue(issubclass(one, cuts.Cut))
+        for one in (kinds.Blocks, kinds.Pages, kinds.Cells, kinds.Buckets, kinds.Stripes):
+            self.assertTrue(issubclass(one, kinds.Kind))
+
+    def test_class_values(self):
+        kinds = module("kinds")
+        made = [kinds.Blocks, kinds.Pages, kinds.Cells, kinds.Buckets, kinds.Stripes]
+        self.assertEqual([vars(one)["WORD"] for one in made], ["block", "page", "cell", "bucket", "parity"])
+        self.assertEqual(module("layouts").Layout.MOST, 60)
+
+
+if __name__ == "__main__":
+    unittest.main()
