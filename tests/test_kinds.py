@@ -125,6 +125,9 @@ class Made(Case):
                     self.assertEqual(kind(number), kind(number))
                 else:
                     self.raises(BadCount(number), kind, number)
+        for number in (-1, 0, 3, 4):
+            self.raises(BadCount(number), Stripes, 2, number)
+        self.assertEqual([Stripes(2, 1).parities, Stripes(2, 2).parities], [1, 2])
 
     def test_equal(self):
         kinds = [*ALL_BLOCKS, Pages(1), Pages(2), Cells(2), Cells(3), Buckets(1), Buckets(2), Stripes(2), Stripes(2, 2),
