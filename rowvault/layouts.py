@@ -33,6 +33,12 @@ class Layout:
         """The shape."""
         return self._shape
 
+    # Other classes have attributes of these names, so the properties have setters, which refuse.
+    @shape.setter
+    def shape(self, value):
+        """A layout never changes."""
+        raise AttributeError("a layout never changes")
+
     @property
     def kinds(self):
         """The tuple of the kinds, in the order of their units."""
@@ -42,6 +48,11 @@ class Layout:
     def units(self):
         """The tuple of all units, in order."""
         return self._units
+
+    @units.setter
+    def units(self, value):
+        """A layout never changes."""
+        raise AttributeError("a layout never changes")
 
     def touched_by(self, place):
         """The tuple of the units with an answer that hangs on the amount of a place."""

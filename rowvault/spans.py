@@ -41,10 +41,21 @@ class Span:
         """The shape of all questions."""
         return self._shape
 
+    # Other classes have attributes of these names, so the properties have setters, which refuse.
+    @shape.setter
+    def shape(self, value):
+        """A span never changes."""
+        raise AttributeError("a span never changes")
+
     @property
     def given(self):
         """The tuple of the questions handed in."""
         return self._given
+
+    @given.setter
+    def given(self, value):
+        """A span never changes."""
+        raise AttributeError("a span never changes")
 
     @property
     def rows(self):

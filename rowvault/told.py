@@ -32,16 +32,32 @@ class Parted:
         return isinstance(other, Parted) and self.one == other.one and self.other == other.other
 
 
+class Teller:
+    """What some units in order tell, some places being bare: reckoned once, for any questions."""
+
+    def __init__(self, layout, units, bare):
+        self._shape = layout.shape
+        self._filled = ~bare
+        self._answer_keys = [key for key, answer in layout.answers(units)]
+        self._span = span_but(layout, units, bare)
+
+    def tells(self, question):
+        """Whether the units tell a question."""
+        return question & self._filled in self._span
+
+    def paper_on(self, question):
+        """A Told of a question, or a Parted."""
+        weighed = self._span.weigh(question & self._filled)
+        if weighed is None:
+            return Parted(Table(self._shape), self._span.direction_for(question & self._filled))
+        pairs = [(key, weight) for key, weight in zip(self._answer_keys, weighed.weights) if weight != 0]
+        return Told(weighed.bottom, {key: weight for key, weight in pairs})
+
+
 def told(layout, units, question, bare=None):
     """A Told of the question by the units, or a Parted."""
     some, none = asked_of(layout, units, question, bare)
-    pairs = list(layout.answers(some))
-    span = span_but(layout, some, none)
-    weighed = span.weigh(question & ~none)
-    if weighed is None:
-        return Parted(Table(layout.shape), span.direction_for(question & ~none))
-    weights = [(key, weight) for (key, answer), weight in zip(pairs, weighed.weights) if weight != 0]
-    return Told(weighed.bottom, {key: weight for key, weight in weights})
+    return Teller(layout, some, none).paper_on(question)
 
 
 def told_part(layout, units, bare=None):

@@ -37,7 +37,7 @@ def unit_of(word, *numbers):
             raise BadUnit(number)
     if len(numbers) != NUMBERS[word]:
         raise BadCount(len(numbers))
-    return " ".join([word, *[str(number) for number in numbers]])
+    return text_of(word, numbers)
 
 
 def unit_parts(unit):
@@ -90,26 +90,38 @@ def take_units(words):
     if words.peek() == "-":
         words.take()
         return ()
-    units = [take_unit(words)]
+    return take_some_units(words, ())
+
+
+def take_some_units(words, taken):
+    """The tuple of units, at least one and none of those taken, that the next words tell."""
+    units = [take_unit(words, -1, taken)]
     while words.peek() == ",":
         words.take()
-        units.append(take_unit(words, rank_of(units[-1])))
+        units.append(take_unit(words, rank_of(units[-1]), taken))
     return tuple(units)
 
 
-def take_unit(words, after=-1):
-    """The unit that the next words tell; its last word must bring it behind the rank after."""
+def take_unit(words, after, taken):
+    """The unit that the next words tell; its last word must bring it behind the rank after, and to none taken."""
     # The journal has one word alone, and is behind no other unit.
-    word = words.take_one([name for name in UNIT_WORDS if name != "journal" or after < 0])
+    word = words.take_one([name for name in UNIT_WORDS if NUMBERS[name] > 0 or can_stand(name, [], after, taken)])
     numbers = []
     for _ in range(NUMBERS[word]):
-        choices = [number for number in range(MOST + 1) if can_stand(word, [*numbers, number], after)]
+        choices = [number for number in range(MOST + 1) if can_stand(word, [*numbers, number], after, taken)]
         numbers.append(int(words.take_one([str(number) for number in choices])))
-    return " ".join([word, *[str(number) for number in numbers]])
+    return text_of(word, numbers)
 
 
-def can_stand(word, numbers, after):
-    """Whether the last of the numbers can stand, the unit, if it is whole, having a rank above after."""
-    if not is_number(word, len(numbers) - 1, numbers[-1]):
+def can_stand(word, numbers, after, taken):
+    """Whether the last word can stand, the unit, if it is whole, having a rank above after and being none taken."""
+    if numbers and not is_number(word, len(numbers) - 1, numbers[-1]):
         return False
-    return len(numbers) < NUMBERS[word] or rank(word, numbers) > after
+    if len(numbers) < NUMBERS[word]:
+        return True
+    return rank(word, numbers) > after and text_of(word, numbers) not in taken
+
+
+def text_of(word, numbers):
+    """The text of the unit of a word and numbers."""
+    return " ".join([word, *[str(number) for number in numbers]])

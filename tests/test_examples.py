@@ -38,9 +38,12 @@ class Examples(unittest.TestCase):
             below = lines[at + 1] if at + 1 < len(lines) else ">>> "
             expected = None if below.startswith(">>> ") else below
             with self.subTest(line=line):
-                self.assertEqual(outcome(line[4:], names), expected)
+                told = outcome(line[4:], names)
+                # Where the document tells no fields of an error, its class counts.
+                bare = expected is not None and expected.startswith("raises ") and "(" not in expected
+                self.assertEqual(told.split("(")[0] if bare else told, expected)
             done += 1
-        self.assertGreater(done, 60)
+        self.assertGreater(done, 105)
 
 
 if __name__ == "__main__":

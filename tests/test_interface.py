@@ -17,7 +17,39 @@ FUNCTIONS = {
         "shows_told": "(layout, units, question, value, bare=None)",
         "shows_parted": "(layout, units, question, value, bare=None)",
     },
+    "readings": {
+        "musts": "(layout, question, bare=None, units=None)", "readings": "(layout, question, bare=None, units=None)",
+        "partings": "(layout, question, bare=None, units=None)", "reading_of": "(layout, units, question, bare=None)",
+        "parting_of": "(layout, units, question, bare=None)",
+        "least_reading": "(layout, question, price, bare=None, units=None)",
+        "least_behind": "(layout, question, price, many)",
+    },
+    "look_readings": {
+        "shows_reading": "(layout, units, question, value, bare=None)",
+        "shows_parting": "(layout, units, question, value, bare=None)",
+        "shows_cheapest": "(layout, question, price, value, bare=None, units=None)",
+        "shows_behind": "(layout, question, price, many, value)",
+    },
+    "losses": {
+        "units_left": "(layout, lost)", "rebuilt": "(layout, lost)", "covers": "(layout, many)",
+        "strength": "(layout)", "least_help": "(layout, lost, unit, price)", "fewest_more": "(layout, many, other)",
+    },
+    "look_losses": {
+        "shows_rebuilt": "(layout, lost, value)", "shows_covers": "(layout, many, value)",
+        "shows_strength": "(layout, value)", "shows_help": "(layout, lost, unit, price, value)",
+        "shows_backed": "(layout, many, other, value)",
+    },
+    "sites": {
+        "site_readings": "(sites, question)", "site_partings": "(sites, question)",
+        "at_sites": "(sites, numbers, question)", "bears": "(sites, many)", "bearing": "(sites)",
+        "weak_lots": "(layout)", "spread": "(layout, many, lost)",
+    },
+    "look_sites": {
+        "shows_at_sites": "(sites, numbers, question, value)", "shows_bears": "(sites, many, value)",
+        "shows_bearing": "(sites, value)", "shows_spread": "(layout, many, lost, value)",
+    },
 }
+GENERATORS = {"readings": ["readings", "partings"], "sites": ["site_readings", "site_partings", "weak_lots"]}
 CLASSES = {
     "shapes": {"Shape": ("(keys, days)", "index_of read len iter contains getitem or le lt eq str", "")},
     "parts": {"Part": ("(shape, *places)", """whole none of_keys of_days read len bool iter contains getitem and or sub xor
@@ -37,6 +69,23 @@ CLASSES = {
     "layouts": {"Layout": ("(shape, *kinds)", """touched_by answers span_of read getitem contains len iter add sub le lt
                            eq str""", "shape kinds units")},
     "told": {"Told": ("(bottom, weights)", "eq", ""), "Parted": ("(one, other)", "bool eq", "")},
+    "images": {"Image": ("(layout, table)", """of moved changed_from size_of ask table_back iter getitem add sub
+                         eq""", "extent bare")},
+    "readings": {"Reading": ("(units, told, parteds)", "eq", ""), "Wanting": ("(parted)", "bool eq", ""),
+                 "Needless": ("(unit, told)", "bool eq", ""), "Parting": ("(units, parted, tolds)", "eq", ""),
+                 "Enough": ("(told)", "bool eq", ""), "Spare": ("(unit, parted)", "bool eq", ""),
+                 "Cheapest": ("(units, price, told, tree)", "eq", ""),
+                 "Behind": ("(price, lost, cheapest, lots)", "eq", ""), "Cutoff": ("(lost, parted)", "bool eq", "")},
+    "losses": {"Rebuilt": ("(tolds)", "eq", ""), "Lacking": ("(unit, index, parted)", "bool eq", ""),
+               "Covers": ("(rebuilts)", "eq", ""), "Uncovered": ("(lost, lacking)", "bool eq", ""),
+               "Strength": ("(many, covered, lost, lacking)", "eq", ""), "Help": ("(units, price, tolds)", "eq", ""),
+               "Backed": ("(units, rebuilts)", "eq", ""), "Unbacked": ("(lost, lacking)", "bool eq", "")},
+    "sites": {"Sites": ("(layout, *lots)", "site_of units_at units_off read len iter getitem eq str", ""),
+              "AtSites": ("(numbers, told, parteds)", "eq", ""), "TooFew": ("(parted)", "bool eq", ""),
+              "NotAsked": ("(number, told)", "bool eq", ""), "Bears": ("(rebuilts)", "eq", ""),
+              "Fails": ("(numbers, lacking)", "bool eq", ""),
+              "Bearing": ("(many, borne, numbers, lacking)", "eq", ""), "Spread": ("(sites, borne)", "eq", ""),
+              "NoSpread": ("(weak)", "bool eq", "")},
 }
 ARGUMENTS = {
     "Shape.index_of": "(self, place)", "Shape.read": "(text)", "Part.read": "(text, shape)",
@@ -51,11 +100,17 @@ ARGUMENTS = {
     "Pages.units_on": "(self, shape, blocks=None)", "Cells.units_on": "(self, shape, blocks=None)",
     "Buckets.units_on": "(self, shape, blocks=None)", "Stripes.units_on": "(self, shape, blocks=None)",
     "Layout.touched_by": "(self, place)", "Layout.answers": "(self, units=None)", "Layout.span_of": "(self, units)",
-    "Layout.read": "(text)",
+    "Layout.read": "(text)", "Image.of": "(layout, answers)", "Image.moved": "(self, place, by)",
+    "Image.changed_from": "(self, other)", "Image.size_of": "(self, unit)",
+    "Image.ask": "(self, question, units=None)", "Image.table_back": "(self, units=None)",
+    "Sites.site_of": "(self, unit)", "Sites.units_at": "(self, numbers)", "Sites.units_off": "(self, numbers)",
+    "Sites.read": "(text, layout)",
 }
 PLAIN = ["index_of", "whole", "none", "of_keys", "of_days", "read", "of", "with_amount", "lowest", "weigh", "directions",
-         "direction_for", "told_part", "units_on", "touched_by", "answers", "span_of"]
-STATIC = ["Part.whole", "Part.none", "Part.of_keys", "Part.of_days", "Table.of", "Question.of", "Question.none"]
+         "direction_for", "told_part", "units_on", "touched_by", "answers", "span_of", "moved", "changed_from", "size_of",
+         "ask", "table_back", "site_of", "units_at", "units_off"]
+STATIC = ["Part.whole", "Part.none", "Part.of_keys", "Part.of_days", "Table.of", "Question.of", "Question.none",
+          "Image.of"]
 
 
 def module(name):
@@ -69,6 +124,7 @@ class Interface(unittest.TestCase):
                 one = getattr(module(name), word)
                 self.assertEqual(one.__module__, f"rowvault.{name}")
                 self.assertEqual(str(inspect.signature(one)), arguments)
+                self.assertEqual(inspect.isgeneratorfunction(one), word in GENERATORS.get(name, []))
 
     def test_classes(self):
         for name, classes in CLASSES.items():
@@ -97,6 +153,23 @@ class Interface(unittest.TestCase):
             self.assertTrue(issubclass(one, cuts.Cut))
         for one in (kinds.Blocks, kinds.Pages, kinds.Cells, kinds.Buckets, kinds.Stripes):
             self.assertTrue(issubclass(one, kinds.Kind))
+
+    def test_attributes_and_properties(self):
+        shape = module("shapes").Shape(["a"], 1)
+        layout, table = module("layouts").Layout(shape), module("tables").Table(shape)
+        made = [shape, layout, table, module("parts").Part(shape), module("questions").Question(shape, {}),
+                module("spans").Span(shape), module("images").Image(layout, table)]
+        attributes = ["key_names days places", "", "shape amounts", "shape places", "shape weights part", "", "layout"]
+        properties = ["", "shape kinds units", "", "", "", "shape given rows", "extent bare"]
+        for one, plain, told in zip(made, attributes, properties):
+            for name in plain.split():
+                self.assertIn(name, vars(one))
+            for name in told.split():
+                self.assertIsInstance(vars(type(one))[name], property)
+                kept = getattr(one, name)
+                # What never changes cannot be given other properties.
+                self.assertRaises(AttributeError, setattr, one, name, None)
+                self.assertEqual(getattr(one, name), kept)
 
     def test_class_values(self):
         kinds = module("kinds")

@@ -9,7 +9,7 @@ import unittest
 ROOT = os.path.dirname(os.path.dirname(__file__))
 FOLDER = os.path.join(ROOT, "rowvault")
 BUILTINS = """len range enumerate zip min max sum abs sorted reversed int str bool bytes list tuple dict set isinstance
-ord repr any all divmod Exception ValueError TypeError KeyError NotImplemented iter next""".split()
+ord repr any all divmod Exception ValueError TypeError KeyError AttributeError NotImplemented iter next""".split()
 ONCE = ["zip", "enumerate", "reversed", "items", "keys", "values"]
 TAKERS = ["list", "tuple", "dict", "sorted", "sum", "any", "all", "enumerate", "zip"]
 METHODS = """append clear copy count endswith extend find get index insert isalnum isalpha isdigit islower isspace
@@ -60,6 +60,28 @@ def called(node):
 
 def is_generator(function):
     return any(isinstance(node, (ast.Yield, ast.YieldFrom)) for node in ast.walk(function))
+
+
+def is_setter(function):
+    """Whether a method is the setter of a property."""
+    return any(isinstance(one, ast.Attribute) and one.attr == "setter" and one.value.id == function.name
+               for one in function.decorator_list)
+
+
+def is_property(function):
+    return [one.id for one in function.decorator_list if isinstance(one, ast.Name)] == ["property"]
+
+
+def broken_properties(classes, trees):
+    """The names that are properties without a setter in some class, and assigned or deleted as attributes anywhere."""
+    bare = set()
+    for node in classes:
+        rows = [one for one in node.body if isinstance(one, ast.FunctionDef)]
+        setters = {one.name for one in rows if is_setter(one)}
+        bare |= {one.name for one in rows if is_property(one)} - setters
+    stored = {one.attr for tree in trees for one in ast.walk(tree)
+              if isinstance(one, ast.Attribute) and not isinstance(one.ctx, ast.Load)}
+    return bare & stored
 
 
 def bound_names(function):
@@ -157,7 +179,8 @@ class Names(unittest.TestCase):
                 own = bound_names(function) + top + BUILTINS
                 for node in ast.walk(function):
                     if isinstance(node, ast.Name) and isinstance(node.ctx, ast.Load) and node.id not in own:
-                        self.assertIn(node.id, ["staticmethod", "classmethod", "property"], (module, node.lineno))
+                        words = ["staticmethod", "classmethod", "property", function.name]
+                        self.assertIn(node.id, words, (module, node.lineno))
                     if isinstance(node, ast.Name) and node.id == "_":
                         self.assertIsInstance(node.ctx, ast.Store)
 
@@ -181,7 +204,7 @@ class Names(unittest.TestCase):
             if not is_generator(node):
                 self.assertNotIn(node.name, generators, module)
         for name, node in CLASSES.items():
-            methods = [one.name for one in node.body if isinstance(one, ast.FunctionDef)]
+            methods = [one.name for one in node.body if isinstance(one, ast.FunctionDef) and not is_setter(one)]
             self.assertEqual(len(methods), len(set(methods)), name)
             stored = [one.attr for one in ast.walk(node) if isinstance(one, ast.Attribute)
                       and isinstance(one.ctx, ast.Store)]
@@ -189,6 +212,54 @@ class Names(unittest.TestCase):
             self.assertFalse(generators & set(stored), name)
             self.assertFalse(set(methods + stored) & set(MODIFIERS), name)
             self.assertFalse(set(stored) & {"items", "keys", "values", "args", "format"}, name)
+
+    def test_names_of_static_methods_properties_and_class_values(self):
+        rows = [one for node in CLASSES.values() for one in node.body]
+        methods = [one for one in rows if isinstance(one, ast.FunctionDef)]
+        static = {one.name for one in methods if [d for d in one.decorator_list if isinstance(d, ast.Name)
+                                                  and d.id in ("staticmethod", "classmethod")]}
+        plain = {one.name for one in methods if not one.decorator_list}
+        properties = {one.name for one in methods if is_property(one)}
+        values = {one.targets[0].id for one in rows if isinstance(one, ast.Assign)}
+        stored = {one.attr for _, tree in TREES.values() for one in ast.walk(tree)
+                  if isinstance(one, ast.Attribute) and not isinstance(one.ctx, ast.Load)}
+        self.assertFalse(static & (plain | properties | values | stored))
+        self.assertFalse(properties & (plain | values | set(METHODS)))
+        self.assertFalse(values & (plain | stored))
+        self.assertFalse(plain & stored)
+
+    def test_double_underscore_methods_assign_nothing(self):
+        for module, node in FUNCTIONS:
+            if node.name in ("__eq__", "__str__", "__len__", "__bool__"):
+                for one in ast.walk(node):
+                    self.assertNotIsInstance(one, (ast.Assign, ast.AugAssign, ast.Delete), (module, node.lineno))
+
+    def test_a_property_that_is_assigned_has_a_setter(self):
+        every = [tree for _, tree in TREES.values()]
+        self.assertEqual(broken_properties(CLASSES.values(), every), set())
+        properties = {one.name for node in CLASSES.values() for one in node.body
+                      if isinstance(one, ast.FunctionDef) and is_property(one)}
+        self.assertTrue({"shape", "units", "given", "rows", "kinds", "extent", "bare"} <= properties)
+        for tree in every:
+            for loop in [node for node in ast.walk(tree) if isinstance(node, (ast.For, ast.While))]:
+                stored = {one.attr for one in ast.walk(loop)
+                          if isinstance(one, ast.Attribute) and not isinstance(one.ctx, ast.Load)}
+                self.assertFalse(stored & properties)
+
+    def test_a_property_without_a_setter_is_found(self):
+        text = "class A:\n    @property\n    def many(self):\n        return 1\n{}class B:\n    def __init__(self, x):\n        {}\n"
+        setter = "    @many.setter\n    def many(self, value):\n        pass\n"
+        for more, row, found in (("", "self.many = x", {"many"}), ("", "x.many, x.few = 1, 2", {"many"}),
+                                 ("", "x.many += 1", {"many"}), ("", "for x.many in x: pass", {"many"}),
+                                 ("", "x = x.many", set()), (setter, "self.many = x", set())):
+            tree = ast.parse(text.format(more, row))
+            classes = [node for node in tree.body if isinstance(node, ast.ClassDef)]
+            self.assertEqual(broken_properties(classes, [tree]), found, row)
+        other = ast.parse(text.format(setter, "pass"))
+        classes = [node for one in (tree, other) for node in one.body if isinstance(node, ast.ClassDef)]
+        bare = ast.parse(text.format("", "pass"))
+        classes += [node for node in bare.body if isinstance(node, ast.ClassDef)]
+        self.assertEqual(broken_properties(classes, [tree, other, bare]), {"many"})
 
     def test_no_method_is_read_off_a_class(self):
         plain = {one.name for node in CLASSES.values() for one in node.body
@@ -203,8 +274,9 @@ class Functions(unittest.TestCase):
     def test_size_and_form(self):
         for module, node in FUNCTIONS:
             self.assertLessEqual(node.end_lineno - node.lineno + 1, 40, (module, node.name))
-            decorators = [one.id for one in node.decorator_list]
+            decorators = [one.id for one in node.decorator_list if isinstance(one, ast.Name)]
             self.assertIn(decorators, ([], ["property"], ["staticmethod"], ["classmethod"]))
+            self.assertEqual(len(decorators) + is_setter(node), len(node.decorator_list))
             self.assertIsNone(node.returns)
             for default in node.args.defaults:
                 ast.literal_eval(default)
@@ -335,7 +407,7 @@ class Calls(unittest.TestCase):
         for module, node in FUNCTIONS:
             for one in [one for one in ast.walk(node) if isinstance(one, ast.Raise)]:
                 self.assertIsInstance(one.exc, ast.Call, module)
-                self.assertIn(one.exc.func.id, [*CLASSES, "TypeError"], module)
+                self.assertIn(one.exc.func.id, [*CLASSES, "TypeError", "AttributeError"], module)
 
 
 if __name__ == "__main__":

@@ -14,7 +14,8 @@ from rowvault.questions import Question
 from rowvault.shapes import Shape
 from rowvault.tables import Table
 from rowvault.told import Parted, Told, beside, told, told_part, work_out
-from tests.helpers import OTHER, TWO, Case, any_values, is_int, is_of, rank
+from tests.helpers import OTHER, TWO, Case, any_values, is_of, rank
+from tests.papers import is_right_parted, is_right_told, open_places
 
 LAYOUTS = [
     Layout(TWO), Layout(TWO, Pages(1), Buckets(1)), Layout(TWO, Blocks(Every(2)), Pages(1), Cells(2), Buckets(1)),
@@ -49,42 +50,10 @@ def rows_at(layout, units, places):
     return [[answer[place] for place in places] for unit in layout if unit in units for answer in layout[unit]]
 
 
-def open_places(layout, bare):
-    return [place for place in layout.shape if bare is None or place not in bare]
-
-
 def is_told(layout, units, question, bare):
-    places = open_places(layout, bare)
+    places = open_places(layout.shape, bare)
     rows = rows_at(layout, units, places)
     return rank(rows + [[question[place] for place in places]]) == rank(rows)
-
-
-def is_right_told(layout, units, question, value, bare):
-    """As the document tells what a Told is, over any values."""
-    if type(value) is not Told or not is_int(value.bottom) or value.bottom < 1 or type(value.weights) is not dict:
-        return False
-    for key, weight in value.weights.items():
-        if type(key) is not tuple or len(key) != 2 or type(key[0]) is not str or key[0] not in units:
-            return False
-        if not is_int(key[1]) or not 0 <= key[1] < len(layout[key[0]]) or not is_int(weight) or weight == 0:
-            return False
-    total = Question(layout.shape, {})
-    for (unit, index), weight in value.weights.items():
-        total = total + weight * layout[unit][index]
-    return all(total[place] == value.bottom * question[place] for place in open_places(layout, bare))
-
-
-def is_right_parted(layout, units, question, value, bare):
-    if type(value) is not Parted:
-        return False
-    if not all(is_of(table, Table, layout.shape) for table in (value.one, value.other)):
-        return False
-    if any(table[place] != 0 for table in (value.one, value.other) for place in (bare or ())):
-        return False
-    for unit in units:
-        if any(answer(value.one) != answer(value.other) for answer in layout[unit]):
-            return False
-    return question(value.one) != question(value.other)
 
 
 def altered(paper, layout):
@@ -169,7 +138,7 @@ class Papers(Case):
             paper = told(layout, units, question, bare)
             if not paper:
                 continue
-            places = open_places(layout, bare)
+            places = open_places(layout.shape, bare)
             table = Table(layout.shape, {place: chance.randint(-10 ** 6, 10 ** 6) for place in places})
             answers = {unit: tuple(one(table) for one in layout[unit]) for unit in layout}
             self.same(work_out(paper, answers), question(table))
@@ -223,7 +192,7 @@ class Lookers(Case):
             if paper:
                 continue
             shape = layout.shape
-            some = Table(shape, {place: chance.randint(-3, 3) for place in open_places(layout, bare)})
+            some = Table(shape, {place: chance.randint(-3, 3) for place in open_places(layout.shape, bare)})
             papers = [Parted(paper.other, paper.one), Parted(some, some + 3 * paper.other), Parted(some, some)]
             papers += [Parted(one, two) for one in (None, 0, "x", {}, paper, Table(Shape(["z"], 1)), paper.other.amounts)
                        for two in (paper.other, one)]
