@@ -19,12 +19,11 @@ class Layout:
         if not isinstance(shape, Shape):
             raise BadShape("shape")
         check_kinds(kinds)
-        ordered = [kind for word in WORDS for kind in kinds if kind.WORD == word]
-        pairs = pairs_of(shape, ordered)
+        pairs = pairs_of(shape, ordered(kinds))
         if len(pairs) > self.MOST:
             raise TooMany("units", self.MOST)
         self._shape = shape
-        self._kinds = tuple(ordered)
+        self._kinds = tuple(ordered(kinds))
         self._units = tuple([unit for unit, answers in pairs])
         self._answers = {unit: answers for unit, answers in pairs}
 
@@ -121,14 +120,35 @@ class Layout:
         return cls(Shape(keys, days), *kinds)
 
 
-def check_kinds(kinds):
-    """Raise BadKind for what is no kind, two of one class, or stripes without blocks."""
+def fault_of(kinds):
+    """The index of the first that is no kind, or whose class stands ahead; "blocks" for stripes without; or None."""
     for at, kind in enumerate(kinds):
         if not isinstance(kind, Kind) or kind.WORD in [other.WORD for other in kinds[:at]]:
-            raise BadKind(at)
+            return at
     words = [kind.WORD for kind in kinds]
-    if Stripes.WORD in words and Blocks.WORD not in words:
-        raise BadKind("blocks")
+    return "blocks" if Stripes.WORD in words and Blocks.WORD not in words else None
+
+
+def check_kinds(kinds):
+    """Raise BadKind for kinds of which no layout can be made."""
+    fault = fault_of(kinds)
+    if fault is not None:
+        raise BadKind(fault)
+
+
+def are_kinds(value):
+    """Whether any value is a list or tuple of kinds of which a layout can be made."""
+    return isinstance(value, (list, tuple)) and fault_of(value) is None
+
+
+def fit_on(shape, kinds):
+    """Whether the kinds have not too many units on a shape."""
+    return len(pairs_of(shape, ordered(kinds))) <= Layout.MOST
+
+
+def ordered(kinds):
+    """The list of the kinds, in the order of their units."""
+    return [kind for word in WORDS for kind in kinds if kind.WORD == word]
 
 
 def pairs_of(shape, kinds):

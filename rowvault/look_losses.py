@@ -2,16 +2,17 @@
 
 from math import comb
 
-from rowvault.asked import check_layout
+from rowvault.asked import bare_part, check_layout
 from rowvault.checks import is_whole_from
 from rowvault.layouts import told_units
 from rowvault.look_readings import is_lot_of, is_one_of
 from rowvault.look_told import is_answer_key, shows_parted, shows_told
 from rowvault.losses import (
     Backed, Covers, Help, Lacking, Rebuilt, Strength, Unbacked, Uncovered, backed_by, check_losses, check_many,
-    help_lots, helpers_of, joined, losses_of, lots_of, units_but,
+    helpers_of, joined, losses_of, more_lots, units_but,
 )
 from rowvault.prices import prices_of, sum_of
+from rowvault.searches import lots_of
 
 
 def shows_rebuilt(layout, lost, value):
@@ -51,7 +52,7 @@ def shows_help(layout, lost, unit, price, value):
     cost = sum_of(prices, value.units)
     if not is_whole_from(value.price, cost, cost) or not are_unit_tolds(layout, value.units, unit, value.tolds):
         return False
-    lots = help_lots(layout, left, unit)
+    lots = lots_of(layout, left, layout[unit], bare_part(layout, None))
     ahead = True
     for mask in lots.all_lots():
         units = tuple([left[index] for index in lots.indexes_of(mask)])
@@ -74,7 +75,7 @@ def shows_backed(layout, many, other, value):
     units = [unit for unit in both.units if unit in layout or unit in value.units]
     if not are_rebuilts(both, units, losses, value.rebuilts):
         return False
-    for lot in lots_of(other.units):
+    for lot in more_lots(other.units):
         if lot == value.units:
             return True
         if backed_by(layout, lot, both).rebuilds(losses):

@@ -6,9 +6,9 @@ from rowvault.asked import bare_part, check_layout
 from rowvault.checks import is_whole_from
 from rowvault.errors import BadCount, BadLayout, BadUnit, TooMany, Untold
 from rowvault.layouts import Layout, told_units
-from rowvault.lots import Lots, choices, vectors_for
-from rowvault.prices import prices_of, sum_of
-from rowvault.searches import matter_at_most
+from rowvault.lots import choices
+from rowvault.prices import cheapest_of, prices_of, sum_of
+from rowvault.searches import matter_at_most, telling_lots
 from rowvault.ties import Ties
 from rowvault.told import Teller
 
@@ -164,15 +164,11 @@ def least_help(layout, lost, unit, price):
     if not paper:
         raise Untold(paper)
     prices = prices_of(left, price)
-    lots = help_lots(layout, left, unit)
-    best, least = None, -1
-    for mask in lots.least_enough(lots.full()):
-        units = tuple([left[index] for index in lots.indexes_of(mask)])
-        cost = sum_of(prices, units)
-        if best is None or cost < least:
-            best, least = units, cost
-    teller = Teller(layout, best, bare_part(layout, None))
-    return Help(best, least, {index: teller.paper_on(one) for index, one in enumerate(layout[unit])})
+    none = bare_part(layout, None)
+    units = cheapest_of(prices, telling_lots(layout, left, layout[unit], none), ())
+    teller = Teller(layout, units, none)
+    tolds = {index: teller.paper_on(one) for index, one in enumerate(layout[unit])}
+    return Help(units, sum_of(prices, units), tolds)
 
 
 def fewest_more(layout, many, other):
@@ -258,13 +254,6 @@ def helpers_of(layout, lost, unit):
     return matter_at_most(layout, units_but(layout.units, gone), bare_part(layout, None))
 
 
-def help_lots(layout, left, unit):
-    """Which lots of the units left tell all answers of a unit."""
-    none = bare_part(layout, None)
-    groups = [vectors_for(layout, one, none) for one in left]
-    return Lots(groups, vectors_for(layout, unit, none), len(layout.shape))
-
-
 def joined(layout, many, other):
     """The layout of the kinds of both, behind the errors of all three."""
     check_layout(layout)
@@ -279,7 +268,7 @@ def joined(layout, many, other):
     return both
 
 
-def lots_of(units):
+def more_lots(units):
     """The list of the lots of some units, fewer units first."""
     return [lot for many in range(len(units) + 1) for lot in losses_of(units, many)]
 
@@ -291,7 +280,7 @@ def backed_by(layout, more, both):
 
 def first_backing(layout, losses, other, both):
     """The first lot of units of the other layout that backs all losses; all its units do."""
-    for lot in lots_of(other.units):
+    for lot in more_lots(other.units):
         if backed_by(layout, lot, both).rebuilds(losses):
             return lot
     return other.units

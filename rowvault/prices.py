@@ -18,3 +18,15 @@ def prices_of(units, price):
 def sum_of(prices, units):
     """What some units cost together."""
     return sum([prices[unit] for unit in units])
+
+
+def cheapest_of(prices, lots, lost):
+    """The first of the lots of the least price without lost units, or None."""
+    best, least = None, -1
+    for lot in lots:
+        if any([unit in lost for unit in lot]):
+            continue
+        price = sum_of(prices, lot)
+        if best is None or price < least:
+            best, least = lot, price
+    return best

@@ -4,7 +4,7 @@ from rowvault.asked import asked_of, check_layout, check_question
 from rowvault.checks import is_whole_from
 from rowvault.errors import BadCount, Untold
 from rowvault.lots import choices
-from rowvault.prices import prices_of, sum_of
+from rowvault.prices import cheapest_of, prices_of, sum_of
 from rowvault.searches import Search, Tree, counted_of
 from rowvault.told import Teller
 
@@ -194,7 +194,7 @@ def least_reading(layout, question, price, bare=None, units=None):
     search = search_of(layout, question, bare, units)
     search.check_told()
     prices = prices_of(search.units, price)
-    return cheapest_of(search, prices, cheapest_lot(lots_of(search), prices, ()), ())
+    return cheapest_paper(search, prices, cheapest_of(prices, all_readings(search), ()), ())
 
 
 def least_behind(layout, question, price, many):
@@ -205,10 +205,10 @@ def least_behind(layout, question, price, many):
     search = search_of(layout, question, None, None)
     search.check_told()
     prices = prices_of(search.units, price)
-    lots = lots_of(search)
+    lots = all_readings(search)
     least = {}
     for lost in losses_of(search.units, many):
-        lot = cheapest_lot(lots, prices, lost)
+        lot = cheapest_of(prices, lots, lost)
         if lot is None:
             return Cutoff(lost, search.paper_but(lost))
         least[lost] = lot
@@ -243,24 +243,12 @@ def losses_of(units, many):
     return [tuple([units[index] for index in row]) for row in rows]
 
 
-def lots_of(search):
+def all_readings(search):
     """The list of all readings, in order."""
     return [search.units_of(mask) for mask in search.lots.least_enough(search.lots.full())]
 
 
-def cheapest_lot(lots, prices, lost):
-    """The first of the lots of the least price without lost units, or None."""
-    best, least = None, -1
-    for lot in lots:
-        if any([unit in lost for unit in lot]):
-            continue
-        price = sum_of(prices, lot)
-        if best is None or price < least:
-            best, least = lot, price
-    return best
-
-
-def cheapest_of(search, prices, lot, lost):
+def cheapest_paper(search, prices, lot, lost):
     """The Cheapest of the units that are left, the lot being the first reading of the least price."""
     price = sum_of(prices, lot)
     left = search.lots.full() ^ search.mask_of(lost)
@@ -275,4 +263,4 @@ def behind_of(search, prices, least):
     worst = [lost for lost, cost in costs.items() if cost == price][0]
     papers = {lot: search.paper_by(lot) for lot in least.values()}
     lots = {lost: (lot, papers[lot]) for lost, lot in least.items()}
-    return Behind(price, worst, cheapest_of(search, prices, least[worst], worst), lots)
+    return Behind(price, worst, cheapest_paper(search, prices, least[worst], worst), lots)

@@ -28,6 +28,19 @@ def matter_at_most(layout, units, bare):
     return some
 
 
+def lots_of(layout, units, questions, bare):
+    """Which lots of the units tell all of some questions."""
+    groups = [vectors_for(layout, unit, bare) for unit in units]
+    filled = ~bare
+    return Lots(groups, [vector_of(question & filled) for question in questions], len(layout.shape))
+
+
+def telling_lots(layout, units, questions, bare):
+    """The list of the lots that tell all of some questions, but not without any one of their units, in order."""
+    lots = lots_of(layout, units, questions, bare)
+    return [tuple([units[index] for index in lots.indexes_of(mask)]) for mask in lots.least_enough(lots.full())]
+
+
 class Search:
     """Which lots of the units that count tell a question."""
 
@@ -37,8 +50,7 @@ class Search:
         self.question = question
         self.bared = bare
         self.units = matter_at_most(layout, counted, bare)
-        groups = [vectors_for(layout, unit, bare) for unit in self.units]
-        self.lots = Lots(groups, [vector_of(question & ~bare)], len(layout.shape))
+        self.lots = lots_of(layout, self.units, [question], bare)
 
     def units_of(self, mask):
         """The tuple of the units of a lot."""

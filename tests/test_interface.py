@@ -48,8 +48,27 @@ FUNCTIONS = {
         "shows_at_sites": "(sites, numbers, question, value)", "shows_bears": "(sites, many, value)",
         "shows_bearing": "(sites, value)", "shows_spread": "(layout, many, lost, value)",
     },
+    "spoils": {
+        "relations": "(layout, units)", "agree": "(layout, answers)", "finds": "(layout, many)",
+        "rights": "(layout, many)", "righted": "(layout, answers, many)",
+    },
+    "look_spoils": {
+        "shows_relation": "(layout, value)", "shows_agree": "(layout, answers, value)",
+        "shows_finds": "(layout, many, value)", "shows_rights": "(layout, many, value)",
+        "shows_righted": "(layout, answers, many, value)",
+    },
+    "alike": {
+        "tells": "(one, other)", "alike": "(one, other)", "common": "(one, other)", "needless": "(layout)",
+        "slim": "(layout)", "tells_always": "(kinds, others, keys, days)",
+    },
+    "look_alike": {
+        "shows_tells": "(one, other, value)", "shows_alike": "(one, other, value)",
+        "shows_breaks": "(kinds, others, value)", "shows_slim": "(layout, value)",
+    },
 }
-GENERATORS = {"readings": ["readings", "partings"], "sites": ["site_readings", "site_partings", "weak_lots"]}
+GENERATORS = {"readings": ["readings", "partings"], "sites": ["site_readings", "site_partings", "weak_lots"],
+              "spoils": ["relations"]}
+PLAN = "sum_on call add sub mul floordiv neg eq str"
 CLASSES = {
     "shapes": {"Shape": ("(keys, days)", "index_of read len iter contains getitem or le lt eq str", "")},
     "parts": {"Part": ("(shape, *places)", """whole none of_keys of_days read len bool iter contains getitem and or sub xor
@@ -86,6 +105,19 @@ CLASSES = {
               "Fails": ("(numbers, lacking)", "bool eq", ""),
               "Bearing": ("(many, borne, numbers, lacking)", "eq", ""), "Spread": ("(sites, borne)", "eq", ""),
               "NoSpread": ("(weak)", "bool eq", "")},
+    "spoils": {"Agreeing": ("(bottom, table)", "eq", ""), "Broken": ("(weights)", "bool eq", ""),
+               "Finds": ("(rebuilts)", "eq", ""), "Unfound": ("(one, other)", "bool eq", ""),
+               "Rights": ("(rebuilts)", "eq", ""), "Unrighted": ("(one, other, given)", "bool eq", ""),
+               "Righted": ("(bottom, table, spoilt, cases)", "eq", ""), "Unclear": ("(one, other)", "bool eq", ""),
+               "Hopeless": ("(cases)", "bool eq", "")},
+    "alike": {"Tells": ("(tolds)", "eq", ""), "Silent": ("(unit, index, parted)", "bool eq", ""),
+              "Alike": ("(there, back)", "eq", ""), "Apart": ("(side, silent)", "bool eq", ""),
+              "Throughout": ("(shapes)", "eq", ""), "Breaks": ("(shape, silent)", "bool eq", "")},
+    "books": {"Book": ("(shape, *pairs)", """with_question without told_by least_units read call getitem contains len
+                       iter or le eq str""", "")},
+    "plans": {"Plan": (None, f"read {PLAN}", ""), "Read": ("(unit, index)", PLAN, ""), "Given": ("(value)", PLAN, ""),
+              "Added": ("(one, other)", PLAN, ""), "Less": ("(one, other)", PLAN, ""),
+              "Scaled": ("(one, value)", PLAN, ""), "Over": ("(one, value)", PLAN, "")},
 }
 ARGUMENTS = {
     "Shape.index_of": "(self, place)", "Shape.read": "(text)", "Part.read": "(text, shape)",
@@ -104,11 +136,14 @@ ARGUMENTS = {
     "Image.changed_from": "(self, other)", "Image.size_of": "(self, unit)",
     "Image.ask": "(self, question, units=None)", "Image.table_back": "(self, units=None)",
     "Sites.site_of": "(self, unit)", "Sites.units_at": "(self, numbers)", "Sites.units_off": "(self, numbers)",
-    "Sites.read": "(text, layout)",
+    "Sites.read": "(text, layout)", "Book.with_question": "(self, name, question)", "Book.without": "(self, name)",
+    "Book.told_by": "(self, layout, units, bare=None)", "Book.least_units": "(self, layout, price, bare=None)",
+    "Book.__call__": "(self, table)", "Book.read": "(text, shape)", "Plan.read": "(text)",
+    "Plan.sum_on": "(self, layout)", "Plan.__call__": "(self, image)", "Over.__call__": "(self, image)",
 }
 PLAIN = ["index_of", "whole", "none", "of_keys", "of_days", "read", "of", "with_amount", "lowest", "weigh", "directions",
          "direction_for", "told_part", "units_on", "touched_by", "answers", "span_of", "moved", "changed_from", "size_of",
-         "ask", "table_back", "site_of", "units_at", "units_off"]
+         "ask", "table_back", "site_of", "units_at", "units_off", "with_question", "without", "told_by", "least_units", "sum_on"]
 STATIC = ["Part.whole", "Part.none", "Part.of_keys", "Part.of_days", "Table.of", "Question.of", "Question.none",
           "Image.of"]
 
@@ -170,6 +205,11 @@ class Interface(unittest.TestCase):
                 # What never changes cannot be given other properties.
                 self.assertRaises(AttributeError, setattr, one, name, None)
                 self.assertEqual(getattr(one, name), kept)
+
+    def test_plans(self):
+        plans = module("plans")
+        for name in ("Read", "Given", "Added", "Less", "Scaled", "Over"):
+            self.assertTrue(issubclass(getattr(plans, name), plans.Plan))
 
     def test_class_values(self):
         kinds = module("kinds")
