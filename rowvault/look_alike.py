@@ -4,7 +4,7 @@ from rowvault.alike import Alike, Apart, Breaks, Silent, Tells, check_both_kinds
 from rowvault.asked import check_layout
 from rowvault.checks import is_whole_from
 from rowvault.layouts import Layout, fit_on
-from rowvault.look_readings import is_lot_of, is_one_of
+from rowvault.look_readings import is_lot_of
 from rowvault.look_told import is_answer_key, shows_parted, shows_told
 from rowvault.losses import Rebuilder
 from rowvault.shapes import Shape
@@ -21,7 +21,7 @@ def shows_alike(one, other, value):
     check_two(one, other)
     if isinstance(value, Alike):
         return is_tells(one, other, value.there) and is_tells(other, one, value.back)
-    if not isinstance(value, Apart) or not is_one_of(value.side, ["one", "other"]):
+    if not isinstance(value, Apart) or value.side not in ("one", "other"):
         return False
     return is_silent(one, other, value.silent) if value.side == "other" else is_silent(other, one, value.silent)
 
@@ -67,7 +67,7 @@ def is_told_key(one, other, key, paper):
 
 def is_silent(one, other, value):
     """Whether any value is a right Silent of the other layout by the one."""
-    if not isinstance(value, Silent) or not is_one_of(value.unit, other.units):
+    if not isinstance(value, Silent) or value.unit not in other.units:
         return False
     if not is_whole_from(value.index, 0, len(other[value.unit]) - 1):
         return False

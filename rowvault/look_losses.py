@@ -5,7 +5,7 @@ from math import comb
 from rowvault.asked import bare_part, check_layout
 from rowvault.checks import is_whole_from
 from rowvault.layouts import told_units
-from rowvault.look_readings import is_lot_of, is_one_of
+from rowvault.look_readings import is_lot_of
 from rowvault.look_told import is_answer_key, shows_parted, shows_told
 from rowvault.losses import (
     Backed, Covers, Help, Lacking, Rebuilt, Strength, Unbacked, Uncovered, backed_by, check_losses, check_many,
@@ -75,12 +75,12 @@ def shows_backed(layout, many, other, value):
     units = [unit for unit in both.units if unit in layout or unit in value.units]
     if not are_rebuilts(both, units, losses, value.rebuilts):
         return False
+    ahead = True
     for lot in more_lots(other.units):
-        if lot == value.units:
-            return True
-        if backed_by(layout, lot, both).rebuilds(losses):
+        ahead = ahead and lot != value.units
+        if ahead and backed_by(layout, lot, both).rebuilds(losses):
             return False
-    return False
+    return True
 
 
 def is_loss_of(layout, many, value):
@@ -90,7 +90,7 @@ def is_loss_of(layout, many, value):
 
 def is_lacking(layout, units, lost, value):
     """Whether any value is a right Lacking of the loss of some of the units."""
-    if not isinstance(value, Lacking) or not is_one_of(value.unit, lost):
+    if not isinstance(value, Lacking) or value.unit not in lost:
         return False
     if not is_whole_from(value.index, 0, len(layout[value.unit]) - 1):
         return False

@@ -18,9 +18,9 @@ def shows_reading(layout, units, question, value, bare=None):
     if isinstance(value, Wanting):
         return shows_parted(layout, some, question, value.parted, none)
     if isinstance(value, Needless):
-        held = is_one_of(value.unit, some)
+        held = value.unit in some
         return held and shows_told(layout, without(some, value.unit), question, value.told, none)
-    if not isinstance(value, Reading) or not is_lot(value.units) or list(value.units) != some:
+    if not isinstance(value, Reading) or value.units != tuple(some):
         return False
     if not shows_told(layout, some, question, value.told, none):
         return False
@@ -37,9 +37,9 @@ def shows_parting(layout, units, question, value, bare=None):
     if isinstance(value, Enough):
         return shows_told(layout, others, question, value.told, none)
     if isinstance(value, Spare):
-        held = is_one_of(value.unit, some)
+        held = value.unit in some
         return held and shows_parted(layout, [*others, value.unit], question, value.parted, none)
-    if not isinstance(value, Parting) or not is_lot(value.units) or list(value.units) != some:
+    if not isinstance(value, Parting) or value.units != tuple(some):
         return False
     if not shows_parted(layout, others, question, value.parted, none):
         return False
@@ -64,9 +64,9 @@ def shows_behind(layout, question, price, many, value):
     prices = prices_of(matter_at_most(layout, layout.units, none), price)
     losses = losses_of(list(prices), many)
     if isinstance(value, Cutoff):
-        held = is_lot(value.lost) and value.lost in losses
+        held = value.lost in losses
         return held and shows_parted(layout, others_of(layout, value.lost), question, value.parted)
-    if not isinstance(value, Behind) or not is_lot(value.lost) or value.lost not in losses:
+    if not isinstance(value, Behind) or value.lost not in losses:
         return False
     if not is_behind_lots(layout, question, prices, losses, value):
         return False
@@ -91,19 +91,9 @@ def is_behind_lots(layout, question, prices, losses, value):
     return True
 
 
-def is_lot(value):
-    """Whether any value is a tuple of texts."""
-    return isinstance(value, tuple) and all([isinstance(unit, str) for unit in value])
-
-
-def is_one_of(value, units):
-    """Whether any value is one of some units."""
-    return isinstance(value, str) and value in units
-
-
 def is_lot_of(value, units):
     """Whether any value is a tuple of some of the units, in order, each once."""
-    return is_lot(value) and list(value) == [unit for unit in units if unit in value]
+    return isinstance(value, tuple) and list(value) == [unit for unit in units if unit in value]
 
 
 class Look:

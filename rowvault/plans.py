@@ -311,11 +311,8 @@ def check_value(value):
 
 
 def plan_of(value):
-    """A plan itself, or the plan of an integer."""
-    if is_whole(value):
-        return Given(value)
-    check_plan(value, "other")
-    return value
+    """The plan of an integer, or the value itself."""
+    return Given(value) if is_whole(value) else value
 
 
 def check_reads(plan, layout):

@@ -78,7 +78,6 @@ class Tree:
     """What is needed to show that no lot that is left is enough and costs less than a limit."""
 
     def __init__(self, search, prices, left, limit):
-        self.search = search
         self.prices = prices
         self.limit = limit
         lost = [unit for unit in search.units if search.mask_of([unit]) & left == 0]

@@ -175,9 +175,9 @@ def rights(layout, many):
         if not rebuilts[lot]:
             parted = rebuilts[lot].parted
             # The answers are those of the one table, but for half of the lot those of the other one.
-            given = {unit: answers_by(layout, unit, parted.one) for unit in layout.units}
-            other = {unit: answers_by(layout, unit, parted.other) for unit in lot[:many]}
-            return Unrighted(parted.one, parted.other, {**given, **other})
+            tables = {unit: parted.other if unit in lot[:many] else parted.one for unit in layout.units}
+            given = {unit: answers_by(layout, unit, tables[unit]) for unit in layout.units}
+            return Unrighted(parted.one, parted.other, given)
     return Rights(rebuilts)
 
 

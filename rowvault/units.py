@@ -108,8 +108,9 @@ def take_unit(words, after, taken):
     word = words.take_one([name for name in UNIT_WORDS if NUMBERS[name] > 0 or can_stand(name, [], after, taken)])
     numbers = []
     for _ in range(NUMBERS[word]):
-        choices = [number for number in range(MOST + 1) if can_stand(word, [*numbers, number], after, taken)]
-        numbers.append(int(words.take_one([str(number) for number in choices])))
+        if not words.is_at_whole() or not can_stand(word, [*numbers, whole_of(words.peek())], after, taken):
+            words.refuse()
+        numbers.append(words.take_whole())
     return text_of(word, numbers)
 
 

@@ -123,6 +123,7 @@ class Held(Case):
                 self.raises(BadBook("question"), Book(TWO, right).with_question, "one", value)
             if not is_of(value, Table, TWO):
                 self.raises(BadTable("table"), Book(TWO, right), value)
+                self.raises(BadTable("table"), Book(TWO), value)
             self.assertNotEqual(Book(TWO, right), value)
             for call in (lambda: Book(TWO, right) | value, lambda: Book(TWO, right) <= value):
                 self.raises(BadBook("other"), call)

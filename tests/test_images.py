@@ -100,11 +100,22 @@ class Answers(Case):
         self.same(list(image), [(unit, (at,)) for at, unit in enumerate(layout)])
         self.assertNotEqual(image, Image(layout, Table(TWO)))
 
+    def test_equal_images(self):
+        # The same units with the same answers, but of other layouts, or of another shape.
+        images = [Image(layout, Table(layout.shape)) for layout in (
+            Layout(TWO, Blocks(Every(2))), Layout(TWO, Blocks(Every(2), "days")), Layout(OTHER, Blocks(Every(2))))]
+        for one in images:
+            for other in images:
+                self.assertIs(one == other, one is other)
+                self.assertIs(one != other, one is not other)
+
     def test_of_wrong_answers(self):
         layout = LAYOUTS[2]
         right = answers_of(layout, Table(TWO, {("a", 0): 3}))
         wrong = [value for value in any_values()] + [list(right.items()), {**right, "block 9": (1,)}, {**right, 0: ()}]
         wrong += [{unit: right[unit] for unit in right if unit != left} for left in right]
+        wrong += [{(other if unit == "block 0" else unit): right[unit] for unit in right}
+                  for other in ("block 2", None, 0, ("block 0",), "journal")]
         for unit in right:
             values = [list(right[unit]), right[unit] + (1,), right[unit][1:], None, 0, (True,) * len(right[unit]),
                       ("1",) * len(right[unit]), (None,) * len(right[unit]), right]

@@ -117,8 +117,15 @@ class Made(Case):
         self.assertEqual(one * -3, Scaled(one, -3))
         self.assertEqual(one // 3, Over(one, 3))
         self.assertEqual(-one, Scaled(one, -1))
-        plans = [one, other, Given(5), Given(-5), one + other, other + one, one - other, one * 2, one // 2, -one, one * -1,
-                 Read("page 1", 1), (one + other) * 2, one + other * 2]
+        for plan in (one, Given(2), one + other, one - other, one * 2, one // 2):
+            self.assertEqual(plan + other, Added(plan, other))
+            self.assertEqual(plan - 4, Less(plan, Given(4)))
+            self.assertEqual(plan * 7, Scaled(plan, 7))
+            self.assertEqual(plan // 7, Over(plan, 7))
+            self.assertEqual(-plan, Scaled(plan, -1))
+            self.assertEqual(str(-plan), f"( {plan} * -1 )")
+        plans = [one, other, Given(5), Given(-5), one + other, other + one, one - other, other - one, one + one, one - one, one * 2, one // 2, -one, one * -1,
+                 Read("page 1", 1), (one + other) * 2, one + other * 2, one * 3, one // 3, other * 2, other // 2, one // 1]
         for left, right in itertools.product(plans, plans):
             self.assertIs(left == right, text_of(left) == text_of(right))
         for plan in plans:

@@ -79,6 +79,10 @@ class Kept(Case):
                 for call in (KEPT.units_at, KEPT.units_off):
                     self.raises(BadSites("numbers"), call, value)
             self.assertNotEqual(KEPT, value)
+        for value in (-1, 3):
+            self.raises(BadCount(value), KEPT.__getitem__, value)
+            for call in (KEPT.units_at, KEPT.units_off, lambda numbers: at_sites(KEPT, numbers, AT)):
+                self.raises(BadCount(value), call, [0, value])
         self.raises(BadSites("lots"), Sites, FEW)
         self.raises(BadSites("lots"), Sites, Layout(TWO))
         self.raises(BadSites("lots"), Sites, FEW, ["block 9"], [])
@@ -323,6 +327,12 @@ class Altered(Case):
         other = Sites(FEW, ["bucket 0", "bucket 1"], ["block 1"], ["block 0"])
         self.assertIs(shows_spread(FEW, 3, 1, Spread(other, bears(other, 1))), True)
         self.assertIs(shows_spread(FEW, 3, 1, Spread(other, bears(other, 0))), False)
+        # Sites of another layout with units of the same names, which can be lost likewise.
+        days = Layout(TWO, Blocks(Every(2), "days"), Buckets(1))
+        kept = Sites(days, days.units[:1], days.units[1:2], days.units[2:])
+        value = Spread(kept, bears(kept, 0))
+        self.assertIs(shows_spread(days, 3, 0, value), True)
+        self.assertIs(shows_spread(FEW, 3, 0, value), False)
         four = Sites(FEW, *[[unit] for unit in FEW])
         self.assertIs(shows_spread(FEW, 3, 1, Spread(four, bears(four, 1))), False)
         self.assertIs(shows_spread(FEW, 4, 1, Spread(four, bears(four, 1))), True)

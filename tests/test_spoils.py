@@ -14,8 +14,8 @@ from rowvault.look_spoils import shows_agree, shows_finds, shows_relation, shows
 from rowvault.losses import Rebuilt, covers, rebuilt
 from rowvault.shapes import Shape
 from rowvault.spoils import (
-    Agreeing, Broken, Finds, Hopeless, Righted, Rights, Unclear, Unfound, Unrighted, agree, finds, relations, righted,
-    rights,
+    Agreeing, Broken, Finds, Hopeless, Righted, Rights, Unclear, Unfound, Unrighted, agree, finds, in_lowest_pair,
+    relations, righted, rights,
 )
 from rowvault.tables import Table
 from tests.helpers import OTHER, TWO, Case, any_values, is_int, is_of, reduced, whole_numbers
@@ -266,6 +266,22 @@ class Agreed(Case):
         self.assertIs(shows_agree(LINE, {}, Agreeing(7, paper.table)), True)
         self.assertIs(shows_agree(LINE, {}, Agreeing(0, paper.table)), False)
 
+    def test_lowest_terms(self):
+        # 2 a 3 and 3 a 4 make 0 together, so nothing is divided.
+        layout = Layout(Shape(["a"], 5), Blocks(Every(1)), Stripes(6, 2))
+        for first, second, bottom in ((0, 0, 1), (1, 2, 1), (1, 3, 2), (4, 7, 2)):
+            answers = {"block 0": (0,), "block 2": (0,), "parity 0 0": (first,), "parity 0 1": (second,)}
+            paper = agree(layout, answers)
+            self.assertTrue(right_agree(layout, answers, paper))
+            self.assertTrue(is_in_lowest_terms((paper.bottom, paper.table)))
+            self.same(paper.bottom, bottom)
+        table = Table(TWO, {("a", 0): 6, ("b", 1): -9})
+        for many, bottom in ((6, 2), (4, 4), (9, 3), (3, 1)):
+            told = in_lowest_pair(many, table)
+            self.assertTrue(is_in_lowest_terms(told))
+            self.same(told[0], bottom)
+            self.assertEqual(many * told[1], bottom * table)
+
     def test_great_answers(self):
         table = Table(TWO, {place: 10 ** 50 + at for at, place in enumerate(TWO)})
         answers = answers_of(FULL, table)
@@ -424,6 +440,18 @@ class Altered(Case):
             for case in (rebuilt(DOUBLE, lot), Broken({("block 0", 0): -1, ("block 1", 0): -1, ("parity 0 0", 0): 1})):
                 value = Righted(1, paper.table, paper.spoilt, {**paper.cases, lot: case})
                 self.assertIs(shows_righted(DOUBLE, given, 1, value), right_righted(DOUBLE, given, 1, value))
+
+    def test_more_spoilt_units_than_can_be(self):
+        # No table gives the answers of all units but one, so a table that gives those of all but two is none.
+        answers = {"block 0": (1,), "block 1": (0,), "parity 0 0": (7,), "parity 0 1": (20,)}
+        hopeless = righted(DOUBLE, answers, 1)
+        self.assertIs(type(hopeless), Hopeless)
+        for table in (Table(DAY, {("a", 0): 1}), Table(DAY), Table(DAY, {("b", 0): 7})):
+            spoilt = wrong_units(DOUBLE, answers, (1, table))
+            self.assertGreater(len(spoilt), 1)
+            value = Righted(1, table, spoilt, hopeless.cases)
+            self.assertIs(shows_righted(DOUBLE, answers, 1, value), False)
+            self.assertIs(right_righted(DOUBLE, answers, 1, value), False)
 
     def test_any_values(self):
         answers = {"block 0": (5,), "block 1": (4,), "parity 0 0": (8,)}
