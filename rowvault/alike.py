@@ -101,7 +101,6 @@ def tells(one, other):
 
 def alike(one, other):
     """An Alike of two layouts, or an Apart."""
-    check_two(one, other)
     there = tells(one, other)
     if not there:
         return Apart("other", there)

@@ -249,7 +249,7 @@ def helpers_of(layout, lost, unit):
     """The tuple of the units left that can help a lost one, behind the errors of all three."""
     check_layout(layout)
     gone = told_units(layout, lost)
-    if not isinstance(unit, str) or unit not in gone:
+    if unit not in gone:
         raise BadUnit(unit)
     return matter_at_most(layout, units_but(layout.units, gone), bare_part(layout, None))
 

@@ -8,6 +8,9 @@ MOST_PRICE = 1000000000
 
 def prices_of(units, price):
     """The dict from units to their prices; each one is asked for once, in order."""
+    if units and (price is None or isinstance(price, (int, str, list, tuple, dict))):
+        # Values that cannot be called tell nothing.
+        raise BadRule("price")
     asked = [price(unit) for unit in units]
     for value in asked:
         if not is_whole_from(value, 0, MOST_PRICE):

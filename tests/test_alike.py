@@ -183,11 +183,14 @@ class Always(Case):
         self.assertGreater(min(seen.values()), 30)
 
     def test_bounds(self):
-        for keys, days, let in ((6, 6, True), (5, 7, True), (4, 8, True), (6, 7, False), (5, 8, False), (6, 8, False)):
+        for keys, days, let in ((1, 1, True), (6, 1, True), (1, 8, True), (6, 6, True), (5, 7, True), (4, 8, True), (6, 7, False), (5, 8, False), (6, 8, False)):
             if let:
                 paper = tells_always([Pages(6)], (Pages(6),), keys=keys, days=days)
                 self.same(len(paper.shapes), keys * days)
-                self.same([str(paper.shapes[0]), str(paper.shapes[days])], ["a days 1", "a b days 1"])
+                self.same(str(paper.shapes[0]), "a days 1")
+                self.same(str(paper.shapes[-1]), " ".join([*"abcdef"[:keys], "days", str(days)]))
+                self.same([(len(shape.key_names), shape.days) for shape in paper.shapes],
+                          [(many, day) for many in range(1, keys + 1) for day in range(1, days + 1)])
             else:
                 self.raises(TooMany("places", 36), tells_always, [], [], keys, days)
         for value in any_values() + [7, 8, 9]:

@@ -259,6 +259,11 @@ class Errors(Case):
         for shows, given in ((shows_cheapest, (None,)), (shows_behind, (1, None))):
             self.assertRaises(KeyError, shows, FULL, AT, price, *given)
 
+    def test_prices_that_cannot_be_called(self):
+        for value in (None, True, 0, 5, "", "block 0", (), (1,), [], [len], {}, {"block 0": 1}):
+            self.raises(BadRule("price"), shows_cheapest, FULL, AT, value, None)
+            self.raises(BadRule("price"), shows_behind, FULL, AT, value, 1, None)
+
     def test_too_many(self):
         shape = Shape(list("abc"), 4)
         twelve, thirteen = Layout(shape, Blocks(Every(1))), Layout(shape, Blocks(Every(1)), Buckets(4))

@@ -189,6 +189,13 @@ class Prices(Case):
                     else:
                         self.raises(BadRule("price"), call, lambda unit: value if unit == wrong else 1)
 
+    def test_prices_that_cannot_be_called(self):
+        for value in (None, True, 0, 5, "", "block 0", (), (1,), [], [len], {}, {"block 0": 1}):
+            self.raises(BadRule("price"), least_reading, FULL, AT, value)
+            self.raises(BadRule("price"), least_behind, FULL, AT, value, 1)
+        # Where no unit matters, none is asked for.
+        self.same(least_reading(Layout(TWO), Question(TWO, {}), None).units, ())
+
     def test_errors_of_price_go_on(self):
         def price(unit):
             raise KeyError(unit)

@@ -64,6 +64,7 @@ class Kept(Case):
             if not isinstance(value, Layout):
                 self.raises(BadLayout("layout"), Sites, value, ["block 0"])
                 self.raises(BadLayout("layout"), Sites.read, "block 0", value)
+                self.raises(BadLayout("layout"), Sites.read, "x", value)
             if not isinstance(value, (list, tuple)) or not len(value):
                 self.raises(BadSites("lots"), Sites, FEW, ["block 9"], value)
             else:
