@@ -22,46 +22,25 @@ class Layout:
         pairs = pairs_of(shape, ordered(kinds))
         if len(pairs) > self.MOST:
             raise TooMany("units", self.MOST)
-        self._shape = shape
+        self.shape = shape
         self._kinds = tuple(ordered(kinds))
-        self._units = tuple([unit for unit, answers in pairs])
+        self.units = tuple([unit for unit, answers in pairs])
         self._answers = {unit: answers for unit, answers in pairs}
-
-    @property
-    def shape(self):
-        """The shape."""
-        return self._shape
-
-    # Other classes have attributes of these names, so the properties have setters, which refuse.
-    @shape.setter
-    def shape(self, value):
-        """A layout never changes."""
-        raise AttributeError("a layout never changes")
 
     @property
     def kinds(self):
         """The tuple of the kinds, in the order of their units."""
         return self._kinds
 
-    @property
-    def units(self):
-        """The tuple of all units, in order."""
-        return self._units
-
-    @units.setter
-    def units(self, value):
-        """A layout never changes."""
-        raise AttributeError("a layout never changes")
-
     def touched_by(self, place):
         """The tuple of the units with an answer that hangs on the amount of a place."""
-        if place not in self._shape:
+        if place not in self.shape:
             raise BadPlace(place)
-        return tuple([unit for unit in self._units if any([one[place] != 0 for one in self._answers[unit]])])
+        return tuple([unit for unit in self.units if any([one[place] != 0 for one in self._answers[unit]])])
 
     def answers(self, units=None):
         """Yield the pairs of a pair (unit, index) and this answer, of some units or of all."""
-        some = self._units if units is None else told_units(self, units)
+        some = self.units if units is None else told_units(self, units)
         for unit in some:
             for index, question in enumerate(self._answers[unit]):
                 yield (unit, index), question
@@ -69,13 +48,13 @@ class Layout:
     def span_of(self, units):
         """The span of all answers of some units."""
         questions = [question for unit in told_units(self, units) for question in self._answers[unit]]
-        return Span(self._shape, *questions)
+        return Span(self.shape, *questions)
 
     def __len__(self):
-        return len(self._units)
+        return len(self.units)
 
     def __iter__(self):
-        return iter(self._units)
+        return iter(self.units)
 
     def __contains__(self, x):
         return isinstance(x, str) and x in self._answers
@@ -89,16 +68,16 @@ class Layout:
         if not isinstance(other, Kind):
             raise BadKind("other")
         kinds = [kind for kind in self._kinds if kind.WORD != other.WORD]
-        return Layout(self._shape, other, *kinds)
+        return Layout(self.shape, other, *kinds)
 
     def __sub__(self, other):
         if other not in [kind.WORD for kind in self._kinds]:
             raise BadKind("word")
         kinds = [kind for kind in self._kinds if kind.WORD != other]
-        return Layout(self._shape, *kinds)
+        return Layout(self.shape, *kinds)
 
     def __le__(self, other):
-        if not isinstance(other, Layout) or self._shape != other.shape:
+        if not isinstance(other, Layout) or self.shape != other.shape:
             raise BadLayout("other")
         return all([kind in other.kinds for kind in self._kinds])
 
@@ -106,10 +85,10 @@ class Layout:
         return self <= other and len(self._kinds) < len(other.kinds)
 
     def __eq__(self, other):
-        return isinstance(other, Layout) and self._shape == other.shape and self._kinds == other.kinds
+        return isinstance(other, Layout) and self.shape == other.shape and self._kinds == other.kinds
 
     def __str__(self):
-        return "\n".join([f"shape {str(self._shape)}", *[str(kind) for kind in self._kinds]])
+        return "\n".join([f"shape {str(self.shape)}", *[str(kind) for kind in self._kinds]])
 
     @classmethod
     def read(cls, text):

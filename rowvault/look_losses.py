@@ -53,12 +53,11 @@ def shows_help(layout, lost, unit, price, value):
     if not is_whole_from(value.price, cost, cost) or not are_unit_tolds(layout, value.units, unit, value.tolds):
         return False
     lots = lots_of(layout, left, layout[unit], bare_part(layout, None))
-    ahead = True
-    for mask in lots.all_lots():
+    for mask in lots.least_enough(lots.full()):
         units = tuple([left[index] for index in lots.indexes_of(mask)])
-        ahead = ahead and units != value.units
         other = sum_of(prices, units)
-        if (other < cost or other == cost and ahead) and lots.is_enough(mask):
+        # No lot that is enough and holds this one comes ahead of it.
+        if other < cost or other == cost and is_ahead(left, units, value.units):
             return False
     return True
 
@@ -81,6 +80,13 @@ def shows_backed(layout, many, other, value):
         if ahead and backed_by(layout, lot, both).rebuilds(losses):
             return False
     return True
+
+
+def is_ahead(units, one, other):
+    """Whether a lot of the units stands ahead of another one, by number and order."""
+    if len(one) != len(other):
+        return len(one) < len(other)
+    return [unit in one for unit in units] > [unit in other for unit in units]
 
 
 def is_loss_of(layout, many, value):

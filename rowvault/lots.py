@@ -1,23 +1,12 @@
 """Lots: which of some groups of answers are enough to tell what is wanted.
 
 A lot of groups is a mask, an integer: the first group has the highest bit. So of the lots with as
-many groups the one that comes first, by the tuples of indexes, has the greatest mask.
+many groups the one that comes first, by the tuples of indexes, has the greatest mask. Many lots
+together are an integer too: it has the bit of the number of each of their masks.
 """
 
+from rowvault.bases import Bases
 from rowvault.spans import vector_of
-from rowvault.vectors import cleared, lead_of, with_vector
-
-
-def matter(layout, units, bare):
-    """The tuple of the units in order with an answer that has a weight outside of bare."""
-    filled = ~bare
-    return tuple([unit for unit in units if any([bool(one & filled) for one in layout[unit]])])
-
-
-def vectors_for(layout, unit, bare):
-    """The list of the vectors of a unit's answers, but for their weights at bare places."""
-    filled = ~bare
-    return [vector_of(one & filled) for one in layout[unit]]
 
 
 def choices(count, many):
@@ -34,6 +23,18 @@ def first_behind(row):
     return row[-1] + 1 if row else 0
 
 
+def matter(layout, units, bare):
+    """The tuple of the units in order with an answer that has a weight outside of bare."""
+    filled = ~bare
+    return tuple([unit for unit in units if any([bool(one & filled) for one in layout[unit]])])
+
+
+def vectors_for(layout, unit, bare):
+    """The list of the vectors of a unit's answers, but for their weights at bare places."""
+    filled = ~bare
+    return [vector_of(one & filled) for one in layout[unit]]
+
+
 class Lots:
     """Which lots of groups are enough.
 
@@ -42,15 +43,50 @@ class Lots:
 
     def __init__(self, groups, wanted, width):
         self._bits = [1 << at for at in range(len(groups) - 1, -1, -1)]
-        self._enough = enough_lots(groups, wanted, width)
+        self._every = (1 << (1 << len(groups))) - 1
+        # For each group all lots that lack it.
+        self._lacking = [self._every // ((1 << bit) + 1) for bit in self._bits]
+        self._enough = self.enough_by(Bases(groups, wanted, width))
+
+    def enough_by(self, bases):
+        """All lots that are enough."""
+        short = 0
+        for column in bases.wanted_columns():
+            near = bases.near(column)
+            told = 0
+            left = self._every & ~short
+            while left != 0:
+                mask = left.bit_length() - 1
+                is_told, some = bases.look(column, near, [mask & bit != 0 for bit in self._bits])
+                # One look settles all lots that hold these groups, or all that lack them.
+                if is_told:
+                    told = told | self.holding(some)
+                else:
+                    short = short | self.apart_from(some)
+                left = self._every & ~short & ~told
+        return self._every & ~short
+
+    def holding(self, indexes):
+        """All lots that have all of some groups."""
+        lots = self._every
+        for index in indexes:
+            lots = lots & ~self._lacking[index]
+        return lots
+
+    def apart_from(self, indexes):
+        """All lots that have none of some groups."""
+        lots = self._every
+        for index in indexes:
+            lots = lots & self._lacking[index]
+        return lots
 
     def is_enough(self, mask):
         """Whether a lot is enough."""
-        return self._enough[mask]
+        return self._enough >> mask & 1 == 1
 
     def full(self):
         """The lot of all groups."""
-        return len(self._enough) - 1
+        return (1 << len(self._bits)) - 1
 
     def mask_of(self, indexes):
         """The lot of the groups with these indexes."""
@@ -60,73 +96,34 @@ class Lots:
         """The tuple of the indexes of the groups of a lot, ascending."""
         return tuple([index for index, bit in enumerate(self._bits) if mask & bit != 0])
 
-    def all_lots(self):
-        """The list of all lots, in order."""
-        count = len(self._bits)
-        return [self.mask_of(row) for many in range(count + 1) for row in choices(count, many)]
-
-    def lots_within(self, left):
-        """The list of the lots of groups that are left, in order."""
-        return [mask for mask in self.all_lots() if mask & left == mask]
-
     def least_enough(self, left):
         """The list of the lots that are enough, but not without any one of their groups, in order."""
-        return [mask for mask in self.lots_within(left) if self.wants_each(mask)]
-
-    def wants_each(self, mask):
-        """Whether a lot is enough, but not without any one of its groups."""
-        if not self._enough[mask]:
-            return False
-        return not any([self._enough[mask ^ bit] for bit in self._bits if mask & bit != 0])
+        return [mask for mask in self.least_of(self._enough) if mask & left == mask]
 
     def least_parting(self, left):
         """The list of the lots without which what is left is not enough, but is with any one of them, in order."""
-        return [mask for mask in self.lots_within(left) if self.parts_each(mask, left)]
+        lots = self._every & ~self._enough
+        # First the lot of all other groups stands in the place of each lot.
+        for bit, lacking in zip(self._bits, self._lacking):
+            lots = (lots & lacking) << bit | lots >> bit & lacking
+            if left & bit == 0:
+                # What is lost is lacking to each lot.
+                lots = lots >> bit & lacking
+        return self.least_of(lots)
 
-    def parts_each(self, mask, left):
-        """Whether what is left is not enough without a lot, but is with any one of it."""
-        others = left ^ mask
-        if self._enough[others]:
-            return False
-        return all([self._enough[others | bit] for bit in self._bits if mask & bit != 0])
+    def least_of(self, lots):
+        """The list of the lots that hold no smaller one of the lots, in order; each that holds one is among them."""
+        greater = 0
+        for bit, lacking in zip(self._bits, self._lacking):
+            greater = greater | (lots & lacking) << bit
+        return self.in_order(lots & ~greater)
 
-
-def enough_lots(groups, wanted, width):
-    """The list that tells of each lot whether it is enough."""
-    rows = [{}]
-    enough = [are_told(wanted, {}, width)]
-    for group in groups[::-1]:
-        half = len(enough)
-        for mask in range(half):
-            # Most lots hold a smaller one that is enough; the others grow by one group.
-            known = enough[mask] or is_enough_without_one(enough, half, mask)
-            more = {} if known else with_vectors(rows[mask], group, width)
-            rows.append(more)
-            enough.append(known or are_told(wanted, more, width))
-    return enough
-
-
-def is_enough_without_one(enough, half, mask):
-    """Whether the lot of a new group, with the bit half, and a mask is enough without one of the mask."""
-    bit = 1
-    while bit < half:
-        if mask & bit != 0 and enough[half + mask - bit]:
-            return True
-        bit = bit * 2
-    return False
-
-
-def with_vectors(rows, vectors, width):
-    """The rows and what further vectors add to them."""
-    more = rows
-    for vector in vectors:
-        more = with_vector(more, vector, width)
-    return more
-
-
-def are_told(wanted, rows, width):
-    """Whether all wanted vectors are sums of the rows."""
-    for vector in wanted:
-        if lead_of(cleared(vector, rows), width) >= 0:
-            return False
-    return True
+    def in_order(self, lots):
+        """The list of the lots, fewer groups first, then by their groups."""
+        size = 1 << len(self._bits)
+        found = []
+        while lots != 0:
+            mask = lots.bit_length() - 1
+            lots = lots ^ 1 << mask
+            found.append(len(self.indexes_of(mask)) * size + size - 1 - mask)
+        return [size - 1 - place % size for place in sorted([int(place) for place in found])]

@@ -1,11 +1,13 @@
 """Which units must be read for a question, and what it costs, also behind a loss."""
 
 from rowvault.asked import asked_of, check_layout, check_question
+from rowvault.bases import Bases
 from rowvault.checks import is_whole_from
 from rowvault.errors import BadCount, Untold
-from rowvault.lots import choices
+from rowvault.lots import choices, vectors_for
 from rowvault.prices import cheapest_of, prices_of, sum_of
 from rowvault.searches import Search, Tree, counted_of
+from rowvault.spans import vector_of
 from rowvault.told import Teller
 
 # The greatest loss that is looked at.
@@ -137,12 +139,16 @@ class Cutoff:
 def musts(layout, question, bare=None, units=None):
     """The tuple of the units that are in each reading."""
     some, none = counted_of(layout, question, bare, units)
-    paper = Teller(layout, some, none).paper_on(question)
-    if not paper:
-        raise Untold(paper)
-    # What a Told does not need is in no way a must.
-    needed = [unit for unit in some if unit in [key[0] for key in paper.weights]]
-    return tuple([unit for unit in needed if not Teller(layout, without(some, unit), none).tells(question)])
+    bases = Bases([vectors_for(layout, unit, none) for unit in some], [vector_of(question & ~none)], len(layout.shape))
+    column = bases.wanted_columns()[0]
+    near = bases.near(column)
+    is_told, needed = bases.look(column, near, [True for _ in some])
+    if not is_told:
+        raise Untold(Teller(layout, some, none).paper_on(question))
+    # What one lot that is enough does not need is in no way a must.
+    lots = [[other != at for other in range(len(some))] for at in needed]
+    held = [at for at, lot in zip(needed, lots) if not bases.look(column, near, lot)[0]]
+    return tuple([unit for at, unit in enumerate(some) if at in held])
 
 
 def readings(layout, question, bare=None, units=None):

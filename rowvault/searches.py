@@ -78,28 +78,35 @@ class Tree:
     """What is needed to show that no lot that is left is enough and costs less than a limit."""
 
     def __init__(self, search, prices, left, limit):
-        self.prices = prices
-        self.limit = limit
-        lost = [unit for unit in search.units if search.mask_of([unit]) & left == 0]
-        self.lots = [search.units_of(mask) for mask in search.lots.least_parting(left)]
-        self.parteds = {lot: search.paper_but([*lot, *lost]) for lot in self.lots}
+        self._search = search
+        self._lost = [unit for unit in search.units if search.mask_of([unit]) & left == 0]
+        self._lots = [search.units_of(mask) for mask in search.lots.least_parting(left)]
+        self._prices = prices
+        self._limit = limit
+        self._parteds = {}
 
     def grown(self, chosen):
         """The tree for some chosen units."""
-        if sum_of(self.prices, chosen) >= self.limit:
+        if sum_of(self._prices, chosen) >= self._limit:
             return None
         lot = self.best_for(chosen)
         branches = [self.grown([*chosen, unit]) for unit in lot]
-        return lot, self.parteds[lot], tuple(branches)
+        return lot, self.parted_of(lot), tuple(branches)
 
     def best_for(self, chosen):
         """The first lot without chosen units that leaves the fewest branches open."""
-        rest = self.limit - sum_of(self.prices, chosen)
+        rest = self._limit - sum_of(self._prices, chosen)
         best, fewest = None, -1
-        for lot in self.lots:
+        for lot in self._lots:
             if any([unit in chosen for unit in lot]):
                 continue
-            many = len([unit for unit in lot if self.prices[unit] < rest])
+            many = len([unit for unit in lot if self._prices[unit] < rest])
             if best is None or many < fewest:
                 best, fewest = lot, many
         return best
+
+    def parted_of(self, lot):
+        """A Parted of all units that are in no lot; most lots stand in no tree, so it is made when it is wanted."""
+        if lot not in self._parteds:
+            self._parteds[lot] = self._search.paper_but([*lot, *self._lost])
+        return self._parteds[lot]

@@ -31,31 +31,10 @@ class Span:
         # A column behind the places tells how often a given question is in a row.
         vectors = [marked(question, len(shape) + at) for at, question in enumerate(questions)]
         made = rows_of(vectors, len(shape))
-        self._shape = shape
-        self._given = questions
+        self.shape = shape
+        self.given = questions
         self._made = made
         self._rows = tuple([question_of(shape, below(row, len(shape))) for row in made.values()])
-
-    @property
-    def shape(self):
-        """The shape of all questions."""
-        return self._shape
-
-    # Other classes have attributes of these names, so the properties have setters, which refuse.
-    @shape.setter
-    def shape(self, value):
-        """A span never changes."""
-        raise AttributeError("a span never changes")
-
-    @property
-    def given(self):
-        """The tuple of the questions handed in."""
-        return self._given
-
-    @given.setter
-    def given(self, value):
-        """A span never changes."""
-        raise AttributeError("a span never changes")
 
     @property
     def rows(self):
@@ -65,7 +44,7 @@ class Span:
     def weigh(self, question):
         """How the question is made of the given ones, or None if it is not in the span."""
         check_question(self, question)
-        width, own = len(self._shape), len(self._shape) + len(self._given)
+        width, own = len(self.shape), len(self.shape) + len(self.given)
         rest = cleared(marked(question, own), self._made)
         if lead_of(rest, width) >= 0:
             return None
@@ -73,8 +52,8 @@ class Span:
 
     def directions(self):
         """Yield the directions, one for each place that leads no row."""
-        for vector in directions_of(self._made, len(self._shape)):
-            yield Table(self._shape, {self._shape.places[at]: vector[at] for at in vector})
+        for vector in directions_of(self._made, len(self.shape)):
+            yield Table(self.shape, {self.shape.places[at]: vector[at] for at in vector})
 
     def direction_for(self, question):
         """The first direction along which a question is not 0, or None."""
@@ -87,7 +66,7 @@ class Span:
     def told_part(self):
         """The part of the places whose amounts are in the span."""
         places = [row.part.places[0] for row in self._rows if len(row.part) == 1]
-        return Part(self._shape, *places)
+        return Part(self.shape, *places)
 
     def __len__(self):
         return len(self._rows)
@@ -96,23 +75,23 @@ class Span:
         return iter(self._rows)
 
     def __contains__(self, x):
-        if not is_question_of(x, self._shape):
+        if not is_question_of(x, self.shape):
             return False
-        return lead_of(cleared(vector_of(x), self._made), len(self._shape)) < 0
+        return lead_of(cleared(vector_of(x), self._made), len(self.shape)) < 0
 
     def __add__(self, other):
         check_other(self, other)
-        questions = [*self._given, *other.given]
-        return Span(self._shape, *questions)
+        questions = [*self.given, *other.given]
+        return Span(self.shape, *questions)
 
     def __and__(self, other):
         check_other(self, other)
-        width = len(self._shape)
+        width = len(self.shape)
         # What both have is what is 0 along the directions of the one and along those of the other.
         along = [*directions_of(self._made, width), *directions_of(other._made, width)]
         both = rows_of(directions_of(rows_of(along, width), width), width)
-        questions = [question_of(self._shape, in_lowest_terms(row)) for row in both.values()]
-        return Span(self._shape, *questions)
+        questions = [question_of(self.shape, in_lowest_terms(row)) for row in both.values()]
+        return Span(self.shape, *questions)
 
     def __le__(self, other):
         check_other(self, other)
@@ -122,7 +101,7 @@ class Span:
         return self <= other and len(self) < len(other)
 
     def __eq__(self, other):
-        return isinstance(other, Span) and self._shape == other.shape and self._rows == other.rows
+        return isinstance(other, Span) and self.shape == other.shape and self._rows == other.rows
 
 
 def check_question(span, question):

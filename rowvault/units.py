@@ -6,6 +6,8 @@ from rowvault.words import Words, is_whole_text, whole_of
 
 # The words, in order.
 UNIT_WORDS = ("journal", "block", "page", "cell", "bucket", "parity")
+PLACES = {"journal": 0, "block": 1, "page": 2, "cell": 3, "bucket": 4, "parity": 5}
+# How many numbers stand behind a word.
 NUMBERS = {"journal": 0, "block": 1, "page": 1, "cell": 2, "bucket": 1, "parity": 2}
 MOST = 99
 
@@ -51,7 +53,7 @@ def unit_parts(unit):
 def rank(word, numbers):
     """An integer by which units are in order; the first unit has 0."""
     first, second = [*numbers, 0, 0][:2]
-    return (UNIT_WORDS.index(word) * (MOST + 1) + first) * (MOST + 1) + second
+    return (PLACES[word] * (MOST + 1) + first) * (MOST + 1) + second
 
 
 def rank_of(unit):

@@ -78,7 +78,7 @@ CLASSES = {
     "questions": {"Question": ("(shape, weights)", """of none lowest read call bool iter getitem add sub neg mul rmul and
                                xor eq str""", "")},
     "spans": {"Span": ("(shape, *questions)", """weigh directions direction_for told_part len iter contains add and le lt
-                       eq""", "shape given rows"), "Weighed": ("(bottom, weights)", "eq", "")},
+                       eq""", "rows"), "Weighed": ("(bottom, weights)", "eq", "")},
     "cuts": {"Cut": (None, "read call eq str", ""), "Every": ("(size)", "call eq str", ""),
              "Leads": (None, "call eq str", ""), "Sizes": ("(*sizes)", "call eq str", "")},
     "kinds": {"Kind": (None, "read units_on eq str", ""), "Blocks": ("(cut, order='keys')", "units_on eq str", ""),
@@ -86,7 +86,7 @@ CLASSES = {
               "Buckets": ("(width)", "units_on eq str", ""),
               "Stripes": ("(width, parities=1)", "units_on eq str", "")},
     "layouts": {"Layout": ("(shape, *kinds)", """touched_by answers span_of read getitem contains len iter add sub le lt
-                           eq str""", "shape kinds units")},
+                           eq str""", "kinds")},
     "told": {"Told": ("(bottom, weights)", "eq", ""), "Parted": ("(one, other)", "bool eq", "")},
     "images": {"Image": ("(layout, table)", """of moved changed_from size_of ask table_back iter getitem add sub
                          eq""", "extent bare")},
@@ -194,8 +194,9 @@ class Interface(unittest.TestCase):
         layout, table = module("layouts").Layout(shape), module("tables").Table(shape)
         made = [shape, layout, table, module("parts").Part(shape), module("questions").Question(shape, {}),
                 module("spans").Span(shape), module("images").Image(layout, table)]
-        attributes = ["key_names days places", "", "shape amounts", "shape places", "shape weights part", "", "layout"]
-        properties = ["", "shape kinds units", "", "", "", "shape given rows", "extent bare"]
+        attributes = ["key_names days places", "shape units", "shape amounts", "shape places", "shape weights part",
+                      "shape given", "layout"]
+        properties = ["", "kinds", "", "", "", "rows", "extent bare"]
         for one, plain, told in zip(made, attributes, properties):
             for name in plain.split():
                 self.assertIn(name, vars(one))

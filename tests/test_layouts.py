@@ -71,8 +71,6 @@ class Made(Case):
 
     def test_never_changes(self):
         layout = Layout(TWO, Pages(1))
-        with self.assertRaises(AttributeError):
-            layout.units = ()
         layout + Buckets(1)
         self.assertEqual(layout, Layout(TWO, Pages(1)))
 

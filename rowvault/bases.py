@@ -1,0 +1,84 @@
+"""Bases: which vectors of some groups tell a wanted one, looked up in a table that is kept from look to look.
+
+The table has a row for each vector of a basis, its lead, and a column for each vector: each vector is
+the sum of the leads, each times what its row has in the vector's column over what it has in its own.
+So a wanted vector is told by the leads in whose rows it is not 0; and along what each row tells all
+vectors stand still that are 0 in it.
+"""
+
+from rowvault.vectors import cleared_at, rows_of
+
+
+class Bases:
+    """What groups of vectors tell of wanted vectors, which stand in the columns behind them."""
+
+    def __init__(self, groups, wanted, width):
+        self._group_by = [at for at, group in enumerate(groups) for _ in group]
+        vectors = [*[vector for group in groups for vector in group], *wanted]
+        table = [{at: vector[place] for at, vector in enumerate(vectors) if place in vector} for place in range(width)]
+        self._table = rows_of(table, len(vectors))
+        self._behind = len(vectors)
+
+    def wanted_columns(self):
+        """The list of the columns of the wanted vectors."""
+        return list(range(len(self._group_by), self._behind))
+
+    def near(self, column):
+        """The list of the columns that hang together with a wanted one; no other ones can play a part for it."""
+        rest = [[at for at in row if at < len(self._group_by) or at == column] for row in self._table.values()]
+        found = {column: True}
+        grown = True
+        while grown:
+            touching = [row for row in rest if any([at in found for at in row])]
+            rest = [row for row in rest if not any([at in found for at in row])]
+            for at in [at for row in touching for at in row]:
+                found[at] = True
+            grown = touching != []
+        return [at for at in found if at != column]
+
+    def look(self, column, near, held):
+        """What some groups tell of a wanted vector; held says of each group whether it is one of them.
+
+        A pair: True and groups, all held, that tell it; or False and groups, none held, without
+        which it is not told.
+        """
+        for at in near:
+            if at not in self._table and held[self._group_by[at]]:
+                self.let_lead(at, held)
+        leads = [lead for lead, row in self._table.items() if column in row]
+        others = [lead for lead in leads if not self.is_held(lead, held)]
+        if others == []:
+            return True, self.groups_of(leads)
+        best = self.groups_of(self._table[others[0]])
+        for lead in others[1:]:
+            some = self.groups_of(self._table[lead])
+            if len(some) < len(best):
+                best = some
+        return False, best
+
+    def is_held(self, column, held):
+        """Whether the vector of a column is one of the groups held."""
+        return column < len(self._group_by) and held[self._group_by[column]]
+
+    def groups_of(self, columns):
+        """The list of the groups of the vectors of some columns."""
+        return list({self._group_by[at]: True for at in columns if at < len(self._group_by)})
+
+    def let_lead(self, column, held):
+        """Let a column lead in the place of one that is not held, if there is one in whose row it is not 0."""
+        leads = [lead for lead, row in self._table.items() if column in row and not self.is_held(lead, held)]
+        if leads != []:
+            self._table = exchanged(self._table, leads[0], column)
+
+
+def exchanged(table, lead, column):
+    """The table in which a column leads in the place of another one, in whose row it is not 0."""
+    own = table[lead]
+    if own[column] < 0:
+        own = {at: -number for at, number in own.items()}
+    more = {}
+    for at, row in table.items():
+        if at != lead:
+            more[at] = cleared_at(column, row, own) if column in row else row
+    more[column] = own
+    return more
