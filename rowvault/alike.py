@@ -1,10 +1,12 @@
 """Layouts that tell one another."""
 
 from rowvault.asked import bare_part, check_layout
+from rowvault.bases import Bases
 from rowvault.checks import is_whole_from
 from rowvault.errors import BadCount, BadKind, BadLayout, TooMany
-from rowvault.layouts import Layout, are_kinds
+from rowvault.layouts import Layout, are_kinds, check_fit
 from rowvault.losses import Rebuilder
+from rowvault.lots import vectors_for
 from rowvault.shapes import MOST_DAYS, MOST_KEYS, MOST_PLACES, Shape
 from rowvault.told import Teller
 
@@ -124,11 +126,16 @@ def needless(layout):
 def slim(layout):
     """The tuple of the units that are left when each that the others tell is left out, the last one first."""
     check_layout(layout)
-    left = list(layout.units)
-    for unit in layout.units[::-1]:
-        if Rebuilder(layout, left).rebuilds([[unit]]):
-            left = [other for other in left if other != unit]
-    return tuple(left)
+    none = bare_part(layout, None)
+    bases = Bases([vectors_for(layout, unit, none) for unit in layout.units], None, len(layout.shape))
+    near = bases.near(None)
+    held = [True for _ in layout.units]
+    for at in range(len(held) - 1, -1, -1):
+        fewer = [*held[:at], False, *held[at + 1:]]
+        is_told, _ = bases.look(None, near, fewer)
+        if is_told:
+            held = fewer
+    return tuple([unit for unit, kept in zip(layout.units, held) if kept])
 
 
 def tells_always(kinds, others, keys, days):
@@ -136,11 +143,13 @@ def tells_always(kinds, others, keys, days):
     check_both_kinds(kinds, others)
     check_extent(keys, days)
     shapes = [Shape(NAMES[:count], many) for count in range(1, keys + 1) for many in range(1, days + 1)]
-    pairs = [(Layout(shape, *kinds), Layout(shape, *others)) for shape in shapes]
-    for one, other in pairs:
-        paper = tells(one, other)
+    for shape in shapes:
+        check_fit(shape, kinds)
+        check_fit(shape, others)
+    for shape in shapes:
+        paper = tells(Layout(shape, *kinds), Layout(shape, *others))
         if not paper:
-            return Breaks(one.shape, paper)
+            return Breaks(shape, paper)
     return Throughout(tuple(shapes))
 
 

@@ -14,7 +14,9 @@ class Bases:
 
     def __init__(self, groups, wanted, width):
         self._group_by = [at for at, group in enumerate(groups) for _ in group]
-        vectors = [*[vector for group in groups for vector in group], *wanted]
+        vectors = [vector for group in groups for vector in group]
+        if wanted is not None:
+            vectors = [*vectors, *wanted]
         table = [{at: vector[place] for at, vector in enumerate(vectors) if place in vector} for place in range(width)]
         self._table = rows_of(table, len(vectors))
         self._behind = len(vectors)
@@ -24,7 +26,12 @@ class Bases:
         return list(range(len(self._group_by), self._behind))
 
     def near(self, column):
-        """The list of the columns that hang together with a wanted one; no other ones can play a part for it."""
+        """The list of the columns that hang together with a wanted one; no other ones can play a part for it.
+
+        None stands for all that is told, for which all play a part.
+        """
+        if column is None:
+            return list(range(len(self._group_by)))
         rest = [[at for at in row if at < len(self._group_by) or at == column] for row in self._table.values()]
         found = {column: True}
         grown = True
@@ -37,7 +44,7 @@ class Bases:
         return [at for at in found if at != column]
 
     def look(self, column, near, held):
-        """What some groups tell of a wanted vector; held says of each group whether it is one of them.
+        """What some groups tell of a wanted vector, or of all; held says of each group whether it is one of them.
 
         A pair: True and groups, all held, that tell it; or False and groups, none held, without
         which it is not told.
@@ -45,7 +52,7 @@ class Bases:
         for at in near:
             if at not in self._table and held[self._group_by[at]]:
                 self.let_lead(at, held)
-        leads = [lead for lead, row in self._table.items() if column in row]
+        leads = [lead for lead, row in self._table.items() if column is None or column in row]
         others = [lead for lead in leads if not self.is_held(lead, held)]
         if others == []:
             return True, self.groups_of(leads)

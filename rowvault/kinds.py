@@ -17,6 +17,10 @@ class Kind:
 
     WORD = "kind"
 
+    def count_on(self, shape, blocks):
+        """How many units a shape has: none."""
+        return 0
+
     def pairs_on(self, shape, blocks):
         """The list of the pairs of a unit and the tuple of its answers: none."""
         return []
@@ -54,6 +58,10 @@ class Blocks(Kind):
         self.cut = cut
         self.order = order
 
+    def count_on(self, shape, blocks):
+        """How many blocks a shape has."""
+        return len(blocks_by(self.cut, shape, self.order))
+
     def pairs_on(self, shape, blocks):
         """The list of the pairs of a block and its answers."""
         rows = blocks_by(self.cut, shape, self.order)
@@ -80,6 +88,10 @@ class Pages(Kind):
         if not is_whole_from(room, 1, 6):
             raise BadCount(room)
         self.room = room
+
+    def count_on(self, shape, blocks):
+        """How many pages a shape has."""
+        return len(range(0, len(shape.key_names), self.room))
 
     def pairs_on(self, shape, blocks):
         """The list of the pairs of a page and its answers."""
@@ -108,6 +120,15 @@ class Cells(Kind):
         if not is_whole_from(base, 2, 6):
             raise BadCount(base)
         self.base = base
+
+    def count_on(self, shape, blocks):
+        """How many cells a shape has, on all levels."""
+        count = 0
+        width = 1
+        while width < len(shape.places):
+            width = width * self.base
+            count = count + len(range(0, len(shape.places), width))
+        return count
 
     def pairs_on(self, shape, blocks):
         """The list of the pairs of a cell and its answers."""
@@ -143,6 +164,10 @@ class Buckets(Kind):
             raise BadCount(width)
         self.width = width
 
+    def count_on(self, shape, blocks):
+        """How many buckets a shape has."""
+        return len(range(0, shape.days, self.width))
+
     def pairs_on(self, shape, blocks):
         """The list of the pairs of a bucket and its answers."""
         pairs = []
@@ -175,6 +200,10 @@ class Stripes(Kind):
             raise BadCount(parities)
         self.width = width
         self.parities = parities
+
+    def count_on(self, shape, blocks):
+        """How many parities a shape has over these blocks."""
+        return len(range(0, blocks.count_on(shape, None), self.width)) * self.parities
 
     def pairs_on(self, shape, blocks):
         """The list of the pairs of a parity and its answers."""

@@ -19,9 +19,8 @@ class Layout:
         if not isinstance(shape, Shape):
             raise BadShape("shape")
         check_kinds(kinds)
+        check_fit(shape, kinds)
         pairs = pairs_of(shape, ordered(kinds))
-        if len(pairs) > self.MOST:
-            raise TooMany("units", self.MOST)
         self.shape = shape
         self._kinds = tuple(ordered(kinds))
         self.units = tuple([unit for unit, answers in pairs])
@@ -120,9 +119,24 @@ def are_kinds(value):
     return isinstance(value, (list, tuple)) and fault_of(value) is None
 
 
-def fit_on(shape, kinds):
-    """Whether the kinds have not too many units on a shape."""
-    return len(pairs_of(shape, ordered(kinds))) <= Layout.MOST
+def check_fit(shape, kinds):
+    """Raise TooMany for kinds that have too many units on a shape."""
+    if count_on(shape, kinds) > Layout.MOST:
+        raise TooMany("units", Layout.MOST)
+
+
+def count_on(shape, kinds):
+    """How many units the kinds have together on a shape."""
+    blocks = blocks_among(kinds)
+    return sum([kind.count_on(shape, blocks) for kind in kinds])
+
+
+def blocks_among(kinds):
+    """The Blocks among the kinds, or None."""
+    for kind in kinds:
+        if kind.WORD == Blocks.WORD:
+            return kind
+    return None
 
 
 def ordered(kinds):
@@ -132,13 +146,8 @@ def ordered(kinds):
 
 def pairs_of(shape, kinds):
     """The list of the pairs of a unit and its answers, the kinds being in order."""
-    blocks = None
-    pairs = []
-    for kind in kinds:
-        if kind.WORD == Blocks.WORD:
-            blocks = kind
-        pairs.extend(kind.pairs_on(shape, blocks))
-    return pairs
+    blocks = blocks_among(kinds)
+    return [pair for kind in kinds for pair in kind.pairs_on(shape, blocks)]
 
 
 def told_units(layout, units):

@@ -3,7 +3,7 @@
 from rowvault.alike import Alike, Apart, Breaks, Silent, Tells, check_both_kinds, check_two
 from rowvault.asked import check_layout
 from rowvault.checks import is_whole_from
-from rowvault.layouts import Layout, fit_on
+from rowvault.layouts import Layout, count_on
 from rowvault.look_readings import is_lot_of
 from rowvault.look_told import is_answer_key, shows_parted, shows_told
 from rowvault.losses import Rebuilder
@@ -31,7 +31,7 @@ def shows_breaks(kinds, others, value):
     check_both_kinds(kinds, others)
     if not isinstance(value, Breaks) or not isinstance(value.shape, Shape):
         return False
-    if not fit_on(value.shape, kinds) or not fit_on(value.shape, others):
+    if count_on(value.shape, kinds) > Layout.MOST or count_on(value.shape, others) > Layout.MOST:
         return False
     return is_silent(Layout(value.shape, *kinds), Layout(value.shape, *others), value.silent)
 

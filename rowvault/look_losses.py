@@ -8,7 +8,7 @@ from rowvault.layouts import told_units
 from rowvault.look_readings import is_lot_of
 from rowvault.look_told import is_answer_key, shows_parted, shows_told
 from rowvault.losses import (
-    Backed, Covers, Help, Lacking, Rebuilt, Strength, Unbacked, Uncovered, backed_by, check_losses, check_many,
+    Backed, Covers, Help, Lacking, Rebuilder, Rebuilt, Strength, Unbacked, Uncovered, check_losses, check_many,
     helpers_of, joined, losses_of, more_lots, units_but,
 )
 from rowvault.prices import prices_of, sum_of
@@ -74,10 +74,11 @@ def shows_backed(layout, many, other, value):
     units = [unit for unit in both.units if unit in layout or unit in value.units]
     if not are_rebuilts(both, units, losses, value.rebuilts):
         return False
-    ahead = True
+    rebuilder = Rebuilder(both, both.units)
     for lot in more_lots(other.units):
-        ahead = ahead and lot != value.units
-        if ahead and backed_by(layout, lot, both).rebuilds(losses):
+        if lot == value.units:
+            return True
+        if rebuilder.rebuilds(losses, units_but(other.units, lot)):
             return False
     return True
 

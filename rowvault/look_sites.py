@@ -9,7 +9,7 @@ from rowvault.readings import without
 from rowvault.sites import (
     AtSites, Bearing, Bears, Fails, NoSpread, NotAsked, Sites, Spread, TooFew, asked_sites, check_many, check_sites,
 )
-from rowvault.ways import check_spread, sites_held, ways_of
+from rowvault.ways import check_spread, first_way
 
 
 def shows_at_sites(sites, numbers, question, value):
@@ -106,8 +106,5 @@ def are_weak(layout, value):
 
 def is_always_lost(layout, many, lost, lots):
     """Whether one of the lots is at so few sites, in whatever way the units are kept."""
-    for way in ways_of(len(layout.units), many):
-        site_by = {unit: site for unit, site in zip(layout.units, way)}
-        if all([sites_held(site_by, lot) > lost for lot in lots]):
-            return False
-    return True
+    # A lot without units is at no site.
+    return () in lots or first_way(layout.units, many, lost, lots) is None

@@ -180,9 +180,9 @@ def fewest_more(layout, many, other):
         paper = rebuilder.paper_on(lost)
         if not paper:
             return Unbacked(lost, paper)
-    more = first_backing(layout, losses, other, both)
-    rebuilder = backed_by(layout, more, both)
-    return Backed(more, {lost: rebuilder.paper_on(lost) for lost in losses})
+    more = first_backing(rebuilder, losses, other.units)
+    backed = Rebuilder(both, [unit for unit in both.units if unit in layout or unit in more])
+    return Backed(more, {lost: backed.paper_on(lost) for lost in losses})
 
 
 class Rebuilder:
@@ -193,10 +193,11 @@ class Rebuilder:
         self._units = units
         self._found = Ties(layout, units)
 
-    def rebuilds(self, losses):
-        """Whether some losses of units in order are all rebuilt."""
+    def rebuilds(self, losses, absent=()):
+        """Whether some losses of units in order are all rebuilt, also without some absent units."""
         for lost in losses:
-            if len(self._found.tolds_of(lost)) < sum([len(self._layout[unit]) for unit in lost]):
+            tolds = self._found.tolds_of([*lost, *absent])
+            if len([key for key in tolds if key[0] in lost]) < sum([len(self._layout[unit]) for unit in lost]):
                 return False
         return True
 
@@ -236,8 +237,13 @@ def losses_of(units, many):
 
 def covers_by(rebuilder, units, many):
     """The Covers of all losses of so many units, or an Uncovered."""
+    return covers_of(rebuilder, losses_of(units, many))
+
+
+def covers_of(rebuilder, losses):
+    """The Covers of some losses, or an Uncovered of the first one that is not rebuilt."""
     rebuilts = {}
-    for lost in losses_of(units, many):
+    for lost in losses:
         paper = rebuilder.paper_on(lost)
         if not paper:
             return Uncovered(lost, paper)
@@ -273,14 +279,9 @@ def more_lots(units):
     return [lot for many in range(len(units) + 1) for lot in losses_of(units, many)]
 
 
-def backed_by(layout, more, both):
-    """What the units of a layout and some more ones tell of one another."""
-    return Rebuilder(both, [unit for unit in both.units if unit in layout or unit in more])
-
-
-def first_backing(layout, losses, other, both):
-    """The first lot of units of the other layout that backs all losses; all its units do."""
-    for lot in more_lots(other.units):
-        if backed_by(layout, lot, both).rebuilds(losses):
+def first_backing(rebuilder, losses, units):
+    """The first lot of the units that backs all losses; all of them do."""
+    for lot in more_lots(units):
+        if rebuilder.rebuilds(losses, units_but(units, lot)):
             return lot
-    return other.units
+    return units

@@ -6,7 +6,7 @@ together are an integer too: it has the bit of the number of each of their masks
 """
 
 from rowvault.bases import Bases
-from rowvault.spans import vector_of
+from rowvault.spans import vector_but
 
 
 def choices(count, many):
@@ -25,20 +25,19 @@ def first_behind(row):
 
 def matter(layout, units, bare):
     """The tuple of the units in order with an answer that has a weight outside of bare."""
-    filled = ~bare
-    return tuple([unit for unit in units if any([bool(one & filled) for one in layout[unit]])])
+    return tuple([unit for unit in units if any([vector != {} for vector in vectors_for(layout, unit, bare)])])
 
 
 def vectors_for(layout, unit, bare):
     """The list of the vectors of a unit's answers, but for their weights at bare places."""
-    filled = ~bare
-    return [vector_of(one & filled) for one in layout[unit]]
+    return [vector_but(one, bare) for one in layout[unit]]
 
 
 class Lots:
     """Which lots of groups are enough.
 
-    groups are lists of vectors, one list for each group; wanted are the vectors to be told.
+    groups are lists of vectors, one list for each group; wanted are the vectors to be told, None
+    standing for all that all groups tell.
     """
 
     def __init__(self, groups, wanted, width):
@@ -46,25 +45,34 @@ class Lots:
         self._every = (1 << (1 << len(groups))) - 1
         # For each group all lots that lack it.
         self._lacking = [self._every // ((1 << bit) + 1) for bit in self._bits]
-        self._enough = self.enough_by(Bases(groups, wanted, width))
+        self._enough = self.enough_by(groups, wanted, Bases(groups, wanted, width))
 
-    def enough_by(self, bases):
-        """All lots that are enough."""
+    def enough_by(self, groups, wanted, bases):
+        """All lots that are enough for what is wanted, one vector after another."""
+        if wanted is None:
+            return self._every & ~self.short_by(bases, None, 0, 0)
         short = 0
-        for column in bases.wanted_columns():
-            near = bases.near(column)
+        for vector, column in zip(wanted, bases.wanted_columns()):
             told = 0
-            left = self._every & ~short
-            while left != 0:
-                mask = left.bit_length() - 1
-                is_told, some = bases.look(column, near, [mask & bit != 0 for bit in self._bits])
-                # One look settles all lots that hold these groups, or all that lack them.
-                if is_told:
-                    told = told | self.holding(some)
-                else:
-                    short = short | self.apart_from(some)
-                left = self._every & ~short & ~told
+            for at in [at for at, group in enumerate(groups) if vector in group]:
+                told = told | self.holding([at])
+            short = self.short_by(bases, column, told, short)
         return self._every & ~short
+
+    def short_by(self, bases, column, told, short):
+        """All lots known to be short and those that do not tell a wanted column; some are known to tell it."""
+        near = bases.near(column)
+        left = self._every & ~short & ~told
+        while left != 0:
+            mask = (left & -left).bit_length() - 1
+            is_told, some = bases.look(column, near, [mask & bit != 0 for bit in self._bits])
+            # One look settles all lots that hold these groups, or all that lack them.
+            if is_told:
+                told = told | self.holding(some)
+            else:
+                short = short | self.apart_from(some)
+            left = self._every & ~short & ~told
+        return short
 
     def holding(self, indexes):
         """All lots that have all of some groups."""

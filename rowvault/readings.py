@@ -7,7 +7,7 @@ from rowvault.errors import BadCount, Untold
 from rowvault.lots import choices, vectors_for
 from rowvault.prices import cheapest_of, prices_of, sum_of
 from rowvault.searches import Search, Tree, counted_of
-from rowvault.spans import vector_of
+from rowvault.spans import vector_but
 from rowvault.told import Teller
 
 # The greatest loss that is looked at.
@@ -139,7 +139,7 @@ class Cutoff:
 def musts(layout, question, bare=None, units=None):
     """The tuple of the units that are in each reading."""
     some, none = counted_of(layout, question, bare, units)
-    bases = Bases([vectors_for(layout, unit, none) for unit in some], [vector_of(question & ~none)], len(layout.shape))
+    bases = Bases([vectors_for(layout, unit, none) for unit in some], [vector_but(question, none)], len(layout.shape))
     column = bases.wanted_columns()[0]
     near = bases.near(column)
     is_told, needed = bases.look(column, near, [True for _ in some])

@@ -5,7 +5,7 @@ from rowvault.errors import TooMany, Untold
 from rowvault.layouts import told_units
 from rowvault.lots import Lots, matter, vectors_for
 from rowvault.prices import sum_of
-from rowvault.spans import vector_of
+from rowvault.spans import vector_but
 from rowvault.told import Teller
 
 # The most units that may matter.
@@ -31,8 +31,7 @@ def matter_at_most(layout, units, bare):
 def lots_of(layout, units, questions, bare):
     """Which lots of the units tell all of some questions."""
     groups = [vectors_for(layout, unit, bare) for unit in units]
-    filled = ~bare
-    return Lots(groups, [vector_of(question & filled) for question in questions], len(layout.shape))
+    return Lots(groups, [vector_but(question, bare) for question in questions], len(layout.shape))
 
 
 def telling_lots(layout, units, questions, bare):

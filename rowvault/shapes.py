@@ -22,13 +22,13 @@ class Shape:
         self.key_names = tuple(sorted([str(key) for key in keys]))
         self.days = days
         self.places = tuple([(key, day) for key in self.key_names for day in range(days)])
-        self._indexes = {place: index for index, place in enumerate(self.places)}
+        self.indexes = {place: index for index, place in enumerate(self.places)}
 
     def index_of(self, place):
         """The index of a place."""
         if place not in self:
             raise BadPlace(place)
-        return self._indexes[place]
+        return self.indexes[place]
 
     def __len__(self):
         return len(self.places)
@@ -41,7 +41,7 @@ class Shape:
             return False
         key, day = x
         # (key, True) equals (key, 1), so the kinds are looked at ahead of the dict.
-        return isinstance(key, str) and is_whole(day) and x in self._indexes
+        return isinstance(key, str) and is_whole(day) and x in self.indexes
 
     def __getitem__(self, at):
         if not is_whole_from(at, 0, len(self.places) - 1):

@@ -10,7 +10,7 @@ from rowvault.searches import matter_at_most
 from rowvault.spans import vector_of
 from rowvault.told import Teller
 from rowvault.units import take_some_units, units_text
-from rowvault.ways import check_lots, check_spread, lots_by, sites_held, ways_of
+from rowvault.ways import check_lots, check_spread, first_way, lots_by
 from rowvault.words import Words
 
 
@@ -227,7 +227,7 @@ def weak_lots(layout):
     none = bare_part(layout, None)
     units = matter_at_most(layout, layout.units, none)
     groups = [vectors_for(layout, unit, none) for unit in units]
-    lots = Lots(groups, [vector for group in groups for vector in group], len(layout.shape))
+    lots = Lots(groups, None, len(layout.shape))
     for mask in lots.least_parting(lots.full()):
         yield tuple([units[index] for index in lots.indexes_of(mask)])
 
@@ -237,13 +237,12 @@ def spread(layout, many, lost):
     check_spread(layout, many, lost)
     rebuilder = Rebuilder(layout, layout.units)
     weak = list(weak_lots(layout))
-    for way in ways_of(len(layout.units), many):
-        site_by = {unit: site for unit, site in zip(layout.units, way)}
-        if all([sites_held(site_by, lot) > lost for lot in weak]):
-            lots = lots_by(site_by, many)
-            sites = Sites(layout, *lots)
-            return Spread(sites, bears_by(rebuilder, sites, lost))
-    return NoSpread({lot: rebuilder.paper_on(lot) for lot in weak})
+    way = first_way(layout.units, many, lost, weak)
+    if way is None:
+        return NoSpread({lot: rebuilder.paper_on(lot) for lot in weak})
+    lots = lots_by(way, layout.units, many)
+    sites = Sites(layout, *lots)
+    return Spread(sites, bears_by(rebuilder, sites, lost))
 
 
 def check_sites(sites):

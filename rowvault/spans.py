@@ -5,7 +5,7 @@ from rowvault.parts import Part
 from rowvault.questions import Question, is_question_of
 from rowvault.shapes import Shape
 from rowvault.tables import Table
-from rowvault.vectors import below, cleared, directions_of, in_lowest_terms, lead_of, rows_of
+from rowvault.vectors import below, cleared, direction_at, directions_of, in_lowest_terms, lead_of, rows_of
 
 
 class Weighed:
@@ -53,15 +53,14 @@ class Span:
     def directions(self):
         """Yield the directions, one for each place that leads no row."""
         for vector in directions_of(self._made, len(self.shape)):
-            yield Table(self.shape, {self.shape.places[at]: vector[at] for at in vector})
+            yield table_of(self.shape, vector)
 
     def direction_for(self, question):
         """The first direction along which a question is not 0, or None."""
         check_question(self, question)
-        for table in self.directions():
-            if question(table) != 0:
-                return table
-        return None
+        free = lead_of(cleared(vector_of(question), self._made), len(self.shape))
+        # What is left of the question is 0 at all leading places, so along this direction it is not 0.
+        return None if free < 0 else table_of(self.shape, direction_at(free, self._made))
 
     def told_part(self):
         """The part of the places whose amounts are in the span."""
@@ -118,7 +117,21 @@ def check_other(span, other):
 
 def vector_of(question):
     """The weights by the indexes of their places."""
-    return {question.shape.index_of(place): weight for place, weight in question.weights.items()}
+    indexes = question.shape.indexes
+    return {indexes[place]: weight for place, weight in question.weights.items()}
+
+
+def vector_but(question, bare):
+    """The weights outside of a part by the indexes of their places."""
+    if bare.places == ():
+        return vector_of(question)
+    indexes = question.shape.indexes
+    return {indexes[place]: weight for place, weight in question.weights.items() if place not in bare.places}
+
+
+def table_of(shape, vector):
+    """The table with these amounts by the indexes of their places."""
+    return Table(shape, {shape.places[at]: vector[at] for at in vector})
 
 
 def marked(question, column):

@@ -7,7 +7,7 @@ from rowvault.checks import is_whole_from
 from rowvault.errors import BadCount, BadVault
 from rowvault.images import are_answers, are_answers_of
 from rowvault.layouts import told_units
-from rowvault.losses import Rebuilder, check_losses, losses_of
+from rowvault.losses import Rebuilder, check_losses, covers_of, losses_of
 from rowvault.spans import vector_of
 from rowvault.tables import Table
 from rowvault.ties import Ties
@@ -156,29 +156,25 @@ def finds(layout, many):
     """A Finds of all lots of many units, or an Unfound."""
     check_layout(layout)
     lots = lots_spoilt(layout, many, 1)
-    rebuilder = Rebuilder(layout, layout.units)
-    rebuilts = {lot: rebuilder.paper_on(lot) for lot in lots}
-    for lot in lots:
-        if not rebuilts[lot]:
-            parted = rebuilts[lot].parted
-            return Unfound(parted.one, parted.other)
-    return Finds(rebuilts)
+    paper = covers_of(Rebuilder(layout, layout.units), lots)
+    if not paper:
+        parted = paper.lacking.parted
+        return Unfound(parted.one, parted.other)
+    return Finds(paper.rebuilts)
 
 
 def rights(layout, many):
     """A Rights of all lots of twice many units, or an Unrighted."""
     check_layout(layout)
     lots = lots_spoilt(layout, many, 2)
-    rebuilder = Rebuilder(layout, layout.units)
-    rebuilts = {lot: rebuilder.paper_on(lot) for lot in lots}
-    for lot in lots:
-        if not rebuilts[lot]:
-            parted = rebuilts[lot].parted
-            # The answers are those of the one table, but for half of the lot those of the other one.
-            tables = {unit: parted.other if unit in lot[:many] else parted.one for unit in layout.units}
-            given = {unit: answers_by(layout, unit, tables[unit]) for unit in layout.units}
-            return Unrighted(parted.one, parted.other, given)
-    return Rights(rebuilts)
+    paper = covers_of(Rebuilder(layout, layout.units), lots)
+    if not paper:
+        parted = paper.lacking.parted
+        # The answers are those of the one table, but for half of the lot those of the other one.
+        tables = {unit: parted.other if unit in paper.lost[:many] else parted.one for unit in layout.units}
+        given = {unit: answers_by(layout, unit, tables[unit]) for unit in layout.units}
+        return Unrighted(parted.one, parted.other, given)
+    return Rights(paper.rebuilts)
 
 
 def righted(layout, answers, many):
@@ -188,22 +184,25 @@ def righted(layout, answers, many):
     lots = lots_spoilt(layout, many, 1)
     found = Ties(layout, layout.units)
     values = found.values_of(answers)
-    broken = {lot: found.broken_by(lot, values) for lot in lots}
-    fitting = [lot for lot in lots if broken[lot] is None]
-    if fitting == []:
-        return Hopeless({lot: Broken(broken[lot]) for lot in lots})
     rebuilder = Rebuilder(layout, layout.units)
-    for lot in fitting:
-        if not rebuilder.rebuilds([lot]):
-            return unclear_beside(layout, answers, lot, rebuilder.paper_on(lot).parted)
-    fixed = found.fixed_by(fitting[0], values)
-    for lot in fitting:
-        if found.fixed_by(lot, values) != fixed:
-            return Unclear(giving_but(layout, fitting[0], answers), giving_but(layout, lot, answers))
-    bottom, table = giving_but(layout, fitting[0], answers)
-    spoilt = units_wrong(layout, answers, bottom, table)
-    cases = {lot: rebuilder.paper_on(lot) if broken[lot] is None else Broken(broken[lot]) for lot in lots}
-    return Righted(bottom, table, spoilt, cases)
+    first, fixed = None, None
+    cases = {}
+    for lot in lots:
+        broken = found.broken_by(lot, values)
+        cases[lot] = rebuilder.paper_on(lot) if broken is None else Broken(broken)
+        if broken is not None:
+            continue
+        # The answers without this lot break no relation, so a table stands behind them.
+        if not cases[lot]:
+            return unclear_beside(layout, answers, lot, cases[lot].parted)
+        if first is None:
+            first, fixed = lot, found.fixed_by(lot, values)
+        elif found.fixed_by(lot, values) != fixed:
+            return Unclear(giving_but(layout, first, answers), giving_but(layout, lot, answers))
+    if first is None:
+        return Hopeless(cases)
+    bottom, table = giving_but(layout, first, answers)
+    return Righted(bottom, table, units_wrong(layout, answers, bottom, table), cases)
 
 
 def check_some_answers(layout, answers):

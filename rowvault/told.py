@@ -3,8 +3,9 @@
 from rowvault.asked import asked_of, bare_part, check_layout, check_question, check_table
 from rowvault.errors import BadRule
 from rowvault.layouts import told_units
-from rowvault.spans import Span
+from rowvault.spans import Span, table_of, vector_but
 from rowvault.tables import Table
+from rowvault.vectors import cleared, direction_at, lead_of, rows_of
 
 
 class Told:
@@ -37,21 +38,28 @@ class Teller:
 
     def __init__(self, layout, units, bare):
         self._shape = layout.shape
-        self._filled = ~bare
-        self._answer_keys = [key for key, answer in layout.answers(units)]
-        self._span = span_but(layout, units, bare)
+        self._blank = bare
+        pairs = list(layout.answers(units))
+        self._answer_keys = [key for key, answer in pairs]
+        # A column behind the places tells how often an answer is in a row.
+        first = len(layout.shape)
+        vectors = [{**vector_but(pairs[at][1], bare), first + at: 1} for at in range(len(pairs))]
+        self._made = rows_of(vectors, first)
 
     def tells(self, question):
         """Whether the units tell a question."""
-        return question & self._filled in self._span
+        return lead_of(cleared(vector_but(question, self._blank), self._made), len(self._shape)) < 0
 
     def paper_on(self, question):
         """A Told of a question, or a Parted."""
-        weighed = self._span.weigh(question & self._filled)
-        if weighed is None:
-            return Parted(Table(self._shape), self._span.direction_for(question & self._filled))
-        pairs = [(key, weight) for key, weight in zip(self._answer_keys, weighed.weights) if weight != 0]
-        return Told(weighed.bottom, {key: weight for key, weight in pairs})
+        first = len(self._shape)
+        own = first + len(self._answer_keys)
+        rest = cleared({**vector_but(question, self._blank), own: 1}, self._made)
+        free = lead_of(rest, first)
+        if free >= 0:
+            return Parted(Table(self._shape), table_of(self._shape, direction_at(free, self._made)))
+        pairs = [(key, rest.get(first + at, 0)) for at, key in enumerate(self._answer_keys)]
+        return Told(rest[own], {key: -weight for key, weight in pairs if weight != 0})
 
 
 def told(layout, units, question, bare=None):

@@ -35,22 +35,42 @@ def check_spread(layout, many, lost):
         raise BadCount(lost)
 
 
-def ways_of(count, many):
-    """The list of the tuples of sites of so many units, at just so many sites, in order.
+def first_way(units, many, lost, lots):
+    """The first way to keep units at just so many sites, each of the lots at more sites than may be lost, or None.
 
-    Each site stands first behind all sites of less numbers.
+    A way is the tuple of the sites of the units. Each site stands first behind all sites of less numbers.
     """
-    rows = [()]
-    for _ in range(count):
-        rows = [(*row, site) for row in rows for site in range(min(int(many), len(set(row)) + 1))]
-    return [row for row in rows if len(set(row)) == many]
+    return way_from((), units, many, lost, lots)
 
 
-def sites_held(site_by, lot):
-    """How many sites have units of a lot."""
-    return len(set([site_by[unit] for unit in lot]))
+def way_from(way, units, many, lost, lots):
+    """The first such way that begins with the sites of the first units, or None."""
+    if len(way) == len(units):
+        return way
+    used = len(set(way))
+    last = units[len(way)]
+    for site in range(min(int(many), used + 1)):
+        more = (*way, site)
+        # The units behind must be able to fill all sites, and each lot that is kept is kept well.
+        if len(set(more)) + len(units) - len(more) < many:
+            continue
+        if all([sites_held(more, units, lot) > lost for lot in lots if is_kept_by(units, lot, last)]):
+            found = way_from(more, units, many, lost, lots)
+            if found is not None:
+                return found
+    return None
 
 
-def lots_by(site_by, many):
+def is_kept_by(units, lot, last):
+    """Whether a lot has a unit, and none behind it."""
+    return [unit for unit in units if unit in lot][-1:] == [last]
+
+
+def sites_held(way, units, lot):
+    """How many sites have units of a lot, of those that a way begins with."""
+    return len(set([site for site, unit in zip(way, units) if unit in lot]))
+
+
+def lots_by(way, units, many):
     """The list of the lots at so many sites."""
-    return [[unit for unit in site_by if site_by[unit] == number] for number in range(many)]
+    return [[unit for unit, site in zip(units, way) if site == number] for number in range(many)]
