@@ -10,7 +10,7 @@ from rowvault.searches import matter_at_most, telling_lots
 from rowvault.shapes import Shape
 from rowvault.tables import is_table_of
 from rowvault.told import Teller
-from rowvault.words import Words
+from rowvault.words import words_of
 
 
 class Book:
@@ -106,8 +106,7 @@ class Book:
     def read(cls, text, shape):
         """The book with this text."""
         check_shape(shape)
-        words = Words(text)
-        rows = take_rows(words, shape)
+        rows, words = take_rows(words_of(text), shape)
         words.end()
         pairs = [(name, Question(shape, weights)) for name, weights in rows]
         return cls(shape, *pairs)
@@ -146,21 +145,26 @@ def check_layout_of(layout, shape):
 
 
 def take_rows(words, shape):
-    """The list of the pairs of a name and the weights of its question that the next words tell."""
+    """The list of the pairs of a name and the weights of its question, and the words behind them."""
     if words.peek() == "none":
-        words.take()
-        return []
-    rows = [take_row(words, shape, "")]
+        return [], words.behind()
+    row, words = take_row(words, shape, "")
+    rows = [row]
     while words.peek() == ";":
-        words.take()
-        rows.append(take_row(words, shape, rows[-1][0]))
-    return rows
+        row, words = take_row(words.behind(), shape, row[0])
+        rows.append(row)
+    return rows, words
 
 
 def take_row(words, shape, after):
-    """The pair of a name, above the one ahead, and the weights of its question that the next words tell."""
+    """The pair of a name, above the one ahead, and the weights of its question, and the words behind."""
+    name, words = take_name(words, after)
+    weights, words = take_weights(words.behind_one([":"]), shape)
+    return (name, weights), words
+
+
+def take_name(words, after):
+    """The name, above the one ahead, that the next word tells, and the words behind it."""
     if not is_name(words.peek()) or words.peek() <= after:
         words.refuse()
-    name = words.take()
-    words.take_one([":"])
-    return name, take_weights(words, shape)
+    return words.peek(), words.behind()

@@ -3,7 +3,7 @@
 from rowvault.checks import is_whole_from
 from rowvault.errors import BadCount, BadKind, BadShape, TooMany
 from rowvault.shapes import Shape
-from rowvault.words import Words
+from rowvault.words import words_of
 
 ORDERS = ("keys", "days")
 MOST = 36
@@ -32,8 +32,7 @@ class Cut:
     @classmethod
     def read(cls, text):
         """The cut with this text."""
-        words = Words(text)
-        cut = take_cut(words)
+        cut, words = take_cut(words_of(text))
         words.end()
         return cut
 
@@ -131,14 +130,16 @@ def blocks_by(cut, shape, order):
 
 
 def take_cut(words):
-    """The cut that the next words tell."""
-    word = words.take_one(["every", "leads", "sizes"])
-    if word == "every":
-        return Every(words.take_from(1, MOST))
+    """The cut that the next words tell, and the words behind it."""
+    word, words = words.take_one(["every", "leads", "sizes"])
     if word == "leads":
-        return Leads()
-    sizes = [words.take_from(1, MOST)]
+        return Leads(), words
+    size, words = words.take_from(1, MOST)
+    if word == "every":
+        return Every(size), words
+    sizes = [size]
     # Behind a size the text can end, so what is no size is left to what follows.
     while len(sizes) < MOST and words.is_at_whole():
-        sizes.append(words.take_from(1, MOST))
-    return Sizes(*sizes)
+        size, words = words.take_from(1, MOST)
+        sizes.append(size)
+    return Sizes(*sizes), words

@@ -6,7 +6,7 @@ from rowvault.errors import BadCount, BadKind, BadShape
 from rowvault.questions import Question
 from rowvault.shapes import Shape
 from rowvault.units import unit_of
-from rowvault.words import Words
+from rowvault.words import words_of
 
 # The first words of the texts of kinds, in the order of the units.
 KIND_WORDS = ("blocks", "pages", "cells", "buckets", "stripes")
@@ -39,8 +39,7 @@ class Kind:
     @classmethod
     def read(cls, text):
         """The kind with this text."""
-        words = Words(text)
-        kind = take_kind(words, KIND_WORDS)
+        kind, words = take_kind(words_of(text), KIND_WORDS)
         words.end()
         return kind
 
@@ -256,16 +255,21 @@ def parity_answer(shape, rows, parity, at):
 
 
 def take_kind(words, choices):
-    """The kind that the next words tell; its first word must be one of the choices."""
-    word = words.take_one(choices)
+    """The kind that the next words tell, and the words behind it; its first word must be one of the choices."""
+    word, words = words.take_one(choices)
     if word == "blocks":
-        order = words.take_one(ORDERS)
-        return Blocks(take_cut(words), order)
+        order, words = words.take_one(ORDERS)
+        cut, words = take_cut(words)
+        return Blocks(cut, order), words
     if word == "pages":
-        return Pages(words.take_from(1, 6))
+        room, words = words.take_from(1, 6)
+        return Pages(room), words
     if word == "cells":
-        return Cells(words.take_from(2, 6))
+        base, words = words.take_from(2, 6)
+        return Cells(base), words
     if word == "buckets":
-        return Buckets(words.take_from(1, 8))
-    width = words.take_from(2, 6)
-    return Stripes(width, words.take_from(1, 2))
+        width, words = words.take_from(1, 8)
+        return Buckets(width), words
+    width, words = words.take_from(2, 6)
+    parities, words = words.take_from(1, 2)
+    return Stripes(width, parities), words

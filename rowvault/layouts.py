@@ -4,7 +4,7 @@ from rowvault.errors import BadKind, BadLayout, BadPlace, BadShape, BadText, Bad
 from rowvault.kinds import KIND_WORDS, Blocks, Kind, Stripes, take_kind
 from rowvault.shapes import Shape, take_shape
 from rowvault.spans import Span
-from rowvault.words import Words
+from rowvault.words import words_of
 
 # The words of the kinds' units, in order.
 WORDS = ("block", "page", "cell", "bucket", "parity")
@@ -94,7 +94,7 @@ class Layout:
         """The layout with this text."""
         if not isinstance(text, str):
             raise BadText(0, 0)
-        (keys, days), kinds = take_layout(text.split("\n"), 0)
+        keys, days, kinds = take_layout(text.split("\n"), 0)
         return cls(Shape(keys, days), *kinds)
 
 
@@ -161,17 +161,15 @@ def told_units(layout, units):
 
 
 def take_layout(lines, first):
-    """The pair (keys, days) and the kinds of a layout that lines tell; the first one has this number."""
-    words = Words(lines[0], first)
-    words.take_one(["shape"])
-    places = take_shape(words)
+    """The keys, the days and the kinds of a layout that lines tell; the first one has this number."""
+    keys, days, words = take_shape(words_of(lines[0], first).behind_one(["shape"]))
     words.end()
     kinds = []
     for at, line in enumerate(lines[1:], start=first + 1):
-        words = Words(line, at)
-        kinds.append(take_kind(words, kind_choices(kinds)))
+        kind, words = take_kind(words_of(line, at), kind_choices(kinds))
         words.end()
-    return places, kinds
+        kinds.append(kind)
+    return keys, days, kinds
 
 
 def kind_choices(kinds):

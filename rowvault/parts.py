@@ -3,7 +3,7 @@
 from rowvault.checks import is_whole_from
 from rowvault.errors import BadCount, BadName, BadPart, BadPlace
 from rowvault.shapes import Shape, take_place
-from rowvault.words import Words
+from rowvault.words import words_of
 
 
 class Part:
@@ -106,8 +106,7 @@ class Part:
     def read(cls, text, shape):
         """The part with this text."""
         check_shape(shape)
-        words = Words(text)
-        places = take_places(words, shape)
+        places, words = take_places(words_of(text), shape)
         words.end()
         return cls(shape, *places)
 
@@ -137,12 +136,12 @@ def is_part_of(value, shape):
 
 
 def take_places(words, shape):
-    """The places, in order, that the next words tell."""
+    """The places, in order, that the next words tell, and the words behind them."""
     if words.peek() == "-":
-        words.take()
-        return []
-    places = [take_place(words, shape)]
+        return [], words.behind()
+    place, words = take_place(words, shape)
+    places = [place]
     while words.peek() == ",":
-        words.take()
-        places.append(take_place(words, shape, shape.index_of(places[-1])))
-    return places
+        place, words = take_place(words.behind(), shape, shape.index_of(place))
+        places.append(place)
+    return places, words

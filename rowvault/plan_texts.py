@@ -11,41 +11,45 @@ SIGNS = ("+", "-", "*", "//")
 
 
 def take_steps(words):
-    """The list of the steps of the plan that the next words tell."""
+    """The list of the steps of the plan that the next words tell, and the words behind it."""
     steps = []
     # For each open bracket the sign that is read in it, at first none.
     signs = []
     while True:
-        word = words.take_one(["read", "given", "("])
+        word, words = words.take_one(["read", "given", "("])
         if word == "(":
             signs.append("")
             continue
-        steps.append(take_leaf(words, word))
+        leaf, words = take_leaf(words, word)
+        steps.append(leaf)
         while signs:
             sign = signs.pop()
             if sign == "":
-                sign = words.take_one(SIGNS)
+                sign, words = words.take_one(SIGNS)
                 if sign in ("+", "-"):
                     signs.append(sign)
                     break
-                steps.append((sign, take_number(words, sign)))
+                number, words = take_number(words, sign)
+                steps.append((sign, number))
             else:
                 steps.append((sign,))
-            words.take_one([")"])
+            words = words.behind_one([")"])
         else:
-            return steps
+            return steps, words
 
 
 def take_leaf(words, word):
-    """The step of a read or of an integer, behind its word."""
+    """The step of a read or of an integer, behind its word, and the words behind it."""
     if word == "given":
-        return word, words.take_whole()
-    unit = take_unit(words, -1, ())
-    return word, unit, words.take_from(0, MOST_INDEX)
+        value, words = words.take_whole()
+        return (word, value), words
+    unit, words = take_unit(words, -1, ())
+    index, words = words.take_from(0, MOST_INDEX)
+    return (word, unit, index), words
 
 
 def take_number(words, sign):
-    """The integer that the next word tells behind a sign."""
+    """The integer that the next word tells behind a sign, and the words behind it."""
     if sign == "//" and words.is_at_whole() and whole_of(words.peek()) < 1:
         words.refuse()
     return words.take_whole()

@@ -9,7 +9,7 @@ from rowvault.images import Image
 from rowvault.plan_texts import MOST_INDEX, take_steps
 from rowvault.questions import Question
 from rowvault.units import in_order, is_unit
-from rowvault.words import Words, whole_text
+from rowvault.words import whole_text, words_of
 from rowvault.work import given_work, joined_work, reading_work, scaled_work
 
 
@@ -50,8 +50,7 @@ class Plan:
     @classmethod
     def read(cls, text):
         """The plan with this text."""
-        words = Words(text)
-        steps = take_steps(words)
+        steps, words = take_steps(words_of(text))
         words.end()
         return plan_by(steps)
 

@@ -7,7 +7,7 @@ from rowvault.errors import BadAmount, BadPart, BadPlace, BadQuestion, BadTable
 from rowvault.parts import Part, is_part_of
 from rowvault.shapes import Shape, take_place
 from rowvault.tables import check_amounts, is_table_of, take_weight
-from rowvault.words import Words, whole_text
+from rowvault.words import whole_text, words_of
 
 
 class Question:
@@ -101,8 +101,7 @@ class Question:
     def read(cls, text, shape):
         """The question with this text."""
         check_shape(shape)
-        words = Words(text)
-        weights = take_weights(words, shape)
+        weights, words = take_weights(words_of(text), shape)
         words.end()
         return cls(shape, weights)
 
@@ -132,17 +131,15 @@ def times(question, number):
 
 
 def take_weights(words, shape):
-    """The dict from places to weights that the next words tell."""
+    """The dict from places to weights that the next words tell, and the words behind them."""
     if words.peek() == "-":
-        words.take()
-        return {}
+        return {}, words.behind()
     weights = {}
-    weight = take_weight(words)
-    place = take_place(words, shape)
+    weight, words = take_weight(words)
+    place, words = take_place(words, shape)
     weights[place] = weight
     while words.peek() == ",":
-        words.take()
-        weight = take_weight(words)
-        place = take_place(words, shape, shape.index_of(place))
+        weight, words = take_weight(words.behind())
+        place, words = take_place(words, shape, shape.index_of(place))
         weights[place] = weight
-    return weights
+    return weights, words

@@ -2,7 +2,7 @@
 
 from rowvault.checks import is_name, is_whole, is_whole_from
 from rowvault.errors import BadCount, BadPlace, BadShape, TooMany
-from rowvault.words import Words
+from rowvault.words import words_of
 
 MOST_KEYS = 6
 MOST_DAYS = 8
@@ -72,8 +72,7 @@ class Shape:
     @classmethod
     def read(cls, text):
         """The shape with this text."""
-        words = Words(text)
-        keys, days = take_shape(words)
+        keys, days, words = take_shape(words_of(text))
         words.end()
         return cls(keys, days)
 
@@ -86,14 +85,15 @@ def are_keys(value):
 
 
 def take_shape(words):
-    """The keys and the days that the next words tell."""
+    """The keys and the days that the next words tell, and the words behind them."""
     keys = []
     while len(keys) < MOST_KEYS and is_key_behind(words.peek(), keys):
-        keys.append(words.take())
+        keys.append(words.peek())
+        words = words.behind()
     if keys == []:
         words.refuse()
-    words.take_one(["days"])
-    return keys, words.take_from(1, MOST_DAYS)
+    days, words = words.behind_one(["days"]).take_from(1, MOST_DAYS)
+    return keys, days, words
 
 
 def is_key_behind(word, keys):
@@ -102,8 +102,8 @@ def is_key_behind(word, keys):
 
 
 def take_place(words, shape, after=-1):
-    """The place that the next words tell, with an index above that of the one ahead."""
+    """The place that the next words tell, with an index above that of the one ahead, and the words behind it."""
     places = shape.places[after + 1:]
-    key = words.take_one([place[0] for place in places])
-    days = [str(place[1]) for place in places if place[0] == key]
-    return key, int(words.take_one(days))
+    key, words = words.take_one([place[0] for place in places])
+    day, words = words.take_one([str(place[1]) for place in places if place[0] == key])
+    return (key, int(day)), words

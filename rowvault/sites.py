@@ -11,7 +11,7 @@ from rowvault.spans import vector_of
 from rowvault.told import Teller
 from rowvault.units import take_some_units, units_text
 from rowvault.ways import check_lots, check_spread, first_way, lots_by
-from rowvault.words import Words
+from rowvault.words import words_of
 
 
 class Sites:
@@ -60,11 +60,11 @@ class Sites:
     def read(cls, text, layout):
         """The sites with this text."""
         check_layout(layout)
-        words = Words(text)
-        lots = [take_some_units(words, ())]
+        lot, words = take_some_units(words_of(text), ())
+        lots = [lot]
         while words.peek() == "/":
-            words.take()
-            lots.append(take_some_units(words, [unit for lot in lots for unit in lot]))
+            lot, words = take_some_units(words.behind(), [unit for ahead in lots for unit in ahead])
+            lots.append(lot)
         words.end()
         return cls(layout, *lots)
 

@@ -4,7 +4,7 @@ from rowvault.checks import is_whole
 from rowvault.errors import BadAmount, BadCount, BadPart, BadPlace, BadTable
 from rowvault.parts import is_part_of
 from rowvault.shapes import Shape, take_place
-from rowvault.words import Words, whole_text
+from rowvault.words import whole_text, words_of
 
 
 class Table:
@@ -85,8 +85,7 @@ class Table:
     def read(cls, text, shape):
         """The table with this text."""
         check_shape(shape)
-        words = Words(text)
-        amounts = take_amounts(words, shape)
+        amounts, words = take_amounts(words_of(text), shape)
         words.end()
         return cls(shape, amounts)
 
@@ -138,22 +137,20 @@ def times(table, number):
 
 
 def take_amounts(words, shape):
-    """The dict from places to amounts that the next words tell."""
+    """The dict from places to amounts that the next words tell, and the words behind them."""
     if words.peek() == "-":
-        words.take()
-        return {}
+        return {}, words.behind()
     amounts = {}
-    place = take_place(words, shape)
-    amounts[place] = take_weight(words)
+    place, words = take_place(words, shape)
+    amounts[place], words = take_weight(words)
     while words.peek() == ",":
-        words.take()
-        place = take_place(words, shape, shape.index_of(place))
-        amounts[place] = take_weight(words)
-    return amounts
+        place, words = take_place(words.behind(), shape, shape.index_of(place))
+        amounts[place], words = take_weight(words)
+    return amounts, words
 
 
 def take_weight(words):
-    """The integer other than 0 that the next word tells."""
+    """The integer other than 0 that the next word tells, and the words behind it."""
     if words.peek() == "0":
         words.refuse()
     return words.take_whole()

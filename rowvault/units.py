@@ -2,7 +2,7 @@
 
 from rowvault.checks import is_whole_from
 from rowvault.errors import BadCount, BadUnit
-from rowvault.words import Words, is_whole_text, whole_of
+from rowvault.words import is_whole_text, whole_of, words_of
 
 # The words, in order.
 UNIT_WORDS = ("journal", "block", "page", "cell", "bucket", "parity")
@@ -81,39 +81,42 @@ def units_text(units):
 
 def read_units(text):
     """The tuple of units with this text."""
-    words = Words(text)
-    units = take_units(words)
+    units, words = take_units(words_of(text))
     words.end()
     return units
 
 
 def take_units(words):
-    """The tuple of units that the next words tell."""
+    """The tuple of units that the next words tell, and the words behind them."""
     if words.peek() == "-":
-        words.take()
-        return ()
+        return (), words.behind()
     return take_some_units(words, ())
 
 
 def take_some_units(words, taken):
-    """The tuple of units, at least one and none of those taken, that the next words tell."""
-    units = [take_unit(words, -1, taken)]
+    """The tuple of units, at least one and none of those taken, that the next words tell, and the words behind them."""
+    unit, words = take_unit(words, -1, taken)
+    units = [unit]
     while words.peek() == ",":
-        words.take()
-        units.append(take_unit(words, rank_of(units[-1]), taken))
-    return tuple(units)
+        unit, words = take_unit(words.behind(), rank_of(unit), taken)
+        units.append(unit)
+    return tuple(units), words
 
 
 def take_unit(words, after, taken):
-    """The unit that the next words tell; its last word must bring it behind the rank after, and to none taken."""
+    """The unit that the next words tell, and the words behind it.
+
+    Its last word must bring it behind the rank after, and to none taken.
+    """
     # The journal has one word alone, and is behind no other unit.
-    word = words.take_one([name for name in UNIT_WORDS if NUMBERS[name] > 0 or can_stand(name, [], after, taken)])
+    word, words = words.take_one([name for name in UNIT_WORDS if NUMBERS[name] > 0 or can_stand(name, [], after, taken)])
     numbers = []
     for _ in range(NUMBERS[word]):
         if not words.is_at_whole() or not can_stand(word, [*numbers, whole_of(words.peek())], after, taken):
             words.refuse()
-        numbers.append(words.take_whole())
-    return text_of(word, numbers)
+        number, words = words.take_whole()
+        numbers.append(number)
+    return text_of(word, numbers), words
 
 
 def can_stand(word, numbers, after, taken):

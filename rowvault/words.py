@@ -36,19 +36,24 @@ def whole_of(word):
     return -number if word.startswith("-") else number
 
 
+def words_of(text, line=0):
+    """The words of a line, parted at single spaces; raise BadText for what is no string."""
+    if not isinstance(text, str):
+        raise BadText(0, 0)
+    return Words(tuple(text.split(" ")), 0, line)
+
+
 class Words:
-    """The words of a line, with the index of the one that is read next.
+    """The words of a line from an index on.
 
     What cannot stand and what is missing raise the same error: behind the last word the index
-    is the number of the words.
+    is the number of the words. It never changes: what is taken comes with the words behind it.
     """
 
-    def __init__(self, text, line=0):
-        if not isinstance(text, str):
-            raise BadText(0, 0)
+    def __init__(self, words, at, line):
+        self.words = words
+        self.at = at
         self.line = line
-        self.words = text.split(" ")
-        self.at = 0
 
     def refuse(self):
         """Raise the error that the next word cannot stand, or is missing."""
@@ -58,19 +63,21 @@ class Words:
         """The next word, or None behind the last one."""
         return self.words[self.at] if self.at < len(self.words) else None
 
-    def take(self):
-        """Go behind the next word and return it."""
-        word = self.peek()
-        if word is None:
+    def behind(self):
+        """The words behind the next one."""
+        if self.peek() is None:
             self.refuse()
-        self.at = self.at + 1
-        return word
+        return Words(self.words, self.at + 1, self.line)
 
-    def take_one(self, choices):
-        """The next word, which must be one of the choices."""
+    def behind_one(self, choices):
+        """The words behind the next one, which must be one of the choices."""
         if self.peek() not in choices:
             self.refuse()
-        return self.take()
+        return self.behind()
+
+    def take_one(self, choices):
+        """The next word, which must be one of the choices, and the words behind it."""
+        return self.peek(), self.behind_one(choices)
 
     def is_at_whole(self):
         """Whether there is a next word, and it is an integer."""
@@ -78,16 +85,16 @@ class Words:
         return word is not None and is_whole_text(word)
 
     def take_whole(self):
-        """The integer that the next word tells."""
+        """The integer that the next word tells, and the words behind it."""
         if not self.is_at_whole():
             self.refuse()
-        return whole_of(self.take())
+        return whole_of(self.peek()), self.behind()
 
     def take_from(self, low, high):
-        """The integer from low to high that the next word tells."""
+        """The integer from low to high that the next word tells, and the words behind it."""
         if not self.is_at_whole() or not low <= whole_of(self.peek()) <= high:
             self.refuse()
-        return whole_of(self.take())
+        return whole_of(self.peek()), self.behind()
 
     def end(self):
         """Raise the error of the next word if one is left."""

@@ -29,7 +29,7 @@ quit setattr super type vars sys""".split()
 WORDS = r"\b(type|typing|typing_extensions|enum|Enum|IntEnum|StrEnum|Flag|IntFlag|Generic|Protocol|ABC|ABCMeta|" \
     r"namedtuple|NamedTuple|TypedDict|TYPE_CHECKING|abstractmethod)\b|dataclass|overload|contextmanager|_wall|Meta|%"
 # The classes whose objects change behind their making.
-CHANGING = ["Words", "Bases", "Tree"]
+CHANGING = ["Bases", "Tree"]
 MODIFIERS = ["append", "clear", "extend", "insert", "pop", "remove", "reverse", "setdefault", "update", "sort"]
 
 

@@ -4,7 +4,7 @@ import random
 import unittest
 
 from rowvault.errors import BadText
-from rowvault.words import Words, is_whole_text, whole_of, whole_text
+from rowvault.words import is_whole_text, whole_of, whole_text, words_of
 from tests.helpers import Case
 
 
@@ -30,16 +30,19 @@ class Integers(Case):
 
 class Lines(Case):
     def test_missing_and_wrong_words(self):
-        words = Words("a 5", 3)
+        words = words_of("a 5", 3)
         self.raises(BadText(3, 0), words.take_one, ["b"])
-        self.same(words.take_one(["a", "b"]), "a")
-        self.raises(BadText(3, 1), words.take_from, 6, 9)
-        self.raises(BadText(3, 1), words.end)
-        self.same(words.take_from(5, 5), 5)
-        words.end()
-        for call in (words.take, words.take_whole, words.refuse):
+        letter, behind = words.take_one(["a", "b"])
+        self.same(letter, "a")
+        self.raises(BadText(3, 1), behind.take_from, 6, 9)
+        self.raises(BadText(3, 1), behind.end)
+        number, last = behind.take_from(5, 5)
+        self.same([number, words.peek(), behind.peek(), last.peek()], [5, "a", "5", None])
+        last.end()
+        for call in (last.behind, last.take_whole, last.refuse):
             self.raises(BadText(3, 2), call)
-        self.assertIsNone(words.peek())
+        for value in (None, 5, ["a"], ("a", "5")):
+            self.raises(BadText(0, 0), words_of, value, 3)
 
 
 if __name__ == "__main__":
