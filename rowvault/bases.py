@@ -49,9 +49,7 @@ class Bases:
         A pair: True and groups, all held, that tell it; or False and groups, none held, without
         which it is not told.
         """
-        for at in near:
-            if at not in self._table and held[self._group_by[at]]:
-                self.let_lead(at, held)
+        self.settle(near, held)
         leads = [lead for lead, row in self._table.items() if column is None or column in row]
         others = [lead for lead in leads if not self.is_held(lead, held)]
         if others == []:
@@ -63,6 +61,19 @@ class Bases:
                 best = some
         return False, best
 
+    def weights_of(self, column, held):
+        """How a wanted vector is told by the held groups, which are settled, or None.
+
+        A dict from the columns of vectors to pairs of a top and a bottom: so many times each of them.
+        """
+        weights = {}
+        for lead, row in self._table.items():
+            if column in row:
+                if not self.is_held(lead, held):
+                    return None
+                weights[lead] = (row[column], row[lead])
+        return weights
+
     def is_held(self, column, held):
         """Whether the vector of a column is one of the groups held."""
         return column < len(self._group_by) and held[self._group_by[column]]
@@ -71,11 +82,12 @@ class Bases:
         """The list of the groups of the vectors of some columns."""
         return list({self._group_by[at]: True for at in columns if at < len(self._group_by)})
 
-    def let_lead(self, column, held):
-        """Let a column lead in the place of one that is not held, if there is one in whose row it is not 0."""
-        leads = [lead for lead, row in self._table.items() if column in row and not self.is_held(lead, held)]
-        if leads != []:
-            self._table = exchanged(self._table, leads[0], column)
+    def settle(self, near, held):
+        """Let as many held vectors as can be lead; then the rows of all other leads are 0 in all held ones."""
+        for lead in [at for at in near if at in self._table and not held[self._group_by[at]]]:
+            columns = [at for at in self._table[lead] if self.is_held(at, held)]
+            if columns != []:
+                self._table = exchanged(self._table, lead, columns[0])
 
 
 def exchanged(table, lead, column):

@@ -125,9 +125,12 @@ def are_answers(layout, value):
 
 def are_answers_of(layout, unit, value):
     """Whether any value is a tuple of as many integers as a unit has answers."""
-    if not isinstance(value, tuple) or len(value) != len(layout[unit]):
-        return False
-    return all([is_whole(number) for number in value])
+    return are_whole_numbers(value, len(layout[unit]))
+
+
+def are_whole_numbers(value, many):
+    """Whether any value is a tuple of so many integers."""
+    return isinstance(value, tuple) and len(value) == many and all([is_whole(number) for number in value])
 
 
 def sums(one, other, times):

@@ -41,12 +41,16 @@ def weight_at(layout, weights, place):
 def shows_parted(layout, units, question, value, bare=None):
     """Whether any value is a right Parted of the question by the units."""
     some, none = asked_of(layout, units, question, bare)
-    if not isinstance(value, Parted):
+    if not isinstance(value, Parted) or not are_alike_tables(layout, some, none, value):
         return False
+    return question(value.one) != question(value.other)
+
+
+def are_alike_tables(layout, units, bare, value):
+    """Whether a Parted has two tables, 0 at all bare places, that are alike in the units."""
     one, other = value.one, value.other
     if not is_table_of(one, layout.shape) or not is_table_of(other, layout.shape):
         return False
-    if any([one[place] != 0 or other[place] != 0 for place in none]):
+    if any([one[place] != 0 or other[place] != 0 for place in bare]):
         return False
-    alike = all([answer(one) == answer(other) for key, answer in layout.answers(some)])
-    return alike and question(one) != question(other)
+    return all([answer(one) == answer(other) for key, answer in layout.answers(units)])

@@ -326,8 +326,13 @@ def worked_out(plan, image):
     if not isinstance(image, Image):
         raise BadPlan("image")
     check_reads(plan, image.layout)
+    return worked_out_by(plan, image)
+
+
+def worked_out_by(plan, answers):
+    """What a plan works out of the answers by units; the plan reads no other ones."""
     work = plan._work
-    total = sum([weight * image[unit][index] for (unit, index), weight in work.weights.items()]) + work.number
+    total = sum([weight * answers[unit][index] for (unit, index), weight in work.weights.items()]) + work.number
     if total // work.bottom * work.bottom != total:
         raise BadPlan("rest")
     return total // work.bottom

@@ -5,7 +5,8 @@ from math import comb, gcd, lcm
 from rowvault.asked import check_layout
 from rowvault.checks import is_whole_from
 from rowvault.errors import BadCount, BadVault
-from rowvault.images import are_answers, are_answers_of
+from rowvault.holding import are_some_answers
+from rowvault.images import are_answers
 from rowvault.layouts import told_units
 from rowvault.losses import Rebuilder, check_losses, covers_of, losses_of
 from rowvault.spans import vector_of
@@ -207,9 +208,7 @@ def righted(layout, answers, many):
 
 def check_some_answers(layout, answers):
     """Raise BadVault unless it is a dict from units to as many integers as they have answers."""
-    if not isinstance(answers, dict):
-        raise BadVault("answers")
-    if not all([unit in layout and are_answers_of(layout, unit, answers[unit]) for unit in answers]):
+    if not are_some_answers(layout, answers):
         raise BadVault("answers")
 
 

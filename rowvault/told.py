@@ -5,7 +5,7 @@ from rowvault.errors import BadRule
 from rowvault.layouts import told_units
 from rowvault.spans import Span, table_of, vector_but
 from rowvault.tables import Table
-from rowvault.vectors import cleared, direction_at, lead_of, rows_of
+from rowvault.weighers import Weigher
 
 
 class Told:
@@ -41,25 +41,20 @@ class Teller:
         self._blank = bare
         pairs = list(layout.answers(units))
         self._answer_keys = [key for key, answer in pairs]
-        # A column behind the places tells how often an answer is in a row.
-        first = len(layout.shape)
-        vectors = [{**vector_but(pairs[at][1], bare), first + at: 1} for at in range(len(pairs))]
-        self._made = rows_of(vectors, first)
+        self._weigher = Weigher([vector_but(answer, bare) for key, answer in pairs], len(layout.shape))
 
     def tells(self, question):
         """Whether the units tell a question."""
-        return lead_of(cleared(vector_but(question, self._blank), self._made), len(self._shape)) < 0
+        return self._weigher.tells(vector_but(question, self._blank))
 
     def paper_on(self, question):
         """A Told of a question, or a Parted."""
-        first = len(self._shape)
-        own = first + len(self._answer_keys)
-        rest = cleared({**vector_but(question, self._blank), own: 1}, self._made)
-        free = lead_of(rest, first)
-        if free >= 0:
-            return Parted(Table(self._shape), table_of(self._shape, direction_at(free, self._made)))
-        pairs = [(key, rest.get(first + at, 0)) for at, key in enumerate(self._answer_keys)]
-        return Told(rest[own], {key: -weight for key, weight in pairs if weight != 0})
+        vector = vector_but(question, self._blank)
+        weighed = self._weigher.weighed(vector)
+        if weighed is None:
+            return Parted(Table(self._shape), table_of(self._shape, self._weigher.direction_for(vector)))
+        bottom, weights = weighed
+        return Told(bottom, {self._answer_keys[at]: weight for at, weight in weights.items()})
 
 
 def told(layout, units, question, bare=None):

@@ -94,7 +94,7 @@ def take_units(words):
 
 
 def take_some_units(words, taken):
-    """The tuple of units, at least one and none of those taken, that the next words tell, and the words behind them."""
+    """The tuple of units, at least one and none of those taken, and the words behind them."""
     unit, words = take_unit(words, -1, taken)
     units = [unit]
     while words.peek() == ",":
@@ -109,7 +109,8 @@ def take_unit(words, after, taken):
     Its last word must bring it behind the rank after, and to none taken.
     """
     # The journal has one word alone, and is behind no other unit.
-    word, words = words.take_one([name for name in UNIT_WORDS if NUMBERS[name] > 0 or can_stand(name, [], after, taken)])
+    names = [name for name in UNIT_WORDS if NUMBERS[name] > 0 or can_stand(name, [], after, taken)]
+    word, words = words.take_one(names)
     numbers = []
     for _ in range(NUMBERS[word]):
         if not words.is_at_whole() or not can_stand(word, [*numbers, whole_of(words.peek())], after, taken):

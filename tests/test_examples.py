@@ -21,7 +21,8 @@ def outcome(code, names):
         except SyntaxError:
             exec(code, names)
             return None
-        return repr(eval(compiled, names))
+        value = eval(compiled, names)
+        return None if value is None else repr(value)
     except VaultError as error:
         fields = ", ".join(repr(value) for value in vars(error).values())
         return f"raises {type(error).__name__}({fields})"

@@ -20,6 +20,7 @@ BINARY = """lt le gt ge ne eq add sub mul floordiv mod pow and or xor lshift rsh
 rxor iadd isub imul""".split()
 SIGNATURES = {f"__{word}__": ["self", "other"] for word in BINARY}
 SIGNATURES.update({f"__{word}__": ["self"] for word in "neg pos invert abs bool str repr len iter".split()})
+SIGNATURES.update({"__enter__": ["self"], "__exit__": ["self", "kind", "value", "trace"]})
 SIGNATURES.update({"__contains__": ["self", "x"], "__getitem__": ["self", "at"], "__setitem__": ["self", "at", "worth"]})
 STATEMENTS = (ast.Assign, ast.AugAssign, ast.If, ast.While, ast.For, ast.Return, ast.Break, ast.Continue, ast.Pass,
               ast.Raise, ast.Assert, ast.Delete, ast.Expr, ast.FunctionDef, ast.Try, ast.With)
@@ -29,7 +30,7 @@ quit setattr super type vars sys""".split()
 WORDS = r"\b(type|typing|typing_extensions|enum|Enum|IntEnum|StrEnum|Flag|IntFlag|Generic|Protocol|ABC|ABCMeta|" \
     r"namedtuple|NamedTuple|TypedDict|TYPE_CHECKING|abstractmethod)\b|dataclass|overload|contextmanager|_wall|Meta|%"
 # The classes whose objects change behind their making.
-CHANGING = ["Bases", "Tree"]
+CHANGING = ["Bases", "Tree", "Storm", "TellingAll", "Trial", "Vault"]
 MODIFIERS = ["append", "clear", "extend", "insert", "pop", "remove", "reverse", "setdefault", "update", "sort"]
 
 
@@ -289,7 +290,7 @@ class Functions(unittest.TestCase):
             literal = {}
             for one in ast.walk(node):
                 if isinstance(one, ast.Assign) and isinstance(one.targets[0], ast.Name):
-                    made = isinstance(one.value, (ast.List, ast.Dict, ast.ListComp))
+                    made = isinstance(one.value, (ast.List, ast.Dict, ast.ListComp, ast.DictComp))
                     made = made or isinstance(one.value, ast.Call) and called(one.value) in ("list", "dict", "sorted")
                     literal.setdefault(one.targets[0].id, []).append(made)
             changed = [one.value for one in ast.walk(node)
@@ -297,7 +298,7 @@ class Functions(unittest.TestCase):
             changed += [one.func.value for one in ast.walk(node)
                         if isinstance(one, ast.Call) and isinstance(one.func, ast.Attribute) and called(one) in MODIFIERS]
             for one in changed:
-                if isinstance(one, ast.Attribute) and one.value.id == "self" and one.attr in ("_parteds",):
+                if isinstance(one, ast.Attribute) and one.value.id == "self" and one.attr in ("_parteds", "_looks"):
                     continue
                 self.assertIsInstance(one, ast.Name, (module, node.name))
                 self.assertTrue(literal.get(one.id) and all(literal[one.id]), (module, node.name, one.id))
