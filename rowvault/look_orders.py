@@ -58,7 +58,7 @@ class Look:
     def __init__(self, layout, place, journal, written):
         self.layout = layout
         self.place = place
-        self.units = units_at(layout, written)
+        self.units = units_at(layout.units, written)
         self.vectors = vectors_behind(layout, place, journal, written)
 
     def tolds_among(self, tolds, moment, many):
@@ -123,7 +123,7 @@ def is_unsafe(layout, order, many, value, journal):
     if not is_whole_from(value.moment, 0, len(writes)):
         return False
     written = writes[:value.moment]
-    if not is_lot_of(value.lost, units_at(layout, written)) or len(value.lost) > many:
+    if not is_lot_of(value.lost, units_at(layout.units, written)) or len(value.lost) > many:
         return False
     if not is_pair(layout, value.one) or not is_pair(layout, value.other):
         return False

@@ -144,7 +144,7 @@ def judge_order(layout, order, many, journal="none"):
     """A Safe of an order of writes, or an Unsafe."""
     check_judged(layout, order, many, journal)
     check_losses(layout, order, many, journal)
-    return judged_by(Storm(layout, many, journal), layout, order, journal)
+    return judged_by(Storm(layout, many, journal, layout.units), layout, order, journal)
 
 
 def first_safe(layout, many, journal="none"):
@@ -157,7 +157,7 @@ def first_safe(layout, many, journal="none"):
     orders = orders_on(layout)
     if orders != []:
         check_losses(layout, orders[0], many, journal)
-    storm = Storm(layout, many, journal)
+    storm = Storm(layout, many, journal, layout.units)
     papers = {}
     for order in orders:
         paper = judged_by(storm, layout, order, journal)
@@ -231,7 +231,7 @@ def check_losses(layout, order, many, journal):
     for place in layout.shape.places:
         writes = order.writes(layout, place, journal)
         for moment in range(len(writes) + 1):
-            count = count + lots_count(units_at(layout, writes[:moment]), many)
+            count = count + lots_count(units_at(layout.units, writes[:moment]), many)
     if count > MOST_LOSSES:
         raise TooMany("losses", MOST_LOSSES)
 

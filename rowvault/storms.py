@@ -10,14 +10,15 @@ from rowvault.tables import Table
 
 
 class Storm:
-    """All losses of so many units behind crashes, looked at once for each place and each lot of written units."""
+    """All losses of so many of the units left behind crashes, each place and lot of written units looked at once."""
 
-    def __init__(self, layout, many, journal):
+    def __init__(self, layout, many, journal, left):
         self._layout = layout
+        self._left = left
         self._many = many
         self._journal = journal
         self._holders = {one.part.places[0]: unit for unit in layout.units for one in layout[unit]
-                         if unit.startswith(Blocks.WORD)}
+                         if unit.startswith(Blocks.WORD) and unit in left}
         self._looks = {}
 
     def look(self, place, written):
@@ -25,7 +26,7 @@ class Storm:
 
         The dict tells for all pairs of a loss and a place that no block left holds how its amount is told.
         """
-        units = units_at(self._layout, written)
+        units = units_at(self._left, written)
         # What is told hangs on what is written, not on the order in which it is.
         case = (place, tuple([unit for unit in units if unit in written]))
         if case not in self._looks:
@@ -35,7 +36,7 @@ class Storm:
     def looked(self, place, written, units):
         """The pair of a look that was not made ahead."""
         vectors = vectors_behind(self._layout, place, self._journal, written)
-        told = TellingAll(self._layout, place, vectors)
+        told = TellingAll(self._layout, place, {unit: vectors[unit] for unit in units})
         found = {}
         for lost in lots_of(units, self._many):
             told.lose(lost)
@@ -48,8 +49,8 @@ class Storm:
 
     def bare_of_blocks(self, lost):
         """The list of the places that no block left holds."""
-        holders = self._holders
-        return [place for place in self._layout.shape.places if place not in holders or holders[place] in lost]
+        held = [place for place, unit in self._holders.items() if unit not in lost]
+        return [place for place in self._layout.shape.places if place not in held]
 
 
 class TellingAll:
@@ -90,9 +91,9 @@ class TellingAll:
         return bottom, {self._answer_keys[at]: top * bottom // base for at, (top, base) in weights.items()}
 
 
-def units_at(layout, written):
-    """The tuple of all units, a written journal ahead."""
-    return (JOURNAL, *layout.units) if JOURNAL in written else layout.units
+def units_at(left, written):
+    """The tuple of the units left, a written journal ahead."""
+    return (JOURNAL, *left) if JOURNAL in written else left
 
 
 def lots_count(units, many):

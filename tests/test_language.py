@@ -30,7 +30,7 @@ quit setattr super type vars sys""".split()
 WORDS = r"\b(type|typing|typing_extensions|enum|Enum|IntEnum|StrEnum|Flag|IntFlag|Generic|Protocol|ABC|ABCMeta|" \
     r"namedtuple|NamedTuple|TypedDict|TYPE_CHECKING|abstractmethod)\b|dataclass|overload|contextmanager|_wall|Meta|%"
 # The classes whose objects change behind their making.
-CHANGING = ["Bases", "Tree", "Storm", "TellingAll", "Trial", "Vault"]
+CHANGING = ["Bases", "Tree", "Storm", "TellingAll", "Trial", "Vault", "Course", "Desk"]
 MODIFIERS = ["append", "clear", "extend", "insert", "pop", "remove", "reverse", "setdefault", "update", "sort"]
 
 
@@ -74,6 +74,7 @@ def bound_names(function):
     given = function.args
     names = [one.arg for one in given.posonlyargs + given.args + given.kwonlyargs]
     names += [one.arg for one in (given.vararg, given.kwarg) if one]
+    names += [node.name for node in ast.walk(function) if isinstance(node, ast.ExceptHandler) and node.name]
     return names + [node.id for node in ast.walk(function)
                     if isinstance(node, ast.Name) and isinstance(node.ctx, ast.Store)]
 
@@ -181,7 +182,7 @@ class Names(unittest.TestCase):
                 if isinstance(node, (ast.Name, ast.Attribute)):
                     name = node.id if isinstance(node, ast.Name) else node.attr
                     self.assertIsNone(re.search(WORDS, name), (module, name))
-                    self.assertFalse(name.startswith("__"), (module, name))
+                    self.assertFalse(name.startswith("__") and module != "refusals", (module, name))
 
     def test_methods_attributes_and_generators(self):
         generators = {node.name for _, node in FUNCTIONS if is_generator(node)}
@@ -298,9 +299,13 @@ class Functions(unittest.TestCase):
             changed += [one.func.value for one in ast.walk(node)
                         if isinstance(one, ast.Call) and isinstance(one.func, ast.Attribute) and called(one) in MODIFIERS]
             for one in changed:
-                if isinstance(one, ast.Attribute) and one.value.id == "self" and one.attr in ("_parteds", "_looks"):
+                if isinstance(one, ast.Attribute) and one.value.id == "self" and one.attr in ("_parteds", "_looks", "_vault"):
                     continue
                 self.assertIsInstance(one, ast.Name, (module, node.name))
+                if one.id == "vault":
+                    # A put, which is what this function is for.
+                    self.assertEqual((module, node.name), ("scripts", "do_quietly"))
+                    continue
                 self.assertTrue(literal.get(one.id) and all(literal[one.id]), (module, node.name, one.id))
 
 
@@ -361,11 +366,19 @@ class Calls(unittest.TestCase):
                 if isinstance(parent, ast.Call) and parent.func is not node:
                     self.assertEqual((called(parent), parent.args[1]), ("isinstance", node), (module, node.lineno))
                 else:
-                    self.assertIsInstance(parent, (ast.Call, ast.ClassDef, ast.Raise, ast.Attribute), module)
+                    kinds = (ast.Call, ast.ClassDef, ast.Raise, ast.Attribute, ast.ExceptHandler)
+                    self.assertIsInstance(parent, kinds, module)
 
     def test_raise_makes_its_error(self):
         for module, node in FUNCTIONS:
+            handlers = [one for one in ast.walk(node) if isinstance(one, ast.ExceptHandler)]
+            bare = [one.body[-1] for one in handlers]
+            for one in handlers:
+                self.assertIn(one.type.id, CLASSES)
             for one in [one for one in ast.walk(node) if isinstance(one, ast.Raise)]:
+                if one.exc is None:
+                    self.assertIn(one, bare, module)
+                    continue
                 self.assertIsInstance(one.exc, ast.Call, module)
                 self.assertIn(one.exc.func.id, [*CLASSES, "TypeError"], module)
 
