@@ -65,6 +65,31 @@ FUNCTIONS = {
         "shows_tells": "(one, other, value)", "shows_alike": "(one, other, value)",
         "shows_breaks": "(kinds, others, value)", "shows_slim": "(layout, value)",
     },
+    "judged": {"judge_plan": "(plan, layout, question)", "plan_for": "(layout, units, question)"},
+    "polys": {"told_poly": "(layout, units, poly, bare=None)", "work_out_poly": "(paper, answers)"},
+    "look_polys": {"shows_told_poly": "(layout, units, poly, value, bare=None)"},
+    "orders": {
+        "judge_order": "(layout, order, many, journal='none')", "first_safe": "(layout, many, journal='none')",
+        "recovered": "(layout, order, place, moment, left, journal='none')",
+    },
+    "look_orders": {
+        "shows_safe": "(layout, order, many, value, journal='none')",
+        "shows_unsafe": "(layout, order, many, value, journal='none')",
+        "shows_no_safe": "(layout, many, value, journal='none')",
+    },
+    "look_vaults": {"shows_unhealed": "(vault, value)"},
+    "scripts": {"play": "(script, vault)"},
+    "effects": {
+        "outline": "(layout, script)", "effect": "(layout, script)", "same_end": "(layout, one, other)",
+        "same_answers": "(layout, one, other)", "needless_line": "(layout, script)",
+        "steady": "(layout, script, order, many, journal='none')",
+    },
+    "look_scripts": {
+        "shows_other_end": "(layout, one, other, value)", "shows_other_answers": "(layout, one, other, value)",
+        "shows_shaken": "(layout, script, order, many, value, journal='none')",
+    },
+    "texts": {"write": "(thing)"},
+    "reader": {"read": "(text)"},
 }
 GENERATORS = {"readings": ["readings", "partings"], "sites": ["site_readings", "site_partings", "weak_lots"],
               "spoils": ["relations"]}
@@ -118,6 +143,22 @@ CLASSES = {
     "plans": {"Plan": (None, f"read {PLAN}", ""), "Read": ("(unit, index)", PLAN, ""), "Given": ("(value)", PLAN, ""),
               "Added": ("(one, other)", PLAN, ""), "Less": ("(one, other)", PLAN, ""),
               "Scaled": ("(one, value)", PLAN, ""), "Over": ("(one, value)", PLAN, "")},
+    "judged": {"RightPlan": ("(units)", "eq", ""), "WrongPlan": ("(table)", "bool eq", "")},
+    "polys": {"Poly": ("(shape, terms)", "of integer read call len iter bool getitem add sub mul rmul neg eq str", ""),
+              "ToldPoly": ("(bottom, terms)", "eq", "")},
+    "orders": {"Order": ("(*words)", "fits writes read len iter getitem contains add sub invert eq str", ""),
+               "Safe": ("(tolds)", "eq", ""), "Unsafe": ("(place, moment, lost, one, other)", "bool eq", ""),
+               "NoSafe": ("(papers)", "bool eq", ""), "Recovered": ("(table, is_new)", "eq", "")},
+    "vaults": {"Vault": ("(layout, table=None)", """of read_unit lose trial tried twin add ask table_back follow bring bring_back
+                         exchange mark ask_at undo crash recover heal len iter contains getitem setitem eq""",
+                         "units_left units_lost marks torn"),
+               "Tear": ("(order, place, moment, journal)", "eq", ""), "Unhealed": ("(one, other)", "bool eq", "")},
+    "scripts": {"Script": ("(shape, *lines)", "without read len iter getitem add eq str", "")},
+    "effects": {"Answer": ("(question, number)", "eq", ""), "Effect": ("(layout, units, places, tear)", "eq", ""),
+                "SameEnd": (None, "eq", ""), "OtherEnd": ("(table)", "bool eq", ""), "SameAnswers": (None, "eq", ""),
+                "OtherAnswers": ("(table)", "bool eq", ""), "Steady": ("(runs)", "eq", ""),
+                "Shaken": ("(line, moment, lost)", "bool eq", "")},
+    "desk": {"Desk": ("()", "say run call", "")},
 }
 ARGUMENTS = {
     "Shape.index_of": "(self, place)", "Shape.read": "(text)", "Part.read": "(text, shape)",
@@ -139,13 +180,26 @@ ARGUMENTS = {
     "Sites.read": "(text, layout)", "Book.with_question": "(self, name, question)", "Book.without": "(self, name)",
     "Book.told_by": "(self, layout, units, bare=None)", "Book.least_units": "(self, layout, price, bare=None)",
     "Book.__call__": "(self, table)", "Book.read": "(text, shape)", "Plan.read": "(text)",
+    "Poly.of": "(question)", "Poly.integer": "(shape, value)",
+    "Poly.read": "(text, shape)", "Poly.__call__": "(self, table)", "Order.fits": "(self, layout)", "Order.read": "(text)",
+    "Order.writes": "(self, layout, place, journal='none')", "Vault.of": "(layout, answers, marks=None)",
+    "Vault.read_unit": "(self, unit)", "Vault.lose": "(self, *units)", "Vault.trial": "(self)", "Vault.tried": "(self, work)",
+    "Vault.twin": "(self)", "Vault.add": "(self, place, change)", "Vault.ask": "(self, question)",
+    "Vault.table_back": "(self)", "Vault.follow": "(self, plan)", "Vault.bring": "(self, unit)",
+    "Vault.bring_back": "(self)", "Vault.exchange": "(self, layout)", "Vault.mark": "(self, name)",
+    "Vault.ask_at": "(self, name, question)", "Vault.undo": "(self)", "Vault.recover": "(self)", "Vault.heal": "(self)",
+    "Vault.crash": "(self, order, place, amount, moment, journal='none')", "Script.without": "(self, n)",
+    "Script.read": "(text, shape)", "Desk.say": "(self, line)", "Desk.run": "(self, *lines)", "Desk.__call__": "(self, line)",
     "Plan.sum_on": "(self, layout)", "Plan.__call__": "(self, image)", "Over.__call__": "(self, image)",
 }
 PLAIN = ["index_of", "whole", "none", "of_keys", "of_days", "read", "of", "with_amount", "lowest", "weigh", "directions",
          "direction_for", "told_part", "units_on", "touched_by", "answers", "span_of", "moved", "changed_from", "size_of",
-         "ask", "table_back", "site_of", "units_at", "units_off", "with_question", "without", "told_by", "least_units", "sum_on"]
+         "ask", "table_back", "site_of", "units_at", "units_off", "with_question", "without", "told_by", "least_units", "sum_on",
+         "integer", "fits", "writes", "read_unit", "lose", "trial", "tried", "twin", "add", "follow", "bring", "bring_back",
+         "exchange", "mark", "ask_at", "undo", "crash", "recover", "heal", "say", "run"]
+SIGNS = ["add"]
 STATIC = ["Part.whole", "Part.none", "Part.of_keys", "Part.of_days", "Table.of", "Question.of", "Question.none",
-          "Image.of"]
+          "Image.of", "Poly.of", "Poly.integer", "Vault.of"]
 
 
 def module(name):
@@ -169,7 +223,8 @@ class Interface(unittest.TestCase):
                 if arguments is not None:
                     self.assertEqual(str(inspect.signature(one)), arguments)
                 for method in methods.split():
-                    self.assertIn(method if method in PLAIN else f"__{method}__", vars(one), word)
+                    plain = method in PLAIN and (method not in SIGNS or word == "Vault")
+                    self.assertIn(method if plain else f"__{method}__", vars(one), word)
                 for method in properties.split():
                     self.assertIsInstance(vars(one)[method], property)
 
@@ -214,6 +269,7 @@ class Interface(unittest.TestCase):
 
     def test_class_values(self):
         kinds = module("kinds")
+        self.assertEqual(vars(module("orders").Order)["WORDS"], ("block", "page", "cell", "bucket", "parity"))
         made = [kinds.Blocks, kinds.Pages, kinds.Cells, kinds.Buckets, kinds.Stripes]
         self.assertEqual([vars(one)["WORD"] for one in made], ["block", "page", "cell", "bucket", "parity"])
         self.assertEqual(module("layouts").Layout.MOST, 60)
