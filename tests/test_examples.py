@@ -44,7 +44,7 @@ class Examples(unittest.TestCase):
                 bare = expected is not None and expected.startswith("raises ") and "(" not in expected
                 self.assertEqual(told.split("(")[0] if bare else told, expected)
             done += 1
-        self.assertGreater(done, 135)
+        self.assertEqual(done, 216)
 
 
 if __name__ == "__main__":
