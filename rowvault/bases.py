@@ -32,16 +32,16 @@ class Bases:
         """
         if column is None:
             return list(range(len(self._group_by)))
-        rest = [[at for at in row if at < len(self._group_by) or at == column] for row in self._table.values()]
+        rest = list(self._table.values())
         found = {column: True}
         grown = True
         while grown:
-            touching = [row for row in rest if any([at in found for at in row])]
-            rest = [row for row in rest if not any([at in found for at in row])]
-            for at in [at for row in touching for at in row]:
-                found[at] = True
+            touching = [row for row in rest if any([one in found for one in row])]
+            rest = [row for row in rest if not any([one in found for one in row])]
+            for row in touching:
+                found = {**found, **{one: True for one in row if one < len(self._group_by)}}
             grown = touching != []
-        return [at for at in found if at != column]
+        return [one for one in found if one != column]
 
     def look(self, column, near, held):
         """What some groups tell of a wanted vector, or of all; held says of each group whether it is one of them.

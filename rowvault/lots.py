@@ -134,4 +134,4 @@ class Lots:
             mask = lots.bit_length() - 1
             lots = lots ^ 1 << mask
             found.append(len(self.indexes_of(mask)) * size + size - 1 - mask)
-        return [size - 1 - place % size for place in sorted([int(place) for place in found])]
+        return [size - 1 - place % size for place in sorted([int(one) for one in found])]

@@ -35,7 +35,7 @@ def rank_of(shape, product):
 def in_order(shape, terms):
     """The terms whose integers are not 0, in order."""
     ranked = {rank_of(shape, product): product for product in terms if terms[product] != 0}
-    products = [ranked[rank] for rank in sorted([int(rank) for rank in ranked])]
+    products = [ranked[rank] for rank in sorted([int(one) for one in ranked])]
     return {product: terms[product] for product in products}
 
 

@@ -6,15 +6,24 @@ import unittest
 from fractions import Fraction
 
 from rowvault import errors
+from rowvault.books import Book
 from rowvault.cuts import Every, Leads, Sizes
+from rowvault.desk import Desk
+from rowvault.images import Image
 from rowvault.kinds import Blocks, Buckets, Cells, Pages, Stripes
 from rowvault.layouts import Layout
+from rowvault.orders import Order
 from rowvault.parts import Part
+from rowvault.plans import Given
+from rowvault.polys import Poly
 from rowvault.questions import Question
+from rowvault.scripts import Script
 from rowvault.shapes import Shape
+from rowvault.sites import Sites
 from rowvault.spans import Span, Weighed
 from rowvault.tables import Table
 from rowvault.told import Parted, Told
+from rowvault.vaults import Vault
 
 TWO = Shape(["a", "b"], 2)
 OTHER = Shape(["a", "c"], 2)
@@ -36,6 +45,8 @@ def any_values():
         Question(TWO, {}), Question(OTHER, {("c", 0): 2}), Span(TWO), Span(OTHER), Weighed(1, ()),
         Every(1), Leads(), Sizes(1, 2), Blocks(Every(2)), Pages(1), Cells(2), Buckets(1), Stripes(2),
         Layout(TWO), Layout(OTHER, Pages(1)), Told(1, {}), Parted(Table(TWO), Table(TWO)), errors.NoDeed(),
+        Book(OTHER), Image(Layout(OTHER), Table(OTHER)), Given(1), Poly.integer(OTHER, 1), Order("parity", "cell"),
+        Script(OTHER, "undo"), Vault(Layout(OTHER)), Desk(), Sites(Layout(OTHER, Pages(3)), ["page 0"]),
     ]
     return plain + own
 

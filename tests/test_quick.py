@@ -57,15 +57,28 @@ def questions_for(chance, layout):
     yield total
 
 
+def times_of(call):
+    """Some times of a call, in milliseconds."""
+    times = []
+    for _ in range(9):
+        start = time.perf_counter()
+        call()
+        times.append((time.perf_counter() - start) * 1000)
+    return times
+
+
+def steps():
+    """What takes some 6 milliseconds where the bounds were taken."""
+    total = 0
+    for number in range(100000):
+        total = total + number
+    return total
+
+
 class Quick(Case):
     def least_time(self, call):
-        """The least of some times of a call, in milliseconds: what else the machine does only adds to it."""
-        times = []
-        for _ in range(9):
-            start = time.perf_counter()
-            call()
-            times.append((time.perf_counter() - start) * 1000)
-        return min(times)
+        """The least of some times of a call, less where the machine is slow: what else it does only adds to it."""
+        return min(times_of(call)) / max(1, min(times_of(steps)) / 6)
 
     def test_lots(self):
         question = Question(PAIRED.shape, {("b", 1): 1, ("b", 2): 1})

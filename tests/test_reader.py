@@ -242,7 +242,8 @@ class Texts(Case):
         torn = Vault(FEW)
         torn.crash(Order("block", "bucket"), ("a", 0), 1, 0)
         for value in [torn, Kind.read("pages 1"), Read, *any_values()]:
-            if not isinstance(value, (Shape, Part, Table, Question, Layout)):
+            things = (Shape, Part, Table, Question, Layout, Book, Order, Plan)
+            if not isinstance(value, things) and not (isinstance(value, Vault) and value.torn is None):
                 self.raises(BadKind("thing"), write, value)
         torn.recover()
         self.same(write(torn), write(Vault(FEW)))
