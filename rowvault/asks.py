@@ -4,7 +4,6 @@ from rowvault.books import take_name
 from rowvault.checks import is_name
 from rowvault.orders import take_order
 from rowvault.units import take_unit, take_units
-from rowvault.words import is_whole_text
 
 MOST_FIGURES = 60
 # What each line needs: nothing, a shape, or a vault, too.
@@ -69,8 +68,7 @@ def take_places(word, words):
 
 def take_number(words):
     """The integer of not too many figures that the next word tells, and the words behind it."""
-    word = words.peek()
-    if word is None or not is_whole_text(word) or len(word.replace("-", "")) > MOST_FIGURES:
+    if words.is_at_whole() and len(words.peek().replace("-", "")) > MOST_FIGURES:
         words.refuse()
     return words.take_whole()
 

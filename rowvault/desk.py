@@ -2,7 +2,7 @@
 
 from rowvault.asks import NEEDS, take_request
 from rowvault.books import Book
-from rowvault.errors import BadLine, BadText, NoName, VaultError
+from rowvault.errors import BadLine, BadText, VaultError
 from rowvault.kinds import Kind
 from rowvault.layouts import Layout
 from rowvault.losses import rebuilt, strength
@@ -69,7 +69,7 @@ class Desk:
             self._vault = Vault(self.layout_now())
             return "ok"
         if word in ("told", "readings", "partings", "musts"):
-            return self.of_question(request, self.question_named(request[1]))
+            return self.of_question(request, self._book[request[1]])
         return self.of_layout(request)
 
     def set_shape(self, shape):
@@ -91,17 +91,11 @@ class Desk:
         kinds = self._kinds
         return Layout(self._shape, *kinds)
 
-    def question_named(self, name):
-        """The question under a name."""
-        if name not in self._book:
-            raise NoName(name)
-        return self._book[name]
-
     def of_vault(self, request):
         """What the vault answers."""
         word = request[0]
         if word == "ask":
-            return whole_text(self._vault.ask(self.question_named(request[1])))
+            return whole_text(self._vault.ask(self._book[request[1]]))
         if word == "put":
             self._vault[request[1]] = request[2]
         elif word == "lose":

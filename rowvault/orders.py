@@ -171,8 +171,6 @@ def recovered(layout, order, place, moment, left, journal="none"):
     """The Recovered of what the units that are left answer behind a crash."""
     check_layout(layout)
     check_order(order, layout)
-    check_place(layout, place)
-    check_journal(journal)
     writes = order.writes(layout, place, journal)
     check_moment(moment, writes)
     vectors = vectors_behind(layout, place, journal, writes[:moment])

@@ -117,17 +117,12 @@ def fault_between(layout, place, journal, written, lost):
 def fault_along(layout, place, wreck):
     """A direction along which another amount changes, or both the old and the new one."""
     for other in layout.shape.places:
-        direction = wreck.direction_for(old_vector(layout, other))
-        if other != place and direction is not None:
+        direction = None if other == place else wreck.direction_for(old_vector(layout, other))
+        if direction is not None:
             return direction
-    old = wreck.direction_for(old_vector(layout, place))
-    new = wreck.direction_for(new_vector(layout, place))
-    if along(new_vector(layout, place), old) != 0:
-        return old
-    if along(old_vector(layout, place), new) != 0:
-        return new
-    # Along one of them the old amount changes alone, along the other one the new one.
-    return {column: old.get(column, 0) + new.get(column, 0) for column in [*old, *new]}
+    # All other amounts stand still. If the old one and the change go together alone, the new one, which is not
+    # told, goes, too; if each of them can go alone, this direction leaves the change as it is.
+    return wreck.direction_for(old_vector(layout, place))
 
 
 def along(vector, direction):

@@ -3,7 +3,7 @@
 from rowvault.asked import check_layout, check_question
 from rowvault.checks import is_name, is_whole
 from rowvault.crashes import (
-    JOURNAL, Wreck, change_vector, check_journal, check_moment, check_place, journal_answers, vectors_behind,
+    JOURNAL, Wreck, change_vector, check_moment, check_place, journal_answers, vectors_behind,
 )
 from rowvault.errors import (
     BadAmount, BadLayout, BadName, BadPlan, BadTable, BadUnit, BadVault, Gone, NoDeed, NoName, Taken, Torn, Untold,
@@ -258,7 +258,6 @@ class Vault:
         check_place(self.layout, place)
         if not is_whole(amount):
             raise BadAmount(amount)
-        check_journal(journal)
         writes = order.writes(self.layout, place, journal)
         check_moment(moment, writes)
         old = self.amount_at(place)

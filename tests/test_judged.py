@@ -108,6 +108,9 @@ class Judged(Case):
         self.assertNotEqual(RightPlan(1), WrongPlan(1))
         self.assertEqual(RightPlan(units=(1,)), RightPlan((True,)))
         self.assertEqual(WrongPlan(table=2), WrongPlan(2))
+        for paper in (RightPlan(1), WrongPlan(1)):
+            for other in [RightPlan(2), WrongPlan(2), *any_values()]:
+                self.assertNotEqual(paper, other)
 
     def test_errors_in_their_order(self):
         plan = Read("block 0", 0)
@@ -156,6 +159,9 @@ class Made(Case):
         plan = plan_for(some, units, question)
         self.assertLessEqual(size_of(plan), 60)
         self.assertTrue(judge_plan(plan, some, question))
+        # Weights of 1 and -1 want no plan of their own.
+        question = Question(more, {place: -1 if at else 1 for at, place in enumerate(more.places[:30])})
+        self.assertEqual(size_of(plan_for(some, [f"block {at}" for at in range(30)], question)), 59)
         # No plan with so few plans reads 36 answers.
         whole = Layout(more, Blocks(Every(1)))
         self.raises(TooMany("nodes", 60), plan_for, whole, whole.units, Question(more, {place: 3 for place in more}))

@@ -193,25 +193,18 @@ class Judged(Case):
         self.assertIs(shows_unsafe(more, Order("block", "bucket"), 3, Safe({})), False)
 
     def test_just_three_thousand(self):
-        # 5 places, 4 moments and 150 losses: no layout is so even, so the count is looked for.
-        found = {}
-        for keys, days, base, many in itertools.product((1, 2, 3), (1, 2, 3, 4, 5), (2, 3), (0, 1, 2, 3)):
-            shape = Shape(list("abc")[:keys], days)
-            for kinds in ([Blocks(Every(1)), Buckets(1)], [Blocks(Every(2)), Cells(base)], [Blocks(Leads()), Pages(1), Buckets(2)],
-                          [Blocks(Every(1)), Stripes(base)], [Pages(1), Cells(base), Buckets(1)]):
-                layout = Layout(shape, *kinds)
-                order = orders_for(layout)[0]
-                for journal in ("none", "both"):
-                    count = sum(1 for _ in all_cases(layout, order, many, journal)) if len(layout) < 20 else 0
-                    if 2700 < count < 3300:
-                        found[count] = (layout, order, many, journal)
-        self.assertTrue(min(found) <= 3000 < max(found))
-        for count in (max(one for one in found if one <= 3000), min(one for one in found if one > 3000)):
-            layout, order, many, journal = found[count]
-            if count > 3000:
-                self.raises(TooMany("losses", 3000), judge_order, layout, order, many, journal)
-            else:
-                self.assertIs(bool(judge_order(layout, order, many, journal)), first_unsafe(layout, order, many, journal) is None)
+        layout = Layout.read("shape a days 8\nblocks keys every 4\npages 1\ncells 2")
+        order = Order("block", "page", "cell")
+        self.assertEqual(sum(1 for _ in all_cases(layout, order, 2, "both")), 3000)
+        self.assertIs(bool(judge_order(layout, order, 2, "both")), first_unsafe(layout, order, 2, "both") is None)
+        self.assertTrue(first_safe(layout, 2, "old") is not None)
+        more = Layout.read("shape a days 8\nblocks keys every 4\npages 1\ncells 2\nbuckets 8")
+        order = order + "bucket"
+        count = sum(1 for _ in all_cases(more, order, 2, "none"))
+        self.assertTrue(3000 < count < 4000)
+        self.raises(TooMany("losses", 3000), judge_order, more, order, 2)
+        self.raises(TooMany("losses", 3000), first_safe, more, 2)
+        self.assertIs(shows_unsafe(more, order, 2, Unsafe(1, 2, 3, 4, 5)), False)
 
     def test_errors_in_their_order(self):
         good = {"layout": PLAIN, "order": RIGHT, "many": 1, "journal": "old"}
@@ -350,6 +343,39 @@ class Lookers(Case):
             tolds = {one: (*triple[:2], is_new) if one == key else triple for one, triple in paper.tolds.items()}
             self.assertIs(shows_safe(PLAIN, ~RIGHT, 1, Safe(tolds), "new"), False)
         self.assertIs(shows_safe(PLAIN, ~RIGHT, 1, Safe({**paper.tolds, "x": 1}), "new"), False)
+
+    def test_triples_that_add_up_but_are_none(self):
+        # Behind the journal alone: the parity tells both amounts, block 0 the one of a, the journal the change.
+        paper = judge_order(PLAIN, RIGHT, 1, "change")
+        self.assertTrue(paper)
+        key = (("a", 0), 1, ("block 1",), ("b", 0))
+        parity, block, lost, journal = ("parity 0 0", 0), ("block 0", 0), ("block 1", 0), ("journal", 0)
+        for triple, wanted in [
+                ((1, {parity: 1, block: -1}, False), True), ((2, {parity: 2, block: -2}, False), True), ((1, {lost: 1}, False), False),
+                ((1, {parity: 1, block: -1, journal: 1}, True), False), ((0, {}, False), False), ((-1, {parity: -1, block: 1}, False), False),
+                ((1, {parity: 1, block: -1, journal: 0}, False), False), ((True, {parity: 1, block: -1}, False), False),
+                ((1, {parity: True, block: -1}, False), False), ((1, {("parity 0 0", False): 1, block: -1}, False), False),
+                ((1, {parity: 1, block: -1}, 0), False), ([1, {parity: 1, block: -1}, False], False),
+                ((1, [(parity, 1), (block, -1)], False), False), ((1, {parity: 1, block: -1}), False)]:
+            self.assertIs(shows_safe(PLAIN, RIGHT, 1, Safe({**paper.tolds, key: triple}), "change"), wanted, triple)
+
+    def test_fewer_lost_units_than_told_of(self):
+        paper = judge_order(PLAIN, RIGHT, 1)
+        self.assertIs(shows_unsafe(PLAIN, RIGHT, 1, paper), True)
+        self.assertIs(shows_unsafe(PLAIN, RIGHT, 2, paper), True)
+        self.assertIs(shows_unsafe(PLAIN, RIGHT, 0, paper), False)
+
+    def test_equal_papers(self):
+        for kind, fields in ((Safe, 1), (Unsafe, 5), (NoSafe, 1), (Recovered, 2)):
+            values = list(range(fields))
+            self.assertEqual(kind(*values), kind(*values))
+            self.assertEqual(list(vars(kind(*values)).values()), values)
+            self.assertIs(bool(kind(*values)), kind in (Safe, Recovered))
+            for at in range(fields):
+                self.assertNotEqual(kind(*values), kind(*values[:at], 9, *values[at + 1:]))
+            for value in [Safe(0), NoSafe(0), *any_values()]:
+                if type(value) is not kind:
+                    self.assertNotEqual(kind(*values), value)
 
     def test_any_values(self):
         for value in any_values():

@@ -387,6 +387,14 @@ class Looker(Case):
         for terms in ({(page, at): 1, (at, block): -1}, {(at, at): 1, (page, page): 0}, {(at, at): True}, {(at, at): 2}):
             self.assertIs(shows_told_poly(FULL, ["page 0", "block 0"], square, ToldPoly(1, terms)), False)
         self.assertIs(shows_told_poly(FULL, ["page 0"], square, ToldPoly(1, {(at, at): 1})), False)
+        # Three products of three answers that make 0 together are too many answers all the same.
+        terms = {(at, at): 1, (at, at, page): 1, (at, at, at): -1, (at, at, block): -1}
+        self.assertIs(shows_told_poly(FULL, ["page 0", "block 0"], square, ToldPoly(1, terms)), False)
+
+    def test_equal_papers(self):
+        self.assertEqual(ToldPoly(bottom=1, terms=2), ToldPoly(1, 2))
+        for other in [ToldPoly(1, 3), ToldPoly(2, 2), *any_values()]:
+            self.assertNotEqual(ToldPoly(1, 2), other)
 
 
 if __name__ == "__main__":
