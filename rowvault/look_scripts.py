@@ -57,8 +57,8 @@ def is_shaken(vault, order, deed, many, value, journal):
     if not is_lot_of(value.lost, units) or len(value.lost) != min(int(many), len(units)):
         return False
     lost = value.lost
-    if vault.torn is not None or deed[1] not in vault:
-        # The put is refused.
+    if deed[1] not in vault:
+        # The put is refused, as it is while the vault is torn.
         return False
     vault.crash(order, deed[1], deed[2], value.moment, journal)
     vault.lose(*lost)

@@ -186,7 +186,6 @@ class Vault:
 
     def table_back(self):
         """The table that the units left tell."""
-        self.check_whole()
         return Table(self.layout.shape, {place: self.amount_at(place) for place in self.layout.shape.places})
 
     def follow(self, plan):

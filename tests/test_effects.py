@@ -189,6 +189,33 @@ class Alike(Case):
             alike = end_of(PLAIN, one, table) == end_of(PLAIN, other, table) and end_of(PLAIN, one, Table(DAY)) == end_of(PLAIN, other, Table(DAY))
             self.assertIs(bool(same_end(PLAIN, one, other)), alike, (str(one), str(other)))
 
+    def test_ends_of_which_a_journal_is_left(self):
+        chance = random.Random(5)
+        seen = {True: 0, False: 0}
+        heads = [[], ["add a 0 1"], ["put a 0 3"], ["put a 0 4"], ["add b 0 2"], ["put a 0 3", "add a 0 1"]]
+        for journal, moment in itertools.product(JOURNALS[1:], (1, 2, 3)):
+            tails = [[f"crash block parity : a 0 {amount} {moment} {journal}", "lose block 0 , block 1 , parity 0 0"] for amount in (5, 6)]
+            scripts = [Script(DAY, *head, *tail) for head in heads for tail in tails]
+            for one, other in itertools.product(scripts, scripts):
+                alike = all(end_of(PLAIN, one, table) == end_of(PLAIN, other, table) for table in some_tables(chance, DAY))
+                self.assertIs(bool(same_end(PLAIN, one, other)), alike, (str(one), str(other)))
+                seen[alike] += 1
+        self.assertGreater(min(seen.values()), 100)
+        self.assertTrue(same_end(PLAIN, Script(DAY, "put a 0 3", "crash block parity : a 0 5 1 change", "lose block 0 , block 1 , parity 0 0"),
+                                 Script(DAY, "put a 0 4", "crash block parity : a 0 6 1 change", "lose block 0 , block 1 , parity 0 0")))
+
+    def test_ends_that_hold_the_same_answers(self):
+        # Another layout, other units left, another moment of a crash: the vaults are unlike.
+        one, other = Script(TWO, "lose page 0 , page 1"), Script(TWO, "lay blocks keys every 2 ; buckets 1")
+        self.assertFalse(same_end(FULL, one, other))
+        small = Layout(Shape(["a"], 1), Blocks(Every(1)), Pages(1), Buckets(1))
+        self.assertFalse(same_end(small, Script(small.shape, "lose block 0"), Script(small.shape, "lose page 0")))
+        lines = ["crash block parity : a 0 5 1 none", "crash block parity : a 0 5 2 none"]
+        scripts = [Script(DAY, "lose parity 0 0", line) for line in lines]
+        self.assertFalse(same_end(PLAIN, *scripts))
+        for pair in ((FULL, one, other), (small, Script(small.shape, "lose block 0"), Script(small.shape, "lose page 0")), (PLAIN, *scripts)):
+            self.assertIs(shows_other_end(*pair, same_end(*pair)), True)
+
     def test_answers_of_another_number(self):
         one, other = Script(TWO, "ask -", "ask 1 a 0"), Script(TWO, "ask 1 a 0", "asked x 1 a 0")
         self.assertFalse(same_answers(FULL, one, other))
@@ -318,6 +345,11 @@ class Runs(Case):
                 self.assertIs(shows_shaken(layout, script, order, many, value, journal), wanted)
                 seen[wanted] += 1
         self.assertGreater(min(seen.values()), 40)
+        # A loss of one unit is none of two, though the run does not stand it either.
+        script = Script(DAY, "put a 0 1")
+        self.assertIs(shows_shaken(PLAIN, script, RIGHT, 1, Shaken(0, 1, ("block 1",))), True)
+        self.assertIs(shows_shaken(PLAIN, script, RIGHT, 2, Shaken(0, 1, ("block 1",))), False)
+        self.assertIs(shows_shaken(PLAIN, script, RIGHT, 2, Shaken(0, 1, ("block 1", "parity 0 0"))), True)
         for value in any_values():
             self.assertIs(shows_shaken(PLAIN, Script(DAY, "put a 0 1"), RIGHT, 1, value), False)
             self.assertIs(shows_shaken(PLAIN, Script(DAY, "put a 0 1"), RIGHT, 1, Shaken(value, value, value)), False)

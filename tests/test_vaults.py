@@ -370,8 +370,15 @@ class Equal(VaultCase):
         self.assertEqual(others[4].torn, Tear(Order("block", "parity"), ("a", 0), 0, "old"))
         lost.lose("block 0")
         self.assertIs(lost == others[4], False)
+        alone = Vault(Layout(DAY, Blocks(Every(1))))
+        fewer = Vault(PLAIN)
+        fewer.lose("parity 0 0")
+        self.assertIs(alone == fewer, False)
         for value in any_values():
             self.assertIs(one == value, False)
+            self.assertIs(Unhealed(value, 1) == value, False)
+        self.assertNotEqual(Unhealed(1, 2), Unhealed(1, 3))
+        self.assertNotEqual(Unhealed(1, 2), Unhealed(2, 2))
         self.assertEqual(Tear(1, 2, 3, 4), Tear(order=1, place=2, moment=3, journal=4))
         self.assertNotEqual(Tear(1, 2, 3, 4), Tear(1, 2, 3, 5))
 
