@@ -4,7 +4,7 @@ from rowvault.asked import bare_part, check_layout
 from rowvault.checks import is_name
 from rowvault.errors import BadBook, BadLayout, BadName, BadTable, NoName, Taken, Untold
 from rowvault.layouts import told_units
-from rowvault.prices import cheapest_of, prices_of
+from rowvault.prices import by_price, prices_of
 from rowvault.questions import Question, is_question_of, take_weights
 from rowvault.searches import matter_at_most, telling_lots
 from rowvault.shapes import Shape
@@ -60,7 +60,7 @@ class Book:
                 raise Untold(teller.paper_on(self[name]))
         prices = prices_of(units, price)
         lots = telling_lots(layout, units, list(self._questions.values()), none)
-        return cheapest_of(prices, lots, ())
+        return by_price(prices, lots)[0]
 
     def __call__(self, table):
         if not is_table_of(table, self.shape):

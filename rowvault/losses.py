@@ -7,7 +7,7 @@ from rowvault.checks import is_whole_from
 from rowvault.errors import BadCount, BadLayout, BadUnit, TooMany, Untold
 from rowvault.layouts import Layout, told_units
 from rowvault.lots import choices
-from rowvault.prices import cheapest_of, prices_of, sum_of
+from rowvault.prices import by_price, prices_of, sum_of
 from rowvault.searches import matter_at_most, telling_lots
 from rowvault.ties import Ties
 from rowvault.told import Teller
@@ -165,7 +165,7 @@ def least_help(layout, lost, unit, price):
         raise Untold(paper)
     prices = prices_of(left, price)
     none = bare_part(layout, None)
-    units = cheapest_of(prices, telling_lots(layout, left, layout[unit], none), ())
+    units = by_price(prices, telling_lots(layout, left, layout[unit], none))[0]
     teller = Teller(layout, units, none)
     tolds = {index: teller.paper_on(one) for index, one in enumerate(layout[unit])}
     return Help(units, sum_of(prices, units), tolds)
@@ -177,9 +177,8 @@ def fewest_more(layout, many, other):
     rebuilder = Rebuilder(both, both.units)
     losses = losses_of(layout.units, many)
     for lost in losses:
-        paper = rebuilder.paper_on(lost)
-        if not paper:
-            return Unbacked(lost, paper)
+        if not rebuilder.rebuilds([lost]):
+            return Unbacked(lost, rebuilder.paper_on(lost))
     more = first_backing(rebuilder, losses, other.units)
     backed = Rebuilder(both, [unit for unit in both.units if unit in layout or unit in more])
     return Backed(more, {lost: backed.paper_on(lost) for lost in losses})

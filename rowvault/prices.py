@@ -23,13 +23,16 @@ def sum_of(prices, units):
     return sum([prices[unit] for unit in units])
 
 
-def cheapest_of(prices, lots, lost):
-    """The first of the lots of the least price without lost units, or None."""
-    best, least = None, -1
+def by_price(prices, lots):
+    """The list of the lots by price; of one price, as they stand."""
+    count = len(lots)
+    places = [sum_of(prices, lot) * count + at for at, lot in enumerate(lots)]
+    return [lots[place % count] for place in sorted([int(one) for one in places])]
+
+
+def first_left(lots, lost):
+    """The first of the lots without lost units, or None."""
     for lot in lots:
-        if any([unit in lost for unit in lot]):
-            continue
-        price = sum_of(prices, lot)
-        if best is None or price < least:
-            best, least = lot, price
-    return best
+        if not any([unit in lost for unit in lot]):
+            return lot
+    return None

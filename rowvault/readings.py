@@ -5,7 +5,7 @@ from rowvault.bases import Bases
 from rowvault.checks import is_whole_from
 from rowvault.errors import BadCount, Untold
 from rowvault.lots import choices, vectors_for
-from rowvault.prices import cheapest_of, prices_of, sum_of
+from rowvault.prices import by_price, first_left, prices_of, sum_of
 from rowvault.searches import Search, Tree, counted_of
 from rowvault.spans import vector_but
 from rowvault.told import Teller
@@ -200,7 +200,7 @@ def least_reading(layout, question, price, bare=None, units=None):
     search = search_of(layout, question, bare, units)
     search.check_told()
     prices = prices_of(search.units, price)
-    return cheapest_paper(search, prices, cheapest_of(prices, all_readings(search), ()), ())
+    return cheapest_paper(search, prices, by_price(prices, all_readings(search))[0], ())
 
 
 def least_behind(layout, question, price, many):
@@ -211,10 +211,10 @@ def least_behind(layout, question, price, many):
     search = search_of(layout, question, None, None)
     search.check_told()
     prices = prices_of(search.units, price)
-    lots = all_readings(search)
+    lots = by_price(prices, all_readings(search))
     least = {}
     for lost in losses_of(search.units, many):
-        lot = cheapest_of(prices, lots, lost)
+        lot = first_left(lots, lost)
         if lot is None:
             return Cutoff(lost, search.paper_but(lost))
         least[lost] = lot

@@ -13,8 +13,8 @@ def in_lowest_terms(vector):
     common = 0
     for number in vector.values():
         common = gcd(common, number)
-    if common < 2:
-        return vector
+        if common == 1:
+            return vector
     return {column: number // common for column, number in vector.items()}
 
 
@@ -22,12 +22,18 @@ def cleared_at(column, vector, row):
     """A multiple of the vector, above 0 times, and one of the row that make 0 at a column together."""
     common = gcd(vector[column], row[column])
     times, less = row[column] // common, vector[column] // common
-    total = {}
-    for at in vector:
-        total[at] = vector[at] * times
-    for at in row:
-        total[at] = total.get(at, 0) - row[at] * less
-    return in_lowest_terms({at: number for at, number in total.items() if number != 0})
+    total = dict(vector)
+    if times != 1:
+        for at in vector:
+            total[at] = vector[at] * times
+    for at, number in row.items():
+        rest = total.get(at, 0) - number * less
+        if rest != 0:
+            total[at] = rest
+        else:
+            # Something stood there, as the row is nowhere 0.
+            del total[at]
+    return in_lowest_terms(total)
 
 
 def cleared(vector, rows):

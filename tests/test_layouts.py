@@ -69,6 +69,18 @@ class Made(Case):
         self.raises(TooMany("units", 60), Layout, wide, *kinds, Buckets(6))
         self.raises(TooMany("units", 60), lambda: Layout(wide, *kinds) + Buckets(6))
 
+    def test_units_counted_ahead(self):
+        cuts = [Every(1), Every(3), Leads(), Sizes(1, 2)]
+        for keys, days in ((1, 1), (1, 8), (2, 3), (6, 6), (5, 7), (3, 1)):
+            shape = Shape(list("abcdef")[:keys], days)
+            kinds = [Blocks(cut, order) for cut in cuts for order in ("keys", "days")]
+            kinds += [Pages(room) for room in range(1, 7)] + [Cells(base) for base in range(2, 7)] + [Buckets(width) for width in range(1, 9)]
+            for kind in kinds:
+                self.assertEqual(kind.count_on(shape, None), len(list(kind.units_on(shape))))
+            for blocks in kinds[:8]:
+                for kind in (Stripes(2), Stripes(3, 2), Stripes(6, 2)):
+                    self.assertEqual(kind.count_on(shape, blocks), len(list(kind.units_on(shape, blocks))))
+
     def test_never_changes(self):
         layout = Layout(TWO, Pages(1))
         layout + Buckets(1)
