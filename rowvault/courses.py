@@ -10,7 +10,6 @@ from rowvault.errors import BadUnit, Gone, NoDeed, NoName, Taken, Torn, Untold, 
 from rowvault.layouts import Layout
 from rowvault.orders import check_order
 from rowvault.questions import Question
-from rowvault.refusals import refusal
 from rowvault.told import Teller
 from rowvault.units import units_text
 
@@ -33,7 +32,7 @@ class Course:
         try:
             return self.done(deed)
         except VaultError as error:
-            return refusal(error)
+            return error.refusal()
 
     def done(self, deed):
         """What a deed tells; it raises as a vault does."""

@@ -9,7 +9,6 @@ from rowvault.losses import rebuilt, strength
 from rowvault.orders import Order, judge_order
 from rowvault.questions import Question
 from rowvault.readings import musts, partings, readings
-from rowvault.refusals import refusal
 from rowvault.shapes import Shape
 from rowvault.told import told
 from rowvault.units import units_text
@@ -49,7 +48,7 @@ class Desk:
         try:
             return self.answer(request)
         except VaultError as error:
-            return refusal(error)
+            return error.refusal()
 
     def answer(self, request):
         """The answer to a request."""

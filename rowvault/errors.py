@@ -4,6 +4,10 @@
 class VaultError(ValueError):
     """The base of all errors of the package."""
 
+    def refusal(self):
+        """What is told of the error in the place of an answer."""
+        return f"refused {self.__class__.__name__}"
+
 
 class BadInput(VaultError):
     """Something that was passed is wrong."""

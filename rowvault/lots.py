@@ -90,7 +90,7 @@ class Lots:
 
     def is_enough(self, mask):
         """Whether a lot is enough."""
-        return self._enough >> mask & 1 == 1
+        return (self._enough >> mask) & 1 == 1
 
     def full(self):
         """The lot of all groups."""
@@ -113,17 +113,17 @@ class Lots:
         lots = self._every & ~self._enough
         # First the lot of all other groups stands in the place of each lot.
         for bit, lacking in zip(self._bits, self._lacking):
-            lots = (lots & lacking) << bit | lots >> bit & lacking
+            lots = ((lots & lacking) << bit) | ((lots >> bit) & lacking)
             if left & bit == 0:
                 # What is lost is lacking to each lot.
-                lots = lots >> bit & lacking
+                lots = (lots >> bit) & lacking
         return self.least_of(lots)
 
     def least_of(self, lots):
         """The list of the lots that hold no smaller one of the lots, in order; each that holds one is among them."""
         greater = 0
         for bit, lacking in zip(self._bits, self._lacking):
-            greater = greater | (lots & lacking) << bit
+            greater = greater | ((lots & lacking) << bit)
         return self.in_order(lots & ~greater)
 
     def in_order(self, lots):
@@ -132,6 +132,6 @@ class Lots:
         found = []
         while lots != 0:
             mask = lots.bit_length() - 1
-            lots = lots ^ 1 << mask
+            lots = lots ^ (1 << mask)
             found.append(len(self.indexes_of(mask)) * size + size - 1 - mask)
         return [size - 1 - place % size for place in sorted([int(one) for one in found])]

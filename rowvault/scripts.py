@@ -4,7 +4,6 @@ from rowvault.checks import is_whole_from
 from rowvault.deeds import deed_of
 from rowvault.errors import BadCount, BadText, BadVault, VaultError
 from rowvault.layouts import Layout
-from rowvault.refusals import refusal
 from rowvault.shapes import Shape
 from rowvault.units import units_text
 from rowvault.vaults import Vault
@@ -85,7 +84,7 @@ def outcome(vault, deed):
     try:
         return done(vault, deed)
     except VaultError as error:
-        return refusal(error)
+        return error.refusal()
 
 
 def done(vault, deed):

@@ -16,7 +16,7 @@ from rowvault.plans import Plan, check_reads, worked_out_by
 from rowvault.questions import Question
 from rowvault.storms import pair_along
 from rowvault.tables import Table, is_table_of
-from rowvault.trials import Trial
+from rowvault.trials import Kept
 
 
 class Tear:
@@ -61,6 +61,8 @@ class Vault:
         self._words = ()
         self._tables = {}
         self._tear = None
+        # What trials that are not over keep.
+        self._kept = None
         self.layout = layout
         self._held = answers_for(layout, Table(layout.shape) if table is None else table)
         self._teller = teller_of(layout, self._held)
@@ -124,8 +126,22 @@ class Vault:
         self.hold(self.layout, held)
 
     def trial(self):
-        """A block behind which the vault is as it was when it was entered."""
-        return Trial(self)
+        """A block behind which the vault is as it was when it was entered: the vault itself leads it."""
+        return self
+
+    def __enter__(self):
+        self._kept = Kept(self, self._kept)
+        return self
+
+    def __exit__(self, kind, value, trace):
+        self.layout = self._kept.layout
+        self._held = self._kept.held
+        self._teller = self._kept.teller
+        self._log = self._kept.log
+        self._words = self._kept.words
+        self._tables = self._kept.tables
+        self._tear = self._kept.tear
+        self._kept = self._kept.outer
 
     def tried(self, work):
         """What work returns of the vault, which is as it was behind it."""

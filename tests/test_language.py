@@ -30,7 +30,7 @@ quit setattr super type vars sys""".split()
 WORDS = r"\b(type|typing|typing_extensions|enum|Enum|IntEnum|StrEnum|Flag|IntFlag|Generic|Protocol|ABC|ABCMeta|" \
     r"namedtuple|NamedTuple|TypedDict|TYPE_CHECKING|abstractmethod)\b|dataclass|overload|contextmanager|_wall|Meta|%"
 # The classes whose objects change behind their making.
-CHANGING = ["Bases", "Tree", "Storm", "TellingAll", "Trial", "Vault", "Course", "Desk"]
+CHANGING = ["Bases", "Tree", "Storm", "TellingAll", "Vault", "Course", "Desk"]
 MODIFIERS = ["append", "clear", "extend", "insert", "pop", "remove", "reverse", "setdefault", "update", "sort"]
 
 
@@ -182,7 +182,7 @@ class Names(unittest.TestCase):
                 if isinstance(node, (ast.Name, ast.Attribute)):
                     name = node.id if isinstance(node, ast.Name) else node.attr
                     self.assertIsNone(re.search(WORDS, name), (module, name))
-                    self.assertFalse(name.startswith("__") and module != "refusals", (module, name))
+                    self.assertFalse(name.startswith("__") and module != "errors", (module, name))
 
     def test_methods_attributes_and_generators(self):
         generators = {node.name for _, node in FUNCTIONS if is_generator(node)}
