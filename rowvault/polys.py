@@ -72,6 +72,12 @@ class Poly:
     def __sub__(self, other):
         return Poly(self.shape, added(self.terms, terms_for(self.shape, other), -1))
 
+    def __radd__(self, other):
+        return Poly(self.shape, added(terms_for(self.shape, other), self.terms, 1))
+
+    def __rsub__(self, other):
+        return Poly(self.shape, added(terms_for(self.shape, other), self.terms, -1))
+
     def __neg__(self):
         return Poly(self.shape, {product: -number for product, number in self.terms.items()})
 

@@ -123,6 +123,7 @@ class Operators(Case):
             a, b = value_of(left, table), value_of(right, table)
             self.same([(one + other)(table), (one - other)(table), (-one)(table)], [a + b, a - b, -a])
             self.same([(one + number)(table), (one - number)(table)], [a + number, a - number])
+            self.same([(number + one)(table), (number - one)(table)], [number + a, number - a])
             self.same([(one * number)(table), (number * one)(table)], [a * number, a * number])
             if one.terms and other.terms and one.degree + other.degree > 2:
                 self.raises(TooMany("degree", 2), lambda: one * other)
@@ -153,7 +154,8 @@ class Operators(Case):
             for call in (lambda: poly + value, lambda: poly - value, lambda: poly * value):
                 self.raises(BadPoly("other"), call)
         for value in (None, True, "x", 1.5, (1,)):
-            self.raises(BadPoly("other"), lambda: value * poly)
+            for call in (lambda: value * poly, lambda: value + poly, lambda: value - poly):
+                self.raises(BadPoly("other"), call)
         self.assertEqual(poly, Poly(TWO, {(("a", 0),): 1}))
 
 
