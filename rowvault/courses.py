@@ -6,16 +6,17 @@ An answer is a pair of a question for the first table and a number that is added
 
 from rowvault.asked import bare_part
 from rowvault.crashes import JOURNAL, Wreck, change_vector, check_moment, new_vector, vectors_behind
-from rowvault.errors import BadUnit, Gone, NoDeed, NoName, Taken, Torn, Untold, VaultError
-from rowvault.layouts import Layout
+from rowvault.errors import BadUnit, Gone, NoDeed, NoName, Taken, Torn, Untold
 from rowvault.orders import check_order
 from rowvault.questions import Question
 from rowvault.told import Teller
-from rowvault.units import units_text
 
 
 class Course:
-    """What is known of a vault without its table: its units left, its amounts, marks, log and tear."""
+    """What is known of a vault without its table: its units left, its amounts, marks, log and tear.
+
+    It does what a vault does, by the same names, and raises the same errors, but for their papers.
+    """
 
     def __init__(self, layout):
         self.layout = layout
@@ -26,51 +27,6 @@ class Course:
         # For each change of the log its word, its place, and the amount ahead of it.
         self._log = ()
         self._teller = None
-
-    def outcome(self, deed):
-        """What a deed tells, as play does it; an answer in the place of an integer."""
-        try:
-            return self.done(deed)
-        except VaultError as error:
-            return error.refusal()
-
-    def done(self, deed):
-        """What a deed tells; it raises as a vault does."""
-        word = deed[0]
-        if word in ("recover", "heal"):
-            return self.recover() if word == "recover" else self.heal()
-        if word == "undo":
-            return self.undo()
-        if word == "back":
-            return self.bring_back()
-        if word == "ask":
-            self.check_told([deed[1]])
-            return self.answer_on(deed[1], self.amounts)
-        if word == "asked":
-            return self.ask_at(deed[1], deed[2])
-        self.do_quietly(deed)
-        return "done"
-
-    def do_quietly(self, deed):
-        """A deed that tells nothing."""
-        word = deed[0]
-        if word == "put":
-            self.check_told([self.question_at(deed[1])])
-            self.write("put", deed[1], (False, deed[2]))
-        elif word == "add":
-            self.check_whole()
-            kept, number = self.amounts[deed[1]]
-            self.write("add", deed[1], (kept, number + deed[2]))
-        elif word == "lose":
-            self.lose(deed[1])
-        elif word == "bring":
-            self.bring(deed[1])
-        elif word == "mark":
-            self.mark(deed[1])
-        elif word == "lay":
-            self.lay(deed[1])
-        else:
-            self.crash(deed[1], deed[2], deed[3], deed[4], deed[5])
 
     def question_at(self, place):
         """The amount of a place, as a question."""
@@ -112,7 +68,13 @@ class Course:
         self.left = tuple([unit for unit in (JOURNAL, *layout.units) if unit in units])
         self._teller = None
 
-    def lose(self, units):
+    def add(self, place, change):
+        """Let the amount of a place grow by a change."""
+        self.check_whole()
+        kept, number = self.amounts[place]
+        self.write("add", place, (kept, number + change))
+
+    def lose(self, *units):
         """Let some units get lost."""
         for unit in units:
             if unit not in self.layout and not (unit == JOURNAL and JOURNAL in self.written()):
@@ -129,13 +91,18 @@ class Course:
         self.keep(self.layout, [*self.left, unit])
 
     def bring_back(self):
-        """Let all lost units that are told be left again; the text of them."""
+        """Let all lost units that are told be left again; the tuple of them."""
         self.check_whole()
         teller = self.telling()
         lost = [unit for unit in self.layout.units if unit not in self.left]
         told = [unit for unit in lost if all([teller.tells(one) for one in self.layout[unit]])]
         self.keep(self.layout, [*self.left, *told])
-        return units_text(told)
+        return tuple(told)
+
+    def ask(self, question):
+        """The answer that the units left tell."""
+        self.check_told([question])
+        return self.answer_on(question, self.amounts)
 
     def mark(self, name):
         """Keep the amounts under a name."""
@@ -161,9 +128,8 @@ class Course:
         self.amounts = {**self.amounts, place: amount}
         return word
 
-    def lay(self, kinds):
-        """Let the vault have the layout of these kinds."""
-        layout = Layout(self.layout.shape, *kinds)
+    def exchange(self, layout):
+        """Let the vault have another layout."""
         self.check_told([question for key, question in layout.answers()])
         self.keep(layout, layout.units)
 
@@ -222,6 +188,10 @@ class Course:
         if not is_told:
             self._log = ()
         return "new"
+
+    def __setitem__(self, at, worth):
+        self.check_told([self.question_at(at)])
+        self.write("put", at, (False, worth))
 
     def answers_left(self):
         """The list of the answers of all that is left."""

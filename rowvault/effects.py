@@ -6,7 +6,7 @@ from rowvault.courses import Course
 from rowvault.crashes import check_journal
 from rowvault.errors import BadCount, BadVault, TooMany
 from rowvault.orders import check_order
-from rowvault.scripts import is_script_of
+from rowvault.scripts import is_script_of, outcome
 from rowvault.storms import Storm, lots_count, units_at
 from rowvault.tables import Table
 
@@ -196,7 +196,7 @@ def check_steady(layout, script, order, many, journal):
 def run_of(layout, deeds):
     """The course behind some deeds, and the list of their outcomes."""
     course = Course(layout)
-    return course, [course.outcome(deed) for deed in deeds]
+    return course, [outcome(course, deed) for deed in deeds]
 
 
 def answers_in(outcomes):
@@ -235,7 +235,7 @@ def puts_of(layout, script, order):
     puts = []
     for line, deed in enumerate(script.deeds):
         here, left = course.layout, course.left
-        if course.outcome(deed) == "done" and deed[0] == "put":
+        if outcome(course, deed) == "done" and deed[0] == "put":
             puts.append((line, deed[1], here, left))
         if not order.fits(course.layout):
             break

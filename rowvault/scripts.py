@@ -80,7 +80,7 @@ def play(script, vault):
 
 
 def outcome(vault, deed):
-    """The outcome of a deed on a vault."""
+    """The outcome of a deed on a vault, or on a course, which does what a vault does."""
     try:
         return done(vault, deed)
     except VaultError as error:
