@@ -47,7 +47,7 @@ class Book:
         check_layout_of(layout, self.shape)
         some = told_units(layout, units)
         teller = Teller(layout, some, bare_part(layout, bare))
-        return tuple([name for name in self._questions if teller.tells(self[name])])
+        return tuple([name for name in self._questions if teller.can_tell(self[name])])
 
     def least_units(self, layout, price, bare=None):
         """The cheapest lot of units that tells all questions, the first one of several."""
@@ -56,7 +56,7 @@ class Book:
         units = matter_at_most(layout, layout.units, none)
         teller = Teller(layout, layout.units, none)
         for name in self._questions:
-            if not teller.tells(self[name]):
+            if not teller.can_tell(self[name]):
                 raise Untold(teller.paper_on(self[name]))
         prices = prices_of(units, price)
         lots = telling_lots(layout, units, list(self._questions.values()), none)

@@ -48,7 +48,7 @@ class Course:
         """Raise Torn, or Untold unless the units left tell all questions."""
         self.check_whole()
         teller = self.telling()
-        if not all([teller.tells(question) for question in questions]):
+        if not all([teller.can_tell(question) for question in questions]):
             raise Untold(None)
 
     def answer_on(self, question, amounts):
@@ -95,7 +95,7 @@ class Course:
         self.check_whole()
         teller = self.telling()
         lost = [unit for unit in self.layout.units if unit not in self.left]
-        told = [unit for unit in lost if all([teller.tells(one) for one in self.layout[unit]])]
+        told = [unit for unit in lost if all([teller.can_tell(one) for one in self.layout[unit]])]
         self.keep(self.layout, [*self.left, *told])
         return tuple(told)
 
@@ -161,8 +161,8 @@ class Course:
         wreck = self.wreck()
         if not wreck.tells_all():
             raise Torn()
-        is_new = wreck.tells(new_vector(self.layout, self.tear[1]))
-        is_told = wreck.tells(change_vector(self.layout))
+        is_new = wreck.can_tell(new_vector(self.layout, self.tear[1]))
+        is_told = wreck.can_tell(change_vector(self.layout))
         self.keep(self.layout, self.layout.units)
         return self.mended(is_new, is_told)
 
@@ -172,7 +172,7 @@ class Course:
             raise NoDeed()
         touched = [unit for unit in self.layout.touched_by(self.tear[1]) if unit in self.left]
         open_units = [unit for unit in touched if unit not in self.written()]
-        is_told = self.wreck().tells(change_vector(self.layout))
+        is_told = self.wreck().can_tell(change_vector(self.layout))
         if not is_told and open_units != touched and open_units != []:
             raise Untold(None)
         self.keep(self.layout, [unit for unit in self.left if unit != JOURNAL])

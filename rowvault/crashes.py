@@ -107,16 +107,17 @@ class Wreck:
         keys = self._answer_keys
         return sum([weight * answers[keys[at][0]][keys[at][1]] for at, weight in weights.items()]) // bottom
 
-    def tells(self, vector):
+    def can_tell(self, vector):
         """Whether the units tell a vector."""
-        return self._weigher.tells(vector)
+        return self._weigher.can_tell(vector)
 
     def tells_all(self):
         """Whether the units tell all other amounts, and at the place the old or the new one."""
         others = [old_vector(self._layout, place) for place in self._layout.shape.places if place != self._place]
-        if not all([self.tells(vector) for vector in others]):
+        if not all([self.can_tell(vector) for vector in others]):
             return False
-        return self.tells(old_vector(self._layout, self._place)) or self.tells(new_vector(self._layout, self._place))
+        old = old_vector(self._layout, self._place)
+        return self.can_tell(old) or self.can_tell(new_vector(self._layout, self._place))
 
     def direction_for(self, vector):
         """A direction, a dict from columns, along which the units stand still and the vector does not."""

@@ -26,7 +26,7 @@ def shows_other_answers(layout, one, other, value):
     check_two(layout, one, other)
     if not isinstance(value, OtherAnswers) or not is_table_of(value.table, layout.shape):
         return False
-    return answers_for(layout, one, value.table) != answers_for(layout, other, value.table)
+    return played_answers(layout, one, value.table) != played_answers(layout, other, value.table)
 
 
 def shows_shaken(layout, script, order, many, value, journal="none"):
@@ -43,7 +43,7 @@ def shows_shaken(layout, script, order, many, value, journal="none"):
     return deed[0] == "put" and is_shaken(vault, order, deed, many, value, journal)
 
 
-def answers_for(layout, script, table):
+def played_answers(layout, script, table):
     """The list of the answers of a script that is played on a vault with a table."""
     return [one for one in play(script, Vault(layout, table)) if is_whole(one)]
 

@@ -128,7 +128,7 @@ def rebuilt(layout, lost):
     """A Rebuilt of the loss, or a Lacking."""
     check_layout(layout)
     gone = told_units(layout, lost)
-    return Rebuilder(layout, layout.units).paper_on(gone)
+    return Rebuilder(layout, layout.units).loss_paper(gone)
 
 
 def covers(layout, many):
@@ -160,7 +160,7 @@ def least_help(layout, lost, unit, price):
     """A Help of a lost unit."""
     left = helpers_of(layout, lost, unit)
     rebuilder = Rebuilder(layout, [other for other in layout.units if other in left or other == unit])
-    paper = rebuilder.paper_on([unit])
+    paper = rebuilder.loss_paper([unit])
     if not paper:
         raise Untold(paper)
     prices = prices_of(left, price)
@@ -178,10 +178,10 @@ def fewest_more(layout, many, other):
     losses = losses_of(layout.units, many)
     for lost in losses:
         if not rebuilder.rebuilds([lost]):
-            return Unbacked(lost, rebuilder.paper_on(lost))
+            return Unbacked(lost, rebuilder.loss_paper(lost))
     more = first_backing(rebuilder, losses, other.units)
     backed = Rebuilder(both, [unit for unit in both.units if unit in layout or unit in more])
-    return Backed(more, {lost: backed.paper_on(lost) for lost in losses})
+    return Backed(more, {lost: backed.loss_paper(lost) for lost in losses})
 
 
 class Rebuilder:
@@ -200,7 +200,7 @@ class Rebuilder:
                 return False
         return True
 
-    def paper_on(self, lost):
+    def loss_paper(self, lost):
         """A Rebuilt of the loss of some units in order, or a Lacking."""
         tolds = self._found.tolds_of(lost)
         for unit in lost:
@@ -243,7 +243,7 @@ def covers_of(rebuilder, losses):
     """The Covers of some losses, or an Uncovered of the first one that is not rebuilt."""
     rebuilts = {}
     for lost in losses:
-        paper = rebuilder.paper_on(lost)
+        paper = rebuilder.loss_paper(lost)
         if not paper:
             return Uncovered(lost, paper)
         rebuilts[lost] = paper

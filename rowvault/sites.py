@@ -239,7 +239,7 @@ def spread(layout, many, lost):
     weak = list(weak_lots(layout))
     way = first_way(layout.units, many, lost, weak)
     if way is None:
-        return NoSpread({lot: rebuilder.paper_on(lot) for lot in weak})
+        return NoSpread({lot: rebuilder.loss_paper(lot) for lot in weak})
     lots = lots_by(way, layout.units, many)
     sites = Sites(layout, *lots)
     return Spread(sites, bears_by(rebuilder, sites, lost))
@@ -292,7 +292,7 @@ def bears_by(rebuilder, sites, many):
     """The Bears of all losses of so many sites, or a Fails."""
     rebuilts = {}
     for numbers in choices(len(sites.lots), many):
-        paper = rebuilder.paper_on(sites.units_at(numbers))
+        paper = rebuilder.loss_paper(sites.units_at(numbers))
         if not paper:
             return Fails(numbers, paper)
         rebuilts[numbers] = paper

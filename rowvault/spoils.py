@@ -190,7 +190,7 @@ def righted(layout, answers, many):
     cases = {}
     for lot in lots:
         broken = found.broken_by(lot, values)
-        cases[lot] = rebuilder.paper_on(lot) if broken is None else Broken(broken)
+        cases[lot] = rebuilder.loss_paper(lot) if broken is None else Broken(broken)
         if broken is not None:
             continue
         # The answers without this lot break no relation, so a table stands behind them.

@@ -21,7 +21,7 @@ class Squares:
         """A direction along which the sum changes, but no given vector does; None if there is none."""
         sides = list(self._sides.values())
         for vector in [self._line, *sides]:
-            if not self._weigher.tells(vector):
+            if not self._weigher.can_tell(vector):
                 return self._weigher.direction_for(vector)
         return None
 

@@ -43,9 +43,9 @@ class Teller:
         self._answer_keys = [key for key, answer in pairs]
         self._weigher = Weigher([vector_but(answer, bare) for key, answer in pairs], len(layout.shape))
 
-    def tells(self, question):
+    def can_tell(self, question):
         """Whether the units tell a question."""
-        return self._weigher.tells(vector_but(question, self._blank))
+        return self._weigher.can_tell(vector_but(question, self._blank))
 
     def paper_on(self, question):
         """A Told of a question, or a Parted."""

@@ -224,7 +224,7 @@ class Vault:
     def bring_back(self):
         """Bring all lost units that can be; the tuple of them."""
         self.check_whole()
-        told = [unit for unit in self.units_lost if all([self._teller.tells(one) for one in self.layout[unit]])]
+        told = [unit for unit in self.units_lost if all([self._teller.can_tell(one) for one in self.layout[unit]])]
         self.hold(self.layout, {**self._held, **{unit: self.answers_told(self.layout[unit]) for unit in told}})
         return tuple(told)
 
@@ -345,7 +345,7 @@ class Vault:
     def __contains__(self, x):
         if x not in self.layout.shape or self._tear is not None:
             return False
-        return self._teller.tells(Question(self.layout.shape, {x: 1}))
+        return self._teller.can_tell(Question(self.layout.shape, {x: 1}))
 
     def __getitem__(self, at):
         check_place(self.layout, at)

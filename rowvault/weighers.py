@@ -12,7 +12,7 @@ class Weigher:
         self._width = width
         self._own = width + len(vectors)
 
-    def tells(self, vector):
+    def can_tell(self, vector):
         """Whether some multiple of a vector is a sum of multiples of the given ones."""
         return lead_of(cleared(vector, self._made), self._width) < 0
 

@@ -38,7 +38,19 @@ class Package(unittest.TestCase):
         self.assertEqual(list(graph.faults()), [])
         names = {function.name for _, function in graph.run()}
         self.assertTrue({"__init__", "rank", "cleared_at", "units_text", "check_other", "extent", "bare"} <= names)
+        self.assertTrue({"worked_out", "can_tell", "amount_at", "paper_on", "answer_for"} <= names)
         self.assertGreater(len(names), 60)
+
+    def test_names_that_operators_call_stand_for_nothing_that_changes(self):
+        # With the names that these functions had once, the look finds them, in whatever file they are.
+        for module, name, once in (("look_scripts", "played_answers", "answers_for"), ("losses", "loss_paper", "paper_on"),
+                                   ("layouts", "answers", "answer_for"), ("vaults", "hold", "worked_out"),
+                                   ("alike", "tells", "can_tell")):
+            trees = package()
+            for node in ast.walk(trees[module]):
+                if isinstance(node, ast.FunctionDef) and node.name == name:
+                    node.name = once
+            self.assertNotEqual(list(Graph(trees).faults()), [], (module, name))
 
 
 class Found(unittest.TestCase):
@@ -74,7 +86,64 @@ class Found(unittest.TestCase):
         for row, faults in (("    x.few = 1", 1), ("    x[0] = 1", 1), ("    y = []\n    y[0] = 1\n    y.append(2)", 0),
                             ("    y = {k: 1 for k in x}\n    y[0] = 1", 1), ("    x.append(1)", 1), ("    x += 1", 1),
                             ("    y = [k for k in x]\n    y.pop()", 0), ("    y = x\n    y.pop()", 1), ("    del x[0]", 1),
-                            ("    y = list(x)\n    y = x\n    y[0] = 1", 1)):
+                            ("    y = list(x)\n    y = x\n    y[0] = 1", 1), ("    y = []\n    y.sort()", 1),
+                            ("    y = []\n    heappush(y, 1)", 0), ("    heappush(x, 1)", 1), ("    with x:\n        pass", 1),
+                            ("    y = []\n    for y in x:\n        y.pop()", 1), ("    y = [1]\n    x, y = y, x\n    y.pop()", 1),
+                            ("    y = set(x)\n    y.add(1)", 1), ("    y = x | x\n    y[0] = 1", 1),
+                            ("    if y := x:\n        y.pop()", 1), ("    y = [1]\n    del y[0]", 0)):
+            self.assertEqual(len(list(graph_of(text.format(row)).faults())), faults, row)
+
+    def test_names_stand_for_all_of_that_name(self):
+        root = "class A:\n    def {}:\n        return {}\n"
+        plain = "def helper(x):\n    return x\n"
+        changing = "def helper(x):\n    x.few = 1\n    return x\n"
+        method = "class B:\n    def helper(self):\n        self.few = 1\n"
+        nested = "def other(x):\n    def helper(y):\n        x.append(y)\n    return helper(x)\n"
+        steps = "def helper(x):\n    yield x\n"
+        maker = "class helper:\n    def __init__(self, x):\n        x.few = 1\n"
+        below = "class B:\n    def __init__(self, x):\n        x.few = 1\n\n\nclass helper(B):\n    pass\n"
+        for text, faults in ((plain, 0), (changing, 1), (method, 1), (nested, 1), (steps, 1), (maker, 1), (below, 1)):
+            for row, many in (("helper(1)", 1), ("self.row.helper()", 1), ("list(helper(1))", 1), ("self.few", 0),
+                              ("[row.helper() for row in self.rows]", 1), ("sorted(self.rows, key=self.helper)", 1)):
+                for head in ("__add__(self, other)", "__len__(self)", "__bool__(self)"):
+                    # What the file of the operator imports, or has itself, does not matter.
+                    for ahead in ("", "from rowvault.part2 import helper\n", plain):
+                        graph = graph_of(ahead + root.format(head, row), text, plain)
+                        found = faults * many
+                        if "key=" in row and text in (steps, maker, below):
+                            # A generator is no key, and a class no method.
+                            found = 0
+                        self.assertEqual(len(list(graph.faults())), found, (text, row, ahead))
+            graph = graph_of(root.format("plain(self)", "helper(1)"), text)
+            self.assertEqual(list(graph.faults()), [])
+
+    def test_names_that_are_handed_on_or_changed(self):
+        root = "{}class A:\n    def __len__(self):\n        return {}\n"
+        changing = "def helper(x):\n    x.few = 1\n    return x\n"
+        for row, faults in (("len(sorted(self.rows, key=helper))", 1), ("len(list(map(helper, self.rows)))", 1),
+                            ("len(helper)", 1), ("len(self.rows)", 0), ("len([1 for helper in self.rows])", 0)):
+            self.assertEqual(len(list(graph_of(root.format("", row), changing).faults())), faults, row)
+        ahead = "from rowvault.part1 import helper as other\n"
+        self.assertEqual(len(list(graph_of(root.format(ahead, "other(1)"), changing).faults())), 1)
+        self.assertEqual(len(list(graph_of(root.format("", "other(1)"), changing).faults())), 0)
+
+    def test_paths_that_go_through_other_names(self):
+        root = "class A:\n    def __getitem__(self, at):\n        return first(at)\n"
+        first = "def first(x):\n    return x.second()\n"
+        second = "class B:\n    def second(self):\n        return [one for one in C(self).rows]\n"
+        third = "class C:\n    def __init__(self, x):\n        self.rows = list(x.steps(1))\n"
+        for last, faults in (("def steps(x):\n    yield x\n", 1), ("def steps(x):\n    return [x]\n", 0),
+                             ("class D:\n    def steps(self, x):\n        yield from x\n", 1)):
+            graph = graph_of(root, first, second, third, last)
+            self.assertEqual([module for module, _, _ in graph.faults()], ["part3"] * faults, last)
+        graph = graph_of(root, first, third, "def steps(x):\n    yield x\n")
+        self.assertEqual(list(graph.faults()), [])
+
+    def test_values_that_are_held(self):
+        text = ("class A:\n    MOST = 1\n    def __init__(self):\n        self.row = 1\n    @property\n    def many(self):\n"
+                "        return 1\n    def told(self):\n        return 1\n    def __abs__(self):\n        return {}\n")
+        for row, faults in (("self.MOST(1)", 1), ("self.row(1)", 1), ("self.many(1)", 1), ("self.told()", 0),
+                            ("(lambda x: x)(1)", 1), ("[f(1) for f in self]", 1), ("len(self)", 0)):
             self.assertEqual(len(list(graph_of(text.format(row)).faults())), faults, row)
 
     def test_methods_and_classes(self):
